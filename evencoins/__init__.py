@@ -1,0 +1,1 @@
+"""Evencoins: computing among houses that look and lie."""

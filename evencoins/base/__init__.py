@@ -1,0 +1,1 @@
+"""Numbers of a field, polys and tables of them."""

@@ -1,0 +1,1 @@
+"""Words near polys, and sharings by one letter or two."""

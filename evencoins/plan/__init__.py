@@ -1,0 +1,1 @@
+"""What is to be worked out: circuits."""
