@@ -131,8 +131,9 @@ class Case(unittest.TestCase):
         self.assertIs(found, False, note)
 
     def raises(self, error, kept, function, *arguments):
-        """The call raises just this error, which keeps just this value, if it keeps one."""
-        note = f"{function.__name__}{arguments!r}"[:2000]
+        """The call raises just this error, which keeps just this value, if it keeps one, and changes nothing."""
+        before = repr(arguments)
+        note = f"{function.__name__}{before}"[:2000]
         try:
             function(*arguments)
         except Exception as caught:
@@ -147,6 +148,7 @@ class Case(unittest.TestCase):
                 self.assertEqual(caught.reason, kept, note)
         else:
             self.fail(note + " raised nothing")
+        self.assertEqual(repr(arguments), before)
 
     def refuses(self, function, good, wrong, then=()):
         """Wrong arguments alone and by two; the errors of `then` only if no argument is wrong.
@@ -175,9 +177,11 @@ class Case(unittest.TestCase):
             self.raises(error, one, function, *replaced(good, {index: one, later: other}))
 
     def judges(self, function, arguments, others=ODD):
-        """Odd values are judged, and none of them is right."""
+        """Odd values are judged, none of them is right, and none is changed."""
         for odd in others:
+            before = repr(odd)
             self.is_false(function(*arguments, odd), (function.__name__, arguments, odd))
+            self.assertEqual(repr(odd), before)
 
     def accepts(self, function, arguments, paper):
         """The paper is right, and nothing that only looks like it."""

@@ -143,7 +143,7 @@ class VectorsTest(Case):
         self.assertEqual(len(vectors_with(313, (0, 0), 0)), 313 ** 2)
         self.assertEqual(len(vectors_with(5, (1, 2, 3, 4, 1, 0, 2), 3)), 5 ** 6)
         self.assertEqual(vectors_with(997, (2,), 5), ((501,),))
-        for p, weights, goal in ((317, (0, 2), 6), (317, (0, 0), 6), (5, (1,) * 8, 0), (997, (0,) * 60, 1)):
+        for p, weights, goal in ((317, (0, 2), 6), (317, (0, 0), 6), (5, (1,) * 8, 0), (7, (0,) * 6, 1)):
             self.raises(TooMany, 100000, vectors_with, p, weights, goal)
 
     def test_moved(self):
@@ -213,7 +213,7 @@ class RefusalsTest(Case):
         self.raises(InvalidNumber, LONG, power_sum, 5, LONG)
 
     def test_vectors(self):
-        long = (1,) * 8
+        long = (1,) * 6
         self.refuses(
             weighted, (7, (1, 2), (3, 4)), (FIELD, VECTOR, VECTOR),
             [(InvalidOperation, None, (7, (1, 2), (1,))), (InvalidOperation, None, (7, (), (1,))),
@@ -233,4 +233,3 @@ class RefusalsTest(Case):
             self.raises(InvalidTable, None, vectors_with, 5, vector, 1)
             self.raises(InvalidTable, None, moved, 5, vector, vector, 1)
             self.raises(InvalidTable, None, moved, 5, vector[1:], vector, 1)
-            self.raises(TooMany, 100000, vectors_with, 5, vector[1:], 1)
