@@ -3,12 +3,15 @@
 import unittest
 from itertools import product
 
-from evencoins.errors import InvalidNumber, Refused, TooMany
+from evencoins.errors import InvalidNumber, Refused, TooMany, UnknownName
 from evencoins.plan.circuits import Circuit
+from evencoins.talk.halls import Hall
 
 LONG = 10 ** 60
 LONGEST = 10 ** 100 - 1
 CIRCUIT = Circuit((("input", 1),), ((0, (1,)),))
+SMALL, LARGE = Hall(7, 3, 1, "look"), Hall(7, 5, 1, "lie")
+PRODUCT = Circuit((("input", 1), ("input", 2), ("product", 0, 1)), ((2, (1, 3)),))
 
 
 def nested(kind, depth):
@@ -31,6 +34,20 @@ ODD = (
 WRONG_FIELDS = (
     3, 4, 1000, 1009, True, None, "7", LONG, 6, 9, 15, 25, 49, 91, 121, 529, 841, 899, 961, 989, 996, 998, 999, 2, 1, 0,
     -5, -7, False, (7,), [7], {7: 7}, LONGEST, -LONG, CIRCUIT, nested(tuple, 8),
+)
+
+
+WRONG_HALLS = (
+    None, True, False, 7, "look", "lie", (), (7, 3, 1, "look"), [7, 3, 1, "look"], {"field": 7}, CIRCUIT, LONGEST,
+    (SMALL,), [LARGE], nested(dict, 5),
+)
+WRONG_LIE_HALLS = WRONG_HALLS + (SMALL, Hall(11, 9, 4, "look"))
+# No circuits for a hall with the field 7 and less than nine houses.
+WRONG_CIRCUITS = (
+    None, True, 7, "circuit", (), PRODUCT.gates, (PRODUCT.gates, PRODUCT.outputs), [PRODUCT], {}, SMALL, (PRODUCT,),
+    Circuit((("input", 9),), ((0, (1,)),)), Circuit((("input", 1),), ((0, (1, 9)),)),
+    Circuit((("constant", 7),), ((0, (1,)),)), Circuit((("input", 1), ("times", 0, 7)), ((0, (1,)),)),
+    Circuit((("input", 1), ("input", 9)), ((0, (1,)),)), Circuit((("constant", 996), ("constant", 1)), ((1, (1,)),)),
 )
 
 
@@ -130,6 +147,14 @@ class Case(unittest.TestCase):
     def is_false(self, found, note=None):
         self.assertIs(found, False, note)
 
+    def same(self, right, function, *arguments):
+        """The call gives just this, and changes no argument."""
+        before = repr(arguments)
+        found = function(*arguments)
+        self.assertEqual(found, right, f"{function.__name__}{before}"[:2000])
+        self.assertEqual(repr(found), repr(right))
+        self.assertEqual(repr(arguments), before)
+
     def raises(self, error, kept, function, *arguments):
         """The call raises just this error, which keeps just this value, if it keeps one, and changes nothing."""
         before = repr(arguments)
@@ -146,6 +171,8 @@ class Case(unittest.TestCase):
                 self.assertEqual(caught.limit, kept, note)
             elif error is Refused:
                 self.assertEqual(caught.reason, kept, note)
+            elif error is UnknownName:
+                self.assertIs(caught.wanted, kept, note)
         else:
             self.fail(note + " raised nothing")
         self.assertEqual(repr(arguments), before)
@@ -188,6 +215,14 @@ class Case(unittest.TestCase):
         self.is_true(function(*arguments, paper), (function.__name__, arguments, paper))
         for other in swapped(paper):
             self.is_false(function(*arguments, other), (function.__name__, arguments, other))
+
+
+def keyed(function, many, *names):
+    """The function, with all arguments behind so many passed by these keywords."""
+    def call(*arguments):
+        return function(*arguments[:many], **dict(zip(names, arguments[many:])))
+    call.__name__ = function.__name__
+    return call
 
 
 def replaced(arguments, changes):

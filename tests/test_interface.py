@@ -14,6 +14,15 @@ CONSTANTS = {
     "evencoins.plan.circuits": {
         "MAX_GATES": 60, "MAX_PRODUCTS": 12, "MAX_INPUTS": 8, "MAX_OUTPUTS": 6, "MAX_TERMS": 2000,
     },
+    "evencoins.plan.programs": {
+        "MAX_STATEMENTS": 40, "MAX_DONE": 200, "MAX_POWER": 60, "MAX_PAIRS": 12, "MAX_DEEP": 6,
+    },
+    "evencoins.talk.halls": {
+        "LEAST_HOUSES": 3, "MOST_HOUSES": 9, "KINDS": ("look", "lie"),
+        "LINE_WORDS": ("shares", "rows", "points", "syndromes", "outputs"),
+        "WALL_WORDS": ("complaints", "answers", "votes"),
+    },
+    "evencoins.talk.letters": {"MOST_LIES": 300},
 }
 FUNCTIONS = {
     "evencoins.base.field": {
@@ -41,9 +50,29 @@ FUNCTIONS = {
         "changed_square": 6, "hidden_count": 3,
     },
     "evencoins.plan.circuits": {"form_of": 3, "alike_or_parted": 3, "is_parting": 5, "pruned": 1},
+    "evencoins.plan.programs": {"is_program": 1, "is_fit": 2, "houses_of": 1, "run_program": 3, "straight": 1},
+    "evencoins.plan.compiled": {"cost_of": 2, "size_of": 2, "compiled": 2, "is_compiled": 3, "merged": 1},
+    "evencoins.talk.halls": {
+        "is_for": 2, "batches": 2, "round_kinds": 2, "rounds": 2, "coins_of": 3, "numbers_told": 2,
+    },
+    "evencoins.talk.letters": {
+        "is_plain": 1, "is_right_letter": 7, "blank_letter": 6, "right_letter": 7, "is_lies": 4, "spoken": 5,
+    },
 }
-METHODS = {"inputs_of": 1, "meaning": 2, "told": 2}
-PROPERTIES = ("gates", "outputs", "inputs", "houses", "levels")
+# The functions and classes with keywords, and these with what counts if they are not passed.
+KEYWORDS = {
+    ("evencoins.talk.halls", "round_kinds"): {"lines": False}, ("evencoins.talk.halls", "rounds"): {"lines": False},
+    ("evencoins.talk.letters", "is_lies"): {"lines": False},
+}
+CIRCUIT = (("input", 1),), ((0, (1,)),)
+# For each class what makes an object, its methods and its properties with their kinds.
+CLASSES = {
+    ("evencoins.plan.circuits", "Circuit"): (
+        CIRCUIT, {"inputs_of": 1, "meaning": 2, "told": 2},
+        {"gates": tuple, "outputs": tuple, "inputs": tuple, "houses": tuple, "levels": tuple}),
+    ("evencoins.talk.halls", "Hall"): (
+        (7, 5, 1, "lie"), {"is_lot": 1}, {"field": int, "houses": int, "most": int, "kind": str, "places": tuple}),
+}
 
 
 class InterfaceTest(Case):
@@ -55,7 +84,7 @@ class InterfaceTest(Case):
         for module, table in CONSTANTS.items():
             for name, number in table.items():
                 found = getattr(importlib.import_module(module), name)
-                self.assertEqual((type(found), found), (int, number), (module, name))
+                self.assertEqual((type(found), found), (type(number), number), (module, name))
 
     def test_functions(self):
         for module, table in FUNCTIONS.items():
@@ -64,12 +93,22 @@ class InterfaceTest(Case):
                 self.assertEqual((function.__module__, function.__name__), (module, name))
                 self.takes(function, many)
 
-    def test_circuit(self):
-        circuits = importlib.import_module("evencoins.plan.circuits")
-        self.assertEqual(circuits.Circuit.__module__, "evencoins.plan.circuits")
-        circuit = circuits.Circuit((("input", 1),), ((0, (1,)),))
-        for name, many in METHODS.items():
-            self.assertIn(name, vars(circuits.Circuit))
-            self.takes(getattr(circuit, name), many)
-        for name in PROPERTIES:
-            self.assertIs(type(getattr(circuit, name)), tuple)
+    def test_keywords(self):
+        for module, table in FUNCTIONS.items():
+            for name in list(table) + [name for where, name in CLASSES if where == module]:
+                parameters = inspect.signature(getattr(importlib.import_module(module), name)).parameters.values()
+                found = {part.name: part.default for part in parameters if part.kind is part.KEYWORD_ONLY}
+                self.assertEqual(found, KEYWORDS.get((module, name), {}), (module, name))
+
+    def test_classes(self):
+        for (module, name), (arguments, methods, properties) in CLASSES.items():
+            made = getattr(importlib.import_module(module), name)
+            self.assertEqual((made.__module__, made.__name__), (module, name))
+            held = made(*arguments)
+            for method, many in methods.items():
+                self.assertIn(method, vars(made))
+                self.takes(getattr(held, method), many)
+            for each, kind in properties.items():
+                self.assertIs(type(getattr(held, each)), kind)
+                with self.assertRaises(AttributeError):
+                    setattr(held, each, getattr(held, each))

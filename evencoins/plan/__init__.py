@@ -1,1 +1,1 @@
-"""What is to be worked out: circuits."""
+"""What is to be worked out: circuits, and programs that are made circuits."""

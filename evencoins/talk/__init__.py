@@ -1,0 +1,1 @@
+"""Halls, letters, and houses that talk in rounds."""

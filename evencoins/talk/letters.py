@@ -1,0 +1,215 @@
+"""Letters and texts: plain values, the forms that count, and lies."""
+
+from evencoins.base.field import are_numbers, check_integer, is_integer
+from evencoins.errors import InvalidLot, InvalidNumber, UnknownName
+from evencoins.talk.halls import WALL_WORDS, batches_of, check_house, check_lines, check_talk
+from evencoins.talk.halls import is_house, plan_of
+
+MOST_LIES = 300
+MOST_MEMBERS = 1000
+DEEPEST = 6
+LOOK_WORDS = ("shares", "outputs")
+LIE_WORDS = ("rows", "points", "complaints", "answers", "votes", "syndromes", "outputs")
+
+
+def is_plain_within(value, deep):
+    """Whether the value is plain, with tuples nested at most so deep."""
+    if value is None:
+        return True
+    if not isinstance(value, tuple):
+        return is_integer(value, 1 - 10 ** 60, 10 ** 60 - 1)
+    return deep > 0 and len(value) <= MOST_MEMBERS and all([is_plain_within(part, deep - 1) for part in value])
+
+
+def is_plain(value):
+    """Whether the value is None, an integer, or a tuple of plain values."""
+    return is_plain_within(value, DEEPEST)
+
+
+def is_triple(value):
+    """Whether the value is a tuple of three."""
+    return isinstance(value, tuple) and len(value) == 3
+
+
+def are_rows(field, value, many, width):
+    """Whether the value is a tuple of so many rows of so many numbers."""
+    if not isinstance(value, tuple) or len(value) != many:
+        return False
+    return all([are_numbers(field, row) and len(row) == width for row in value])
+
+
+def is_ordered(triples):
+    """Whether triples ascend, and no two have one index and house."""
+    pairs = [triple[:2] for triple in triples]
+    return all([one < other for one, other in zip(pairs, pairs[1:])])
+
+
+def is_complaint(hall, pairs, sender, value):
+    """Whether the value is a complaint of the sender, about a dealing of the batch."""
+    if not is_triple(value) or not is_integer(value[0], 0, len(pairs) - 1) or not is_house(hall, value[1]):
+        return False
+    return value[1] != sender and is_integer(value[2], 0, hall.field - 1)
+
+
+def is_answer(hall, pairs, sender, value):
+    """Whether the value is an answer of the sender, about a dealing of its own."""
+    if not is_triple(value) or not is_integer(value[0], 0, len(pairs) - 1) or not is_house(hall, value[1]):
+        return False
+    return pairs[value[0]][1] == sender and are_numbers(hall.field, value[2]) and len(value[2]) == hall.most + 1
+
+
+def are_complaints(hall, pairs, sender, value):
+    """Whether the value is a text of complaints."""
+    if not isinstance(value, tuple) or not all([is_complaint(hall, pairs, sender, part) for part in value]):
+        return False
+    return is_ordered(value)
+
+
+def are_answers(hall, pairs, sender, value):
+    """Whether the value is a text of answers."""
+    if not isinstance(value, tuple) or not all([is_answer(hall, pairs, sender, part) for part in value]):
+        return False
+    return is_ordered(value)
+
+
+def width_of(hall, word):
+    """How many numbers each member of a letter has, if it has more than one."""
+    return hall.most + 1 if word == "rows" else hall.houses - 2 * hall.most - 1
+
+
+def has_form(hall, word, pairs, many, sender, value):
+    """Whether the value has the form of the word, for a batch of these pairs, with so many members."""
+    if word == "complaints":
+        return are_complaints(hall, pairs, sender, value)
+    if word == "answers":
+        return are_answers(hall, pairs, sender, value)
+    if word in ("rows", "syndromes"):
+        return are_rows(hall.field, value, many, width_of(hall, word))
+    if not are_numbers(hall.field, value) or len(value) != many:
+        return False
+    return word != "votes" or all([vote <= 1 for vote in value])
+
+
+def blank_of(hall, word, many):
+    """What counts in the place of a value without the form of the word."""
+    if word in ("complaints", "answers"):
+        return ()
+    if word in ("rows", "syndromes"):
+        return ((0,) * width_of(hall, word),) * many
+    return (0,) * many
+
+
+def counted(hall, word, pairs, many, sender, value):
+    """What counts for a value."""
+    return value if has_form(hall, word, pairs, many, sender, value) else blank_of(hall, word, many)
+
+
+def own_indices(pairs, house):
+    """The indices of the dealings of a house in a batch of these pairs."""
+    return tuple([index for index, pair in enumerate(pairs) if pair[1] == house])
+
+
+def told_outputs(circuit, house):
+    """The indices of the outputs that a house is told."""
+    return tuple([index for index, output in enumerate(circuit.outputs) if house in output[1]])
+
+
+def members_of(circuit, word, batch, pairs, sender, goal):
+    """How many members a letter has that is no list of complaints or answers."""
+    if word in ("shares", "rows"):
+        return len(own_indices(pairs, sender))
+    if word == "outputs":
+        return len(told_outputs(circuit, goal))
+    return len(circuit.levels[batch - 1]) if word == "syndromes" else len(pairs)
+
+
+def check_batch(circuit, word, batch):
+    """Refuse what is no number of a batch with such letters."""
+    if word != "outputs":
+        check_integer(batch, 1 if word == "syndromes" else 0, len(circuit.levels))
+    elif batch is not None:
+        raise InvalidNumber(batch)
+
+
+def check_word(hall, word):
+    """Refuse what is no word of a round of the hall."""
+    if word not in (LOOK_WORDS if hall.kind == "look" else LIE_WORDS):
+        raise UnknownName(word)
+
+
+def check_goal(hall, word, sender, goal):
+    """Refuse what is not 0 for the wall, or not another house."""
+    if word in WALL_WORDS:
+        check_integer(goal, 0, 0)
+    else:
+        check_house(hall, goal)
+        if goal == sender:
+            raise InvalidNumber(goal)
+
+
+def check_letter(hall, circuit, word, batch, sender, goal):
+    """Refuse what does not tell a letter of a talk, or a text."""
+    check_talk(hall, circuit)
+    check_word(hall, word)
+    check_batch(circuit, word, batch)
+    check_house(hall, sender)
+    check_goal(hall, word, sender, goal)
+
+
+def pairs_of(hall, circuit, batch):
+    """The pairs of a batch, none for None."""
+    return () if batch is None else batches_of(hall, circuit)[batch]
+
+
+def is_right_letter(hall, circuit, word, batch, sender, goal, value):
+    """Whether the value has the right form."""
+    check_letter(hall, circuit, word, batch, sender, goal)
+    pairs = pairs_of(hall, circuit, batch)
+    return has_form(hall, word, pairs, members_of(circuit, word, batch, pairs, sender, goal), sender, value)
+
+
+def blank_letter(hall, circuit, word, batch, sender, goal):
+    """What counts in the place of a wrong letter."""
+    check_letter(hall, circuit, word, batch, sender, goal)
+    pairs = pairs_of(hall, circuit, batch)
+    return blank_of(hall, word, members_of(circuit, word, batch, pairs, sender, goal))
+
+
+def right_letter(hall, circuit, word, batch, sender, goal, value):
+    """What counts for any value."""
+    check_letter(hall, circuit, word, batch, sender, goal)
+    pairs = pairs_of(hall, circuit, batch)
+    return counted(hall, word, pairs, members_of(circuit, word, batch, pairs, sender, goal), sender, value)
+
+
+def is_lie_key(hall, plan, lot, value):
+    """Whether the value is a round of the plan, a house of the lot, and whom it tells something there."""
+    if not is_triple(value) or not is_integer(value[0], 1, len(plan)) or not is_integer(value[1], 1, hall.houses):
+        return False
+    if value[1] not in lot:
+        return False
+    if plan[value[0] - 1][0] in WALL_WORDS:
+        return is_integer(value[2], 0, 0)
+    return is_house(hall, value[2]) and value[2] != value[1]
+
+
+def check_lot(hall, lot):
+    """Refuse what is no lot of the hall."""
+    if not hall.is_lot(lot):
+        raise InvalidLot("not a lot of the hall")
+
+
+def is_lies(hall, circuit, lot, value, *, lines=False):
+    """Whether the value is a table of lies for a talk."""
+    check_talk(hall, circuit)
+    check_lot(hall, lot)
+    check_lines(lines)
+    if not isinstance(value, dict) or len(value) > (0 if hall.kind == "look" else MOST_LIES):
+        return False
+    plan = plan_of(hall, circuit, lines)
+    return all([is_lie_key(hall, plan, lot, key) and is_plain(value[key]) for key in value])
+
+
+def spoken(lies, number, sender, goal, value):
+    """What is told in the round with this number: the lie, if there is one, or else the value."""
+    return lies.get((number, sender, goal), value)
