@@ -3,7 +3,7 @@
 import importlib
 import inspect
 
-from tests.helper import Case
+from tests.helper import PRODUCT, SMALL, Case
 
 CONSTANTS = {
     "evencoins.base.field": {"LEAST_FIELD": 5, "MAX_FIELD": 997, "MAX_POWER": 10 ** 6, "MAX_SIDE": 60},
@@ -58,11 +58,22 @@ FUNCTIONS = {
     "evencoins.talk.letters": {
         "is_plain": 1, "is_right_letter": 7, "blank_letter": 6, "right_letter": 7, "is_lies": 4, "spoken": 5,
     },
+    "evencoins.talk.dealing": {
+        "rows_for": 5, "points_for": 4, "complaints_of": 5, "answers_of": 6, "votes_of": 6, "shares_behind": 6,
+    },
+    "evencoins.talk.products": {
+        "local_products": 4, "syndromes_of": 2, "errors_told": 2, "product_share": 3, "opened_number": 2,
+    },
+    "evencoins.talk.kings": {
+        "most_heard": 1, "kept": 3, "phases": 4, "agreed": 4, "walled": 5, "settling": 4, "latest": 2, "late_paper": 2,
+        "is_late_paper": 3,
+    },
 }
 # The functions and classes with keywords, and these with what counts if they are not passed.
 KEYWORDS = {
     ("evencoins.talk.halls", "round_kinds"): {"lines": False}, ("evencoins.talk.halls", "rounds"): {"lines": False},
     ("evencoins.talk.letters", "is_lies"): {"lines": False},
+    ("evencoins.talk.houses", "House"): {"without": None, "lines": False},
 }
 CIRCUIT = (("input", 1),), ((0, (1,)),)
 # For each class what makes an object, its methods and its properties with their kinds.
@@ -72,6 +83,10 @@ CLASSES = {
         {"gates": tuple, "outputs": tuple, "inputs": tuple, "houses": tuple, "levels": tuple}),
     ("evencoins.talk.halls", "Hall"): (
         (7, 5, 1, "lie"), {"is_lot": 1}, {"field": int, "houses": int, "most": int, "kind": str, "places": tuple}),
+    ("evencoins.talk.houses", "House"): (
+        (SMALL, PRODUCT, 1, (3,), (2, 5)), {"secrets": 0, "says": 0, "hearing": 2},
+        {"number": int, "round": int, "is_done": bool, "shares": dict, "dealt": dict, "taken": tuple, "outputs": dict,
+         "view": tuple}),
 }
 
 
@@ -95,10 +110,16 @@ class InterfaceTest(Case):
 
     def test_keywords(self):
         for module, table in FUNCTIONS.items():
-            for name in list(table) + [name for where, name in CLASSES if where == module]:
+            for name in table:
                 parameters = inspect.signature(getattr(importlib.import_module(module), name)).parameters.values()
                 found = {part.name: part.default for part in parameters if part.kind is part.KEYWORD_ONLY}
                 self.assertEqual(found, KEYWORDS.get((module, name), {}), (module, name))
+
+    def test_keywords_of_classes(self):
+        for module, name in CLASSES:
+            parameters = inspect.signature(getattr(importlib.import_module(module), name)).parameters.values()
+            found = {part.name: part.default for part in parameters if part.kind is part.KEYWORD_ONLY}
+            self.assertEqual(found, KEYWORDS.get((module, name), {}), (module, name))
 
     def test_classes(self):
         for (module, name), (arguments, methods, properties) in CLASSES.items():

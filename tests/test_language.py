@@ -59,6 +59,12 @@ class Facts:
         self.values = set(target.id for node in classes for part in node.body if isinstance(part, ast.Assign)
                           for target in part.targets if isinstance(target, ast.Name))
         self.classes = set(node.name for node in classes)
+        parts = [part for node in classes for part in node.body if isinstance(part, ast.FunctionDef)]
+        decorated = {part: [ast.unparse(decorator) for decorator in part.decorator_list] for part in parts}
+        # Without its setter a property is assigned nowhere, whatever object has the attribute.
+        self.properties = set(part.name for part in parts if decorated[part] == ["property"]) - set(
+            part.name for part in parts if decorated[part] == [part.name + ".setter"])
+        self.plain_methods = set(part.name for part in parts if decorated[part] != ["property"])
         self.compares = "__eq__" in self.methods
 
 
@@ -218,6 +224,34 @@ def node_rules(tree, facts):
             yield line, "L19 raise"
 
 
+def is_plain_part(node):
+    """Whether the node can stand behind a star in a call."""
+    if isinstance(node, (ast.List, ast.Tuple)):
+        return all(is_plain_part(part) for part in node.elts)
+    return isinstance(node, (ast.Name, ast.Constant)) or isinstance(node, ast.Attribute) and isinstance(
+        node.value, ast.Name)
+
+
+def star_rules(tree, facts):
+    for node in ast.walk(tree):
+        if isinstance(node, ast.Call):
+            for index, part in enumerate(node.args):
+                if isinstance(part, ast.Starred) and not all(
+                        is_plain_part(getattr(each, "value", each) if isinstance(each, ast.Starred) else each)
+                        for each in node.args[index:]):
+                    yield node.lineno, "L7 star"
+            if any(word.arg is None and not is_plain_part(word.value) for word in node.keywords):
+                yield node.lineno, "L7 star"
+        if isinstance(node, ast.Attribute) and isinstance(node.ctx, ast.Store) and node.attr in facts.properties:
+            yield node.lineno, "L5 property " + node.attr
+        if isinstance(node, ast.Call) and isinstance(node.func, ast.Attribute) and (
+                node.func.attr in facts.properties - facts.plain_methods):
+            yield node.lineno, "L5 call of property " + node.func.attr
+        if isinstance(node, ast.FunctionDef) and node.args.kwonlyargs and (
+                node.name in METHODS or node.name.startswith("__") and node.name != "__init__"):
+            yield node.lineno, "L4 keyword"
+
+
 def call_rules(tree, facts):
     names = bound(tree)
     own = facts.methods | facts.attributes | facts.values | {"__class__", "__name__", "setter", "__init__"}
@@ -335,6 +369,7 @@ def complaints(source, facts=None, trees=None, main=False):
     facts = facts or Facts([tree])
     found = list(text_rules(source)) + list(shape_rules(tree, main)) + list(function_rules(tree))
     found += list(node_rules(tree, facts)) + list(call_rules(tree, facts)) + list(loop_rules(tree))
+    found += list(star_rules(tree, facts))
     return found + list(name_rules(tree)) + list(import_rules(tree, trees or {}))
 
 
@@ -400,6 +435,10 @@ class LanguageTest(unittest.TestCase):
                 ("L25", "def f(a):\n    return a.format_map(1)\n"),
                 ("L26", "class A:\n    def decode(self):\n        return 1\n"), ("L27", "x = 'a%'\n"),
                 ("L27", "def f(a, b):\n    return a ** (b + 1)\n"), ("L27", "x = '\\x41'\n"),
+                ("L4", "class A:\n    def get(self, *, a=1):\n        return a\n"),
+                ("L5", "class A:\n    def __init__(self):\n        self.a = 1\n\n    @property\n    def a(self):\n"
+                       "        return 1\n"),
+                ("L7", "def f(a):\n    for x in zip(*[b for b in a]):\n        f(x)\n"),
                 ("L28", "class A:\n    def __init__(self):\n        return 1\n")):
             with self.subTest(source):
                 self.assertTrue(any(told.startswith(word) for _, told in complaints(source)), complaints(source))

@@ -1,0 +1,128 @@
+"""Products of shares: own ones, the new shares, syndromes and the errors that they tell."""
+
+from evencoins.base.field import are_numbers, check_integer, is_integer, sum_of_products
+from evencoins.base.polys import check_rows, evaluated, weights
+from evencoins.codes.sharing import first_poly
+from evencoins.codes.words import misses, near_poly, some_word
+from evencoins.errors import InvalidOperation, InvalidWord
+from evencoins.talk.halls import check_hall, check_talk, is_house
+
+
+def check_numbers(hall, word, many):
+    """Refuse what is no tuple of so many numbers."""
+    if not are_numbers(hall.field, word) or len(word) != many:
+        raise InvalidWord("not so many numbers")
+
+
+def check_lying(hall):
+    """Refuse a hall in which houses only look."""
+    if hall.kind == "look":
+        raise InvalidOperation("a hall in which nobody lies")
+
+
+def product_gates(circuit, level):
+    """The gates of a level with what they look at."""
+    return [circuit.gates[index] for index in circuit.levels[level]]
+
+
+def are_shares(hall, circuit, level, value):
+    """Whether the value is a dict from gates, all factors of the level among them, to numbers."""
+    if not isinstance(value, dict) or not are_numbers(hall.field, tuple(value.values())):
+        return False
+    if not all([is_integer(gate, 0, len(circuit.gates) - 1) for gate in value]):
+        return False
+    return all([one in value and other in value for word, one, other in product_gates(circuit, level)])
+
+
+def own_products(hall, circuit, level, shares):
+    """The products of the own shares of the factors of a level."""
+    return tuple([shares[one] * shares[other] % hall.field for word, one, other in product_gates(circuit, level)])
+
+
+def local_products(hall, circuit, level, shares):
+    """The tuple of the own products for the gates of the level with this index."""
+    check_talk(hall, circuit)
+    check_integer(level, 0, len(circuit.levels) - 1)
+    if not are_shares(hall, circuit, level, shares):
+        raise InvalidOperation("not a dict from gates to shares, with all factors")
+    return own_products(hall, circuit, level, shares)
+
+
+def syndrome_rows(hall):
+    """The rows that make the syndromes of a dealt word."""
+    return check_rows(hall.field, hall.places, 2 * hall.most)
+
+
+def syndromes_of(hall, dealt):
+    """The shares of the syndromes of a dealt word."""
+    check_hall(hall)
+    check_numbers(hall, dealt, hall.houses)
+    check_lying(hall)
+    return tuple([sum_of_products(hall.field, row, dealt) for row in syndrome_rows(hall)])
+
+
+def errors_with(hall, told):
+    """The errors at no more places than may be led that have these syndromes."""
+    if not any([number != 0 for number in told]):
+        return {}
+    word = some_word(hall.field, hall.houses, 2 * hall.most, told)
+    poly = near_poly(hall.field, word, 2 * hall.most, hall.most)
+    if poly is None:
+        return {}
+    places = misses(hall.field, word, poly)
+    return {place: (word[place - 1] - evaluated(hall.field, poly, place)) % hall.field for place in places}
+
+
+def errors_told(hall, told):
+    """The dict from places to errors that have these syndromes."""
+    check_hall(hall)
+    check_numbers(hall, told, hall.houses - 2 * hall.most - 1)
+    check_lying(hall)
+    return errors_with(hall, told)
+
+
+def product_weights(hall):
+    """What makes of the values at all houses the value at 0."""
+    return weights(hall.field, hall.places, 0)
+
+
+def share_without(field, factors, dealt, errors):
+    """The new share, by the weights, of a dealt word without its errors."""
+    lacking = sum([factors[place - 1] * errors[place] for place in errors])
+    return (sum_of_products(field, factors, dealt) - lacking) % field
+
+
+def are_errors(hall, value):
+    """Whether the value is a dict from no more houses than may be led to numbers other than 0."""
+    if not isinstance(value, dict) or len(value) > hall.most:
+        return False
+    return all([is_house(hall, place) and is_integer(value[place], 1, hall.field - 1) for place in value])
+
+
+def product_share(hall, dealt, errors):
+    """The new share: the weighted sum of the dealt word, with the errors taken off."""
+    check_hall(hall)
+    check_numbers(hall, dealt, hall.houses)
+    if not are_errors(hall, errors):
+        raise InvalidOperation("not a dict of errors")
+    return share_without(hall.field, product_weights(hall), dealt, errors)
+
+
+def first_number(hall, word):
+    """The number at 0 of the poly through the first shares, as many as tell it."""
+    return evaluated(hall.field, first_poly(hall.field, word, hall.most), 0)
+
+
+def opened_by_most(hall, word):
+    """The number at 0 of the only poly that has all shares but as many as may be wrong, or 0."""
+    poly = first_poly(hall.field, word, hall.most)
+    if len(misses(hall.field, word, poly)) > hall.most:
+        poly = near_poly(hall.field, word, hall.most, hall.most)
+    return 0 if poly is None else evaluated(hall.field, poly, 0)
+
+
+def opened_number(hall, word):
+    """The number that the shares of all houses open."""
+    check_hall(hall)
+    check_numbers(hall, word, hall.houses)
+    return first_number(hall, word) if hall.kind == "look" else opened_by_most(hall, word)
