@@ -137,13 +137,40 @@ class VectorsTest(Case):
         self.assertEqual([vectors_count(5, (), 0), vectors_count(5, (), 1)], [1, 0])
         self.assertEqual([vectors_with(5, (), 0), vectors_with(5, (), 4)], [((),), ()])
 
+    def test_as_going_through_all_vectors(self):
+        for many in range(4):
+            rows = all_rows(5, many)
+            for weights in rows:
+                for goal in range(5):
+                    right = tuple(row for row in rows if dot(5, weights, row) == goal)
+                    self.assertEqual(vectors_with(5, weights, goal), right)
+        self.assertEqual([vectors_with(5, (), goal) for goal in (0, 1)], [((),), ()])
+
+    def test_seven_weights(self):
+        rows = all_rows(5, 7)
+        self.assertEqual(vectors_with(5, (0,) * 7, 0), tuple(rows))
+        self.assertEqual(vectors_with(5, (0,) * 7, 1), ())
+        for place in (0, 3, 6):
+            for weight, goal in ((1, 0), (3, 4)):
+                weights = (0,) * place + (weight,) + (0,) * (6 - place)
+                number = goal * pow(weight, -1, 5) % 5
+                self.assertEqual(vectors_with(5, weights, goal), tuple(row for row in rows if row[place] == number))
+        for weights, goal in (((1, 2, 3, 4, 1, 2, 3), 2), ((0, 4, 0, 0, 2, 0, 0), 1), ((4, 0, 0, 0, 0, 0, 1), 0)):
+            self.assertEqual(vectors_with(5, weights, goal), tuple(row for row in rows if dot(5, weights, row) == goal))
+
+    def test_no_vectors_are_made_in_vain(self):
+        # Going through all vectors each time would take a quarter of an hour.
+        for _ in range(20000):
+            self.assertEqual(vectors_with(5, (0,) * 7, 1), ())
+
     def test_most_listed(self):
         self.assertEqual(vectors_with(313, (0, 2), 6), tuple((x, 3) for x in range(313)))
         self.assertEqual(vectors_with(313, (0, 0), 6), ())
         self.assertEqual(len(vectors_with(313, (0, 0), 0)), 313 ** 2)
         self.assertEqual(len(vectors_with(5, (1, 2, 3, 4, 1, 0, 2), 3)), 5 ** 6)
         self.assertEqual(vectors_with(997, (2,), 5), ((501,),))
-        for p, weights, goal in ((317, (0, 2), 6), (317, (0, 0), 6), (5, (1,) * 8, 0), (7, (0,) * 6, 1)):
+        for p, weights, goal in ((317, (0, 2), 6), (317, (0, 0), 6), (5, (1,) * 8, 0), (5, (0,) * 8, 1), (7, (0,) * 6, 1),
+                                 (5, (0, 0, 0, 2, 0, 0, 0, 0), 3), (997, (0,) * 60, 1)):
             self.raises(TooMany, 100000, vectors_with, p, weights, goal)
 
     def test_moved(self):

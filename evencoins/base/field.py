@@ -172,6 +172,42 @@ def vectors_count(field, weights, goal):
     return rows_count(field, len(weights)) if goal == 0 else 0
 
 
+def heavy_places(weights):
+    """The places with a weight other than 0."""
+    return [place for place in range(len(weights)) if weights[place] != 0]
+
+
+def all_vectors(field, many):
+    """The ascending list of all vectors of so many numbers: halves, so that few of them are made on the way."""
+    if many < 2:
+        return [(x,) for x in range(field)] if many == 1 else [()]
+    heads = all_vectors(field, many // 2)
+    tails = all_vectors(field, many - many // 2)
+    return [head + tail for head in heads for tail in tails]
+
+
+def all_lacks(field, weights, goal):
+    """For each vector, in ascending sequence, what its weighted sum lacks of the goal, not yet modulo p."""
+    lacks = [goal]
+    for weight in weights:
+        parts = [weight * x for x in range(field)]
+        lacks = [lack - part for lack in lacks for part in parts]
+    return lacks
+
+
+def solved_vectors(field, weights, last, goal):
+    """The ascending list of the vectors with this weighted sum, `last` being the last place with a weight.
+
+    What stands ahead of this place tells the number there; behind it all numbers do.
+    """
+    factor = inverse(field, weights[last])
+    ends = [(lack * factor % field,) for lack in range(field)]
+    lacks = all_lacks(field, weights[:last], goal)
+    heads = [row + ends[lack % field] for row, lack in zip(all_vectors(field, last), lacks)]
+    tails = all_vectors(field, len(weights) - last - 1)
+    return [head + tail for head in heads for tail in tails]
+
+
 def vectors_with(field, weights, goal):
     """The ascending tuple of all vectors that have this weighted sum."""
     check_field(field)
@@ -179,10 +215,10 @@ def vectors_with(field, weights, goal):
     check_number(field, goal)
     if rows_count(field, len(weights)) > MOST_LISTED:
         raise TooMany(MOST_LISTED)
-    found = [((), 0)]
-    for weight in weights:
-        found = [(row + (x,), total + weight * x) for row, total in found for x in range(field)]
-    return tuple([row for row, total in found if total % field == goal])
+    heavy = heavy_places(weights)
+    if heavy:
+        return tuple(solved_vectors(field, weights, heavy[-1], goal))
+    return tuple(all_vectors(field, len(weights))) if goal == 0 else ()
 
 
 def moved(field, weights, vector, goal):
@@ -193,7 +229,7 @@ def moved(field, weights, vector, goal):
     check_number(field, goal)
     if len(weights) != len(vector):
         raise InvalidOperation("weights and vector are not equally long")
-    heavy = [k for k in range(len(weights)) if weights[k] != 0]
+    heavy = heavy_places(weights)
     if not heavy:
         return None
     at = heavy[0]
