@@ -238,6 +238,13 @@ def told_round(told, hall, said, lot, wild):
     return letters, texts
 
 
+def with_bools(value):
+    """The value with True for 1 and False for 0."""
+    if isinstance(value, tuple):
+        return tuple(with_bools(part) for part in value)
+    return bool(value) if value in (0, 1) else value
+
+
 def heard_by(goal, letters, texts):
     """What one house hears."""
     return {sender: letter for (sender, to), letter in letters.items() if to == goal}, texts
@@ -343,6 +350,15 @@ class TalksTest(Case):
             lot = tuple(sorted(told.sample(hall.places, hall.most)))
             wild = 0 if hall.kind == "look" else 3
             inputs, houses = self.play(told, hall, circuit, lot, wild, wild, lines=lines)
+            self.is_right(hall, circuit, lot, inputs, houses)
+
+    def test_square_of_a_product_among_nine(self):
+        told = random.Random(7)
+        hall = Hall(13, 9, 2, "lie")
+        circuit = Circuit((("input", 1), ("input", 2), ("product", 0, 1), ("product", 2, 2)), ((3, (1, 2, 3)),))
+        for lot, wild, lacking, lines in (((), 0, 0, False), ((2, 4), 0, 20, False), ((1, 9), 4, 2, False),
+                                          ((2, 4), 5, 1, True)):
+            inputs, houses = self.play(told, hall, circuit, lot, wild, lacking, lines=lines)
             self.is_right(hall, circuit, lot, inputs, houses)
 
     def test_lies(self):
@@ -618,6 +634,26 @@ class RefusalsTest(Case):
         texts = (InvalidLetter, self.no_dicts(LARGE, None))
         self.refuses(house.hearing, ({}, {2: (), 1: None}), (letters, texts))
         self.assertEqual(house.hearing({}, {}).view[-1], ({}, {}))
+
+    def test_nearly_right_letters(self):
+        # A letter that equals a right one, but with True for 1 or False for 0, is not plain.
+        told = random.Random(8)
+        for hall, circuit, lines in ((SMALL, MIXED, False), (LARGE, MIXED, False), (LARGE, PLAIN, True)):
+            inputs, coins = random_start(told, hall, circuit)
+            houses = start(hall, circuit, inputs, coins, lines=lines)
+            seen = set()
+            for word in round_kinds(hall, circuit, lines=lines):
+                letters, texts = told_round(told, hall, {k: houses[k].says() for k in houses}, (), 0)
+                mine, others = heard_by(2, letters, texts)
+                for sender, value in list(mine.items()) + list(others.items()):
+                    odd = with_bools(value)
+                    if repr(odd) != repr(value):
+                        self.assertEqual(odd, value)
+                        wrong = ({**mine, sender: odd}, others) if mine else (mine, {**others, sender: odd})
+                        self.raises(InvalidLetter, None, houses[2].hearing, *wrong)
+                        seen.add(word)
+                houses = {k: houses[k].hearing(*heard_by(k, letters, texts)) for k in houses}
+            self.assertIn("tell" if lines else "votes" if hall is LARGE else "shares", seen)
 
     def test_done(self):
         house = House(SMALL, PLAIN, 1, (), ()).hearing({}, {}).hearing({}, {})

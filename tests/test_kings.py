@@ -119,6 +119,14 @@ class PhasesTest(Case):
                         lies = random_lies(told, hall, lot, 2 * hall.most + 2, VALUES[:3], many)
                         self.is_right(hall, values, lot, lies)
 
+    def test_many_lies_of_two(self):
+        hall, values = Hall(13, 9, 2, "lie"), (0, 1, 1, 0, 0, 1, 0, 1, 1)
+        for number in (0, 1, (), 5):
+            lies = {(r, a, b): number for r in range(1, 7) for a in (1, 2) for b in range(1, 10) if a != b}
+            self.is_right(hall, values, (1, 2), lies)
+            late = settling(hall, values, (1, 2), lies) == 3
+            self.assertIs(is_late_paper(hall, (1, 2), (values, lies)), late)
+
     def test_all_values_of_two(self):
         told = random.Random(2)
         for values in product((0, 1), repeat=5):

@@ -41,7 +41,12 @@ def is_number(field, value):
 
 def are_numbers(field, value):
     """Whether the value is a tuple of numbers, of any length."""
-    return isinstance(value, tuple) and all([is_integer(x, 0, field - 1) for x in value])
+    if not isinstance(value, tuple):
+        return False
+    for x in value:
+        if not isinstance(x, int) or isinstance(x, bool) or not 0 <= x < field:
+            return False
+    return True
 
 
 def is_vector(field, value):

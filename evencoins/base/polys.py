@@ -88,6 +88,16 @@ def evaluated(field, poly, place):
     return value
 
 
+def evaluated_at_all(field, poly, places):
+    """The list of the values of a poly, or of a row of numbers, at all places."""
+    if not poly:
+        return [0] * len(places)
+    values = [poly[-1]] * len(places)
+    for x in reversed(poly[:-1]):
+        values = [(value * place + x) % field for value, place in zip(values, places)]
+    return values
+
+
 def poly_sum(field, one, other):
     """The sum of two polys."""
     check_field(field)

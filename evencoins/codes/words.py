@@ -4,8 +4,8 @@ from itertools import combinations
 
 from evencoins.base.field import are_numbers, check_field, check_integer, inverse, is_ascending, sum_of_products
 from evencoins.base.polys import check_poly, check_rows, evaluated, interpolated, is_poly
-from evencoins.base.tables import columns_of, solution_or_bar
-from evencoins.errors import InvalidNumber, InvalidOperation, InvalidWord
+from evencoins.base.tables import solution_or_bar
+from evencoins.errors import InvalidOperation, InvalidWord
 
 MAX_HOUSES = 9
 MAX_ERRORS = 4

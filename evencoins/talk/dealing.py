@@ -1,7 +1,7 @@
 """Dealing that holds: what one house tells and holds in the dealings of a batch."""
 
 from evencoins.base.field import are_numbers, is_integer
-from evencoins.base.polys import evaluated
+from evencoins.base.polys import evaluated, evaluated_at_all
 from evencoins.codes.square import row_at, square_with
 from evencoins.errors import InvalidCoins, InvalidInputs, InvalidLetter, InvalidOperation, InvalidTable
 from evencoins.talk.halls import check_hall, check_house, check_lie_hall, coins_each, is_house
@@ -66,13 +66,27 @@ def own_squares(hall, batch, secrets, coins, house):
             for place, index in enumerate(own)}
 
 
+def by_places(hall, columns):
+    """The dict from all houses to tuples: of each column, which has an entry for each house, the one of the house."""
+    if not columns:
+        return {goal: () for goal in hall.places}
+    letters = list(zip(*columns))
+    return dict(zip(hall.places, letters))
+
+
+def rows_everywhere(hall, table):
+    """The rows of a square for all houses."""
+    columns = [evaluated_at_all(hall.field, row, hall.places) for row in table]
+    return list(zip(*columns))
+
+
 def dealt_letters(hall, batch, secrets, coins, house):
     """The letters of all rows, or shares, that a house deals."""
     if hall.kind == "look":
         polys = [(secret,) + coins_for(hall, coins, place) for place, secret in enumerate(secrets)]
-        return {goal: tuple([evaluated(hall.field, poly, goal) for poly in polys]) for goal in hall.places}
+        return by_places(hall, [evaluated_at_all(hall.field, poly, hall.places) for poly in polys])
     squares = list(own_squares(hall, batch, secrets, coins, house).values())
-    return {goal: tuple([row_at(hall.field, table, goal) for table in squares]) for goal in hall.places}
+    return by_places(hall, [rows_everywhere(hall, table) for table in squares])
 
 
 def rows_for(hall, batch, secrets, coins, house):
@@ -86,7 +100,7 @@ def rows_for(hall, batch, secrets, coins, house):
 
 def point_letters(hall, rows):
     """The letters of the values of all rows."""
-    return {goal: tuple([evaluated(hall.field, row, goal) for row in rows]) for goal in hall.places}
+    return by_places(hall, [evaluated_at_all(hall.field, row, hall.places) for row in rows])
 
 
 def points_for(hall, batch, rows, house):
@@ -98,15 +112,13 @@ def points_for(hall, batch, rows, house):
     return point_letters(hall, rows)
 
 
-def complaint_text(hall, rows, points, house):
-    """The complaints of a house that heard these rows and points."""
-    found = []
-    for index, row in enumerate(rows):
-        for other in hall.places:
-            number = evaluated(hall.field, row, other)
-            if other != house and points[other][index] != number:
-                found.append((index, other, number))
-    return tuple(found)
+def complaint_text(hall, made, points, house):
+    """The complaints of a house that made these points of its rows, and heard those ones."""
+    others = [other for other in hall.places if other != house and points[other] != made[other]]
+    if not others:
+        return ()
+    return tuple([(index, other, made[other][index]) for index in range(len(made[house])) for other in others
+                  if points[other][index] != made[other][index]])
 
 
 def complaints_of(hall, batch, rows, points, house):
@@ -116,7 +128,7 @@ def complaints_of(hall, batch, rows, points, house):
     check_heard(hall, batch, rows)
     check_told(hall, batch, "points", points)
     check_house(hall, house)
-    return complaint_text(hall, rows, points, house)
+    return complaint_text(hall, point_letters(hall, rows), points, house)
 
 
 def answer_text(hall, squares, complaints):
@@ -182,10 +194,11 @@ def votes_of(hall, batch, rows, complaints, answers, house):
     return vote_text(hall, rows, complaints, answers, house)
 
 
-def taken_by(hall, many, votes):
-    """For each of so many dealings 1 if enough houses vote for it, or else 0."""
-    sums = [sum([votes[house][index] for house in hall.places]) for index in range(many)]
-    return tuple([1 if total >= hall.houses - hall.most else 0 for total in sums])
+def taken_by(hall, votes):
+    """For each dealing 1 if enough houses vote for it, or else 0."""
+    texts = list(votes.values())
+    least = hall.houses - hall.most
+    return tuple([1 if sum(column) >= least else 0 for column in zip(*texts)])
 
 
 def held_shares(rows, answers, taken, house):
@@ -203,5 +216,5 @@ def shares_behind(hall, batch, rows, answers, votes, house):
     check_told(hall, batch, "answers", answers)
     check_told(hall, batch, "votes", votes)
     check_house(hall, house)
-    taken = taken_by(hall, len(batch), votes)
+    taken = taken_by(hall, votes)
     return taken, held_shares(rows, answers, taken, house)

@@ -4,6 +4,7 @@ from evencoins.base.field import check_field, check_integer, is_ascending, is_in
 from evencoins.codes.square import coins_count
 from evencoins.errors import InvalidCircuit, InvalidHall, InvalidOperation, UnknownName
 from evencoins.plan.circuits import Circuit, indices_of
+from evencoins.talk.gauges import Gauge
 
 LEAST_HOUSES = 3
 MOST_HOUSES = 9
@@ -26,6 +27,7 @@ class Hall:
         self._most = most
         self._kind = kind
         self._places = tuple(range(1, houses + 1))
+        self._gauge = Gauge(field, houses, most, kind)
 
     @property
     def field(self):
@@ -51,6 +53,11 @@ class Hall:
     def places(self):
         """The tuple of all houses."""
         return self._places
+
+    @property
+    def gauge(self):
+        """The numbers with which its houses reckon."""
+        return self._gauge
 
     def __eq__(self, other):
         if not isinstance(other, Hall) or self._kind != other._kind:

@@ -1,9 +1,9 @@
 """Kings: a wall from lines. In phases of two rounds all free houses come to hold one value."""
 
-from evencoins.base.field import is_integer
+from evencoins.base.field import are_numbers
 from evencoins.errors import InvalidLies, InvalidWord
-from evencoins.talk.halls import check_house, check_lie_hall, is_house
-from evencoins.talk.letters import check_lot, is_plain, is_triple, spoken
+from evencoins.talk.halls import check_house, check_lie_hall
+from evencoins.talk.letters import check_lot, is_plain, spoken
 
 MOST_VALUES = 9
 
@@ -21,20 +21,20 @@ def check_values(value, least, most):
         raise InvalidWord("not so many plain values")
 
 
-def is_round_key(hall, lot, last, value):
-    """Whether the value is a round up to the last one, a house of the lot, and another house."""
-    if not is_triple(value) or not is_integer(value[0], 1, last):
-        return False
-    if not is_house(hall, value[1]) or not is_house(hall, value[2]):
-        return False
-    return value[1] in lot and value[1] != value[2]
-
-
 def are_lies(hall, lot, last, value):
     """Whether the value is a dict of lies for so many rounds over lines."""
     if not isinstance(value, dict):
         return False
-    return all([is_round_key(hall, lot, last, key) and is_plain(value[key]) for key in value])
+    bound = max(last, hall.houses) + 1
+    for key, told in value.items():
+        if not are_numbers(bound, key) or len(key) != 3:
+            return False
+        number, sender, goal = key
+        if not 1 <= number <= last or sender not in lot or goal == sender or not 1 <= goal <= hall.houses:
+            return False
+        if not is_plain(told):
+            return False
+    return True
 
 
 def check_foe(hall, lot, last, lies):
@@ -60,7 +60,18 @@ def most_of(values):
         if many > most:
             best = value
             most = many
+        if 2 * most >= len(values):
+            # No later one is heard from more.
+            break
     return best, most
+
+
+def most_in_columns(rows):
+    """For each place the most heard one of what all rows have there, with how many have it."""
+    first = rows[0]
+    if all([row == first for row in rows]):
+        return tuple([(value, len(rows)) for value in first])
+    return tuple([most_of(column) for column in zip(*rows)])
 
 
 def most_heard(values):
@@ -84,27 +95,35 @@ def kept(hall, heard, told):
     return held_behind(hall, most_of(heard), told)
 
 
-def next_values(hall, values, number, king, lies):
+def told_to(values, lot, number, goal, lies):
+    """What all houses, which hold these values, tell a house in a round: those of the lot what the lies tell."""
+    told = list(values)
+    for sender in lot:
+        if (number, sender, goal) in lies:
+            told[sender - 1] = lies[(number, sender, goal)]
+    return told
+
+
+def next_values(hall, values, number, king, lot, lies):
     """What all houses hold behind a phase that begins with the round of this number."""
-    heard = [most_of(tuple([spoken(lies, number, sender, goal, values[sender - 1]) for sender in hall.places]))
-             for goal in hall.places]
+    heard = [most_of(told_to(values, lot, number, goal, lies)) for goal in hall.places]
     word = heard[king - 1][0]
     told = [spoken(lies, number + 1, king, goal, word) for goal in hall.places]
     return tuple([held_behind(hall, pair, value) for pair, value in zip(heard, told)])
 
 
-def all_phases(hall, values, first, lies):
+def all_phases(hall, values, first, lot, lies):
     """What all houses hold at the beginning and behind each phase, the rounds being counted from the first one."""
     rows = [values]
     for king in range(1, hall.most + 2):
-        rows.append(next_values(hall, rows[-1], first + 2 * king - 2, king, lies))
+        rows.append(next_values(hall, rows[-1], first + 2 * king - 2, king, lot, lies))
     return tuple(rows)
 
 
 def phases(hall, values, lot, lies):
     """The tuple of what all houses hold at the beginning and behind each phase."""
     check_start(hall, values, lot, lies)
-    return all_phases(hall, values, 1, lies)
+    return all_phases(hall, values, 1, lot, lies)
 
 
 def free_houses(hall, lot):
@@ -115,7 +134,7 @@ def free_houses(hall, lot):
 def agreed(hall, values, lot, lies):
     """What the free houses hold at the end."""
     check_start(hall, values, lot, lies)
-    return all_phases(hall, values, 1, lies)[-1][free_houses(hall, lot)[0] - 1]
+    return all_phases(hall, values, 1, lot, lies)[-1][free_houses(hall, lot)[0] - 1]
 
 
 def walled(hall, house, text, lot, lies):
@@ -125,19 +144,30 @@ def walled(hall, house, text, lot, lies):
     check_values((text,), 1, 1)
     check_foe(hall, lot, 2 * hall.most + 3, lies)
     values = tuple([spoken(lies, 1, house, goal, text) for goal in hall.places])
-    return all_phases(hall, values, 2, lies)[-1][free_houses(hall, lot)[0] - 1]
+    return all_phases(hall, values, 2, lot, lies)[-1][free_houses(hall, lot)[0] - 1]
 
 
-def are_settled(hall, values, lot):
+def are_settled(free, values):
     """Whether all free houses hold one value."""
-    held = [values[house - 1] for house in free_houses(hall, lot)]
-    return all([value == held[0] for value in held])
+    first = values[free[0] - 1]
+    return all([values[house - 1] == first for house in free])
+
+
+def phases_to_settle(hall, values, lot, lies):
+    """The number of phases behind which the free houses are settled, the first time; there always is one."""
+    free = free_houses(hall, lot)
+    row = values
+    many = 0
+    while not are_settled(free, row):
+        many += 1
+        row = next_values(hall, row, 2 * many - 1, many, lot, lies)
+    return many
 
 
 def settling(hall, values, lot, lies):
     """The least number of phases behind which the free houses are settled."""
     check_start(hall, values, lot, lies)
-    return len([row for row in all_phases(hall, values, 1, lies) if not are_settled(hall, row, lot)])
+    return phases_to_settle(hall, values, lot, lies)
 
 
 def latest(hall, lot):
@@ -166,4 +196,4 @@ def is_late_paper(hall, lot, value):
     values, lies = value
     if not are_plain(values, hall.houses, hall.houses) or not are_lies(hall, lot, 2 * hall.most + 2, lies):
         return False
-    return settling(hall, values, lot, lies) == last
+    return phases_to_settle(hall, values, lot, lies) == last

@@ -8,17 +8,30 @@ from evencoins.talk.halls import is_house, plan_of
 MOST_LIES = 300
 MOST_MEMBERS = 1000
 DEEPEST = 6
+LEAST_PLAIN = 1 - 10 ** 60
+MOST_PLAIN = 10 ** 60 - 1
 LOOK_WORDS = ("shares", "outputs")
 LIE_WORDS = ("rows", "points", "complaints", "answers", "votes", "syndromes", "outputs")
 
 
 def is_plain_within(value, deep):
     """Whether the value is plain, with tuples nested at most so deep."""
-    if value is None:
-        return True
+    if isinstance(value, int):
+        return not isinstance(value, bool) and LEAST_PLAIN <= value <= MOST_PLAIN
     if not isinstance(value, tuple):
-        return is_integer(value, 1 - 10 ** 60, 10 ** 60 - 1)
-    return deep > 0 and len(value) <= MOST_MEMBERS and all([is_plain_within(part, deep - 1) for part in value])
+        return value is None
+    if deep == 0 or len(value) > MOST_MEMBERS:
+        return False
+    for part in value:
+        if isinstance(part, int):
+            if isinstance(part, bool) or not LEAST_PLAIN <= part <= MOST_PLAIN:
+                return False
+        elif isinstance(part, tuple):
+            if not is_plain_within(part, deep - 1):
+                return False
+        elif part is not None:
+            return False
+    return True
 
 
 def is_plain(value):
@@ -35,41 +48,46 @@ def are_rows(field, value, many, width):
     """Whether the value is a tuple of so many rows of so many numbers."""
     if not isinstance(value, tuple) or len(value) != many:
         return False
-    return all([are_numbers(field, row) and len(row) == width for row in value])
-
-
-def is_ordered(triples):
-    """Whether triples ascend, and no two have one index and house."""
-    pairs = [triple[:2] for triple in triples]
-    return all([one < other for one, other in zip(pairs, pairs[1:])])
-
-
-def is_complaint(hall, pairs, sender, value):
-    """Whether the value is a complaint of the sender, about a dealing of the batch."""
-    if not is_triple(value) or not is_integer(value[0], 0, len(pairs) - 1) or not is_house(hall, value[1]):
-        return False
-    return value[1] != sender and is_integer(value[2], 0, hall.field - 1)
-
-
-def is_answer(hall, pairs, sender, value):
-    """Whether the value is an answer of the sender, about a dealing of its own."""
-    if not is_triple(value) or not is_integer(value[0], 0, len(pairs) - 1) or not is_house(hall, value[1]):
-        return False
-    return pairs[value[0]][1] == sender and are_numbers(hall.field, value[2]) and len(value[2]) == hall.most + 1
+    for row in value:
+        if not are_numbers(field, row) or len(row) != width:
+            return False
+    return True
 
 
 def are_complaints(hall, pairs, sender, value):
     """Whether the value is a text of complaints."""
-    if not isinstance(value, tuple) or not all([is_complaint(hall, pairs, sender, part) for part in value]):
+    if not isinstance(value, tuple):
         return False
-    return is_ordered(value)
+    bound = max(len(pairs), hall.field)
+    ahead = (-1, 0)
+    for part in value:
+        if not are_numbers(bound, part) or len(part) != 3:
+            return False
+        index, house, number = part
+        if index >= len(pairs) or not 1 <= house <= hall.houses or house == sender or number >= hall.field:
+            return False
+        if (index, house) <= ahead:
+            return False
+        ahead = (index, house)
+    return True
 
 
 def are_answers(hall, pairs, sender, value):
     """Whether the value is a text of answers."""
-    if not isinstance(value, tuple) or not all([is_answer(hall, pairs, sender, part) for part in value]):
+    if not isinstance(value, tuple):
         return False
-    return is_ordered(value)
+    bound = max(len(pairs), hall.field)
+    ahead = (-1, 0)
+    for part in value:
+        if not is_triple(part) or not are_numbers(bound, part[:2]) or not are_numbers(hall.field, part[2]):
+            return False
+        index, house, row = part
+        if index >= len(pairs) or pairs[index][1] != sender or not 1 <= house <= hall.houses:
+            return False
+        if len(row) != hall.most + 1 or (index, house) <= ahead:
+            return False
+        ahead = (index, house)
+    return True
 
 
 def width_of(hall, word):
@@ -80,14 +98,13 @@ def width_of(hall, word):
 def has_form(hall, word, pairs, many, sender, value):
     """Whether the value has the form of the word, for a batch of these pairs, with so many members."""
     if word == "complaints":
-        return are_complaints(hall, pairs, sender, value)
+        return value == () or are_complaints(hall, pairs, sender, value)
     if word == "answers":
-        return are_answers(hall, pairs, sender, value)
+        return value == () or are_answers(hall, pairs, sender, value)
     if word in ("rows", "syndromes"):
         return are_rows(hall.field, value, many, width_of(hall, word))
-    if not are_numbers(hall.field, value) or len(value) != many:
-        return False
-    return word != "votes" or all([vote <= 1 for vote in value])
+    # Votes are 0 or 1, as if they were numbers modulo 2.
+    return are_numbers(2 if word == "votes" else hall.field, value) and len(value) == many
 
 
 def blank_of(hall, word, many):

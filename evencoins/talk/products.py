@@ -1,9 +1,6 @@
 """Products of shares: own ones, the new shares, syndromes and the errors that they tell."""
 
 from evencoins.base.field import are_numbers, check_integer, is_integer, sum_of_products
-from evencoins.base.polys import check_rows, evaluated, weights
-from evencoins.codes.sharing import first_poly
-from evencoins.codes.words import misses, near_poly, some_word
 from evencoins.errors import InvalidOperation, InvalidWord
 from evencoins.talk.halls import check_hall, check_talk, is_house
 
@@ -48,9 +45,9 @@ def local_products(hall, circuit, level, shares):
     return own_products(hall, circuit, level, shares)
 
 
-def syndrome_rows(hall):
-    """The rows that make the syndromes of a dealt word."""
-    return check_rows(hall.field, hall.places, 2 * hall.most)
+def syndromes_in(hall, dealt):
+    """The shares of the syndromes of a dealt word that is known to be one."""
+    return tuple([sum_of_products(hall.field, row, dealt) for row in hall.gauge.checks])
 
 
 def syndromes_of(hall, dealt):
@@ -58,19 +55,7 @@ def syndromes_of(hall, dealt):
     check_hall(hall)
     check_numbers(hall, dealt, hall.houses)
     check_lying(hall)
-    return tuple([sum_of_products(hall.field, row, dealt) for row in syndrome_rows(hall)])
-
-
-def errors_with(hall, told):
-    """The errors at no more places than may be led that have these syndromes."""
-    if not any([number != 0 for number in told]):
-        return {}
-    word = some_word(hall.field, hall.houses, 2 * hall.most, told)
-    poly = near_poly(hall.field, word, 2 * hall.most, hall.most)
-    if poly is None:
-        return {}
-    places = misses(hall.field, word, poly)
-    return {place: (word[place - 1] - evaluated(hall.field, poly, place)) % hall.field for place in places}
+    return syndromes_in(hall, dealt)
 
 
 def errors_told(hall, told):
@@ -78,18 +63,14 @@ def errors_told(hall, told):
     check_hall(hall)
     check_numbers(hall, told, hall.houses - 2 * hall.most - 1)
     check_lying(hall)
-    return errors_with(hall, told)
+    return hall.gauge.errors_with(told, hall.most)
 
 
-def product_weights(hall):
-    """What makes of the values at all houses the value at 0."""
-    return weights(hall.field, hall.places, 0)
-
-
-def share_without(field, factors, dealt, errors):
+def share_without(hall, dealt, errors):
     """The new share, by the weights, of a dealt word without its errors."""
+    factors = hall.gauge.factors
     lacking = sum([factors[place - 1] * errors[place] for place in errors])
-    return (sum_of_products(field, factors, dealt) - lacking) % field
+    return (sum_of_products(hall.field, factors, dealt) - lacking) % hall.field
 
 
 def are_errors(hall, value):
@@ -105,24 +86,11 @@ def product_share(hall, dealt, errors):
     check_numbers(hall, dealt, hall.houses)
     if not are_errors(hall, errors):
         raise InvalidOperation("not a dict of errors")
-    return share_without(hall.field, product_weights(hall), dealt, errors)
-
-
-def first_number(hall, word):
-    """The number at 0 of the poly through the first shares, as many as tell it."""
-    return evaluated(hall.field, first_poly(hall.field, word, hall.most), 0)
-
-
-def opened_by_most(hall, word):
-    """The number at 0 of the only poly that has all shares but as many as may be wrong, or 0."""
-    poly = first_poly(hall.field, word, hall.most)
-    if len(misses(hall.field, word, poly)) > hall.most:
-        poly = near_poly(hall.field, word, hall.most, hall.most)
-    return 0 if poly is None else evaluated(hall.field, poly, 0)
+    return share_without(hall, dealt, errors)
 
 
 def opened_number(hall, word):
     """The number that the shares of all houses open."""
     check_hall(hall)
     check_numbers(hall, word, hall.houses)
-    return first_number(hall, word) if hall.kind == "look" else opened_by_most(hall, word)
+    return hall.gauge.first_number(word) if hall.kind == "look" else hall.gauge.main_number(word, hall.most)
