@@ -94,6 +94,12 @@ def told_count(field, most, lot, told, number):
     return 1 if len(interpolated(field, (0,) + lot, (number,) + told)) <= most + 1 else 0
 
 
+def coins_behind(field, lot, coins, change):
+    """The coins for a number that is so much more, with which the lot has the same shares."""
+    letters = padded(hiding_poly(field, lot)[1:], len(coins))
+    return tuple([(coin + change * x) % field for coin, x in zip(coins, letters)])
+
+
 def changed_coins(field, lot, coins, number, other):
     """The coins of the other number that give the lot the same shares."""
     check_field(field)
@@ -103,8 +109,7 @@ def changed_coins(field, lot, coins, number, other):
     check_number(field, other)
     if len(lot) > len(coins):
         raise Refused(("wide",))
-    change = padded(hiding_poly(field, lot)[1:], len(coins))
-    return tuple([(coin + (other - number) * x) % field for coin, x in zip(coins, change)])
+    return coins_behind(field, lot, coins, other - number)
 
 
 def check_sum(field, most, lot, factors):

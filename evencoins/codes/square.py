@@ -162,6 +162,13 @@ def square_of(field, rows):
     return tuple([padded(column, size) for column in columns])
 
 
+def square_coins_behind(field, lot, coins, change, most):
+    """The coins for a number that is so much more, with which the lot has the same rows."""
+    letters = padded(hiding_poly(field, lot), most + 1)
+    pairs = [(a, b) for a in range(most + 1) for b in range(a, most + 1)]
+    return tuple([(coin + change * letters[a] * letters[b]) % field for coin, (a, b) in zip(coins, pairs[1:])])
+
+
 def changed_square(field, lot, coins, number, other, most):
     """The coins of the other number with which the lot has the same rows."""
     check_field(field)
@@ -174,10 +181,7 @@ def changed_square(field, lot, coins, number, other, most):
     check_coins_count(coins, most)
     if len(lot) > most:
         raise InvalidLot("too many places in the lot")
-    letters = padded(hiding_poly(field, lot), most + 1)
-    pairs = [(a, b) for a in range(most + 1) for b in range(a, most + 1)]
-    change = [(other - number) * letters[a] * letters[b] for a, b in pairs[1:]]
-    return tuple([(coin + x) % field for coin, x in zip(coins, change)])
+    return square_coins_behind(field, lot, coins, other - number, most)
 
 
 def hidden_count(field, most, many):

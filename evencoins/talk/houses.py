@@ -90,12 +90,14 @@ class House:
     @property
     def dealt(self):
         """The dict from pairs of a batch and an index to its share of this dealing."""
-        return {pair: share for pair, share in self._standing.memory["dealt"].items()}
+        return {(batch, index): share for batch, (shares, taken) in enumerate(self._standing.memory["dealings"])
+                for index, share in enumerate(shares)}
 
     @property
     def taken(self):
         """The pairs of a batch and an index of all dealings that were taken."""
-        return self._standing.memory["taken"]
+        return tuple([(batch, index) for batch, (shares, taken) in enumerate(self._standing.memory["dealings"])
+                      for index in range(len(shares)) if taken is None or taken[index] == 1])
 
     @property
     def outputs(self):

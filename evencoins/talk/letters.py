@@ -1,9 +1,8 @@
 """Letters and texts: plain values, the forms that count, and lies."""
 
-from evencoins.base.field import are_numbers, check_integer, is_integer
+from evencoins.base.field import are_numbers, check_integer
 from evencoins.errors import InvalidLot, InvalidNumber, UnknownName
-from evencoins.talk.halls import WALL_WORDS, batches_of, check_house, check_lines, check_talk
-from evencoins.talk.halls import is_house, plan_of
+from evencoins.talk.halls import WALL_WORDS, batches_of, check_house, check_lines, check_talk, plan_of
 
 MOST_LIES = 300
 MOST_MEMBERS = 1000
@@ -201,13 +200,22 @@ def right_letter(hall, circuit, word, batch, sender, goal, value):
 
 def is_lie_key(hall, plan, lot, value):
     """Whether the value is a round of the plan, a house of the lot, and whom it tells something there."""
-    if not is_triple(value) or not is_integer(value[0], 1, len(plan)) or not is_integer(value[1], 1, hall.houses):
+    if not are_numbers(max(len(plan), hall.houses) + 1, value) or len(value) != 3:
         return False
-    if value[1] not in lot:
+    number, sender, goal = value
+    if not 1 <= number <= len(plan) or sender not in lot or goal > hall.houses or goal == sender:
         return False
-    if plan[value[0] - 1][0] in WALL_WORDS:
-        return is_integer(value[2], 0, 0)
-    return is_house(hall, value[2]) and value[2] != value[1]
+    return (goal == 0) == (plan[number - 1][0] in WALL_WORDS)
+
+
+def are_lies_of(hall, plan, lot, value):
+    """Whether the value is a table of lies of a lot for the talk of this plan."""
+    if not isinstance(value, dict) or len(value) > (0 if hall.kind == "look" else MOST_LIES):
+        return False
+    for key, told in value.items():
+        if not is_lie_key(hall, plan, lot, key) or not is_plain(told):
+            return False
+    return True
 
 
 def check_lot(hall, lot):
@@ -221,10 +229,7 @@ def is_lies(hall, circuit, lot, value, *, lines=False):
     check_talk(hall, circuit)
     check_lot(hall, lot)
     check_lines(lines)
-    if not isinstance(value, dict) or len(value) > (0 if hall.kind == "look" else MOST_LIES):
-        return False
-    plan = plan_of(hall, circuit, lines)
-    return all([is_lie_key(hall, plan, lot, key) and is_plain(value[key]) for key in value])
+    return are_lies_of(hall, plan_of(hall, circuit, lines), lot, value)
 
 
 def spoken(lies, number, sender, goal, value):

@@ -55,7 +55,7 @@ class Seat:
 
     def first_memory(self):
         """The memory ahead of the first round."""
-        return self.prepared({"round": 1, "over": False, "shares": {}, "dealt": {}, "taken": (), "outputs": {}})
+        return self.prepared({"round": 1, "over": False, "shares": {}, "dealings": (), "outputs": {}})
 
     def secrets_at(self, memory):
         """The numbers that it deals in the batch of the round that comes next."""
@@ -69,13 +69,15 @@ class Seat:
         return own_products(self._hall, self._talk.circuit, batch - 1, shares)
 
     def prepared(self, memory):
-        """The memory, with what the house says in the round that comes next."""
+        """A new memory, with what the house says in the round that comes next put to it."""
         if memory["round"] > len(self._talk.plan):
-            return {**memory, "over": True}
+            memory["over"] = True
+            return memory
         word, batch, text, phase = self._talk.plan[memory["round"] - 1]
-        if word in WALL_WORDS:
-            return {**memory, "letters": {}, "text": self.text_in(memory, text, batch)}
-        return {**memory, "letters": self.letters_in(memory, word, batch, text, phase), "text": None}
+        is_text = word in WALL_WORDS
+        memory["letters"] = {} if is_text else self.letters_in(memory, word, batch, text, phase)
+        memory["text"] = self.text_in(memory, text, batch) if is_text else None
+        return memory
 
     def text_in(self, memory, word, batch):
         """Its text that all see."""
@@ -200,11 +202,7 @@ class Seat:
 
     def closed(self, memory, batch, shares, taken):
         """What it knows more when it has a share of each dealing of a batch; `taken` is None if all are."""
-        dealt = {pair: share for pair, share in memory["dealt"].items()}
-        for index, share in enumerate(shares):
-            dealt[(batch, index)] = share
-        fits = [index for index in range(len(shares)) if taken is None or taken[index] == 1]
-        news = {"dealt": dealt, "taken": memory["taken"] + tuple([(batch, index) for index in fits])}
+        news = {"dealings": memory["dealings"] + ((shares, taken),)}
         if batch == 0:
             return {**news, "shares": self.with_known(memory, dict(zip(self._talk.circuit.inputs, shares)))}
         # All houses deal for one product, and then for the next one.

@@ -33,6 +33,7 @@ class Talk:
         self.plan = plan_of(hall, circuit, lines)
         self.spots = [spots_in(pairs) for pairs in self.batches]
         self._own_counts = own_counts(hall, circuit)
+        self._each = coins_each(hall)
         self.goals = {house: told_outputs(circuit, house) for house in hall.places}
 
     @property
@@ -55,17 +56,12 @@ class Talk:
             return False
         return self._without == other._without and self._on_lines == other._on_lines
 
-    def own_count(self, batch, house):
-        """How many numbers a house deals in a batch."""
-        return self._own_counts[batch][house - 1]
-
     def coins_at(self, batch, house, coins):
         """The coins with which a house deals in a batch, of all that it has."""
-        each = coins_each(self._hall)
-        many = self.own_count(batch, house) * each
+        many = self._own_counts[batch][house - 1] * self._each
         if batch > 0 and self._without == "coins":
             return (0,) * many
-        first = sum([self.own_count(ahead, house) for ahead in range(batch)]) * each
+        first = sum([counts[house - 1] for counts in self._own_counts[:batch]]) * self._each
         return coins[first:first + many]
 
     def members_of_all(self, word, batch, goal):

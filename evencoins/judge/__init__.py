@@ -1,0 +1,1 @@
+"""Judges of runs: views, what holds in all of them, counted coins, talks as rows, rules left out, locked squares."""

@@ -1,0 +1,158 @@
+"""Counted coins: how many rows of coins of the free houses make each view of the lot."""
+
+from evencoins.base.field import rows_count
+from evencoins.errors import InvalidOperation, TooMany
+from evencoins.plan.circuits import meaning_of
+from evencoins.talk.courses import Course, check_all_coins, check_foe, check_inputs, free_of, view_of
+from evencoins.talk.halls import check_talk, needed_coins
+from evencoins.talk.letters import check_lot
+from evencoins.talk.runs import check_lies
+from evencoins.talk.seats import check_without
+from evencoins.talk.talks import Talk
+from evencoins.judge.views import lot_outputs
+
+MOST_ROWS = 700
+
+
+def free_coins(hall, circuit, lot):
+    """How many coins the free houses have together."""
+    return sum([needed_coins(hall, circuit, house) for house in free_of(hall, lot)])
+
+
+def check_rows(hall, many):
+    """Refuse rows of so many numbers if there are too many of them."""
+    if rows_count(hall.field, many) > MOST_ROWS:
+        raise TooMany(MOST_ROWS)
+
+
+def row_count(hall, circuit, lot):
+    """How many rows of coins the free houses can have."""
+    check_talk(hall, circuit)
+    check_lot(hall, lot)
+    return rows_count(hall.field, free_coins(hall, circuit, lot))
+
+
+def number_rows(field, many):
+    """The ascending list of all rows of so many numbers."""
+    rows = [()]
+    for _ in range(many):
+        rows = [row + (number,) for row in rows for number in range(field)]
+    return rows
+
+
+def all_coin_rows(hall, circuit, lot):
+    """The list of the rows of coins, as dicts, by ascending coins."""
+    found = []
+    for numbers in number_rows(hall.field, free_coins(hall, circuit, lot)):
+        row = {}
+        first = 0
+        for house in free_of(hall, lot):
+            many = needed_coins(hall, circuit, house)
+            row[house] = numbers[first:first + many]
+            first += many
+        found.append(row)
+    return found
+
+
+def coin_rows(hall, circuit, lot):
+    """All rows of coins of the free houses, one after the other."""
+    check_talk(hall, circuit)
+    check_lot(hall, lot)
+    check_rows(hall, free_coins(hall, circuit, lot))
+    for row in all_coin_rows(hall, circuit, lot):
+        yield row
+
+
+def counted_views(talk, inputs, lot, coins, lies):
+    """The dict from the views to their counts, ascending."""
+    counts = {}
+    for row in all_coin_rows(talk.hall, talk.circuit, lot):
+        view = view_of(Course(talk, inputs, {**row, **coins}, lot, lies))
+        counts[view] = counts.get(view, 0) + 1
+    return {view: counts[view] for view in sorted(counts)}
+
+
+def check_foe_parts(hall, circuit, lot, coins, lies, without):
+    """Refuse what is no lot with its coins and its lies, and too many rows."""
+    check_foe(hall, lot, without)
+    check_all_coins(hall, circuit, lot, coins)
+    check_lies(Talk(hall, circuit, None, False), lot, lies)
+    check_without(without)
+    check_rows(hall, free_coins(hall, circuit, lot))
+
+
+def view_counts(hall, circuit, inputs, lot, coins, lies, *, without=None):
+    """The dict from the views to the numbers of the rows that make them."""
+    check_talk(hall, circuit)
+    check_inputs(hall, circuit, inputs)
+    check_foe_parts(hall, circuit, lot, coins, lies, without)
+    return counted_views(Talk(hall, circuit, without, False), inputs, lot, coins, lies)
+
+
+def alike_rows(hall, circuit, inputs, lot):
+    """All inputs that are alike to these ones, ascending."""
+    check_talk(hall, circuit)
+    check_inputs(hall, circuit, inputs)
+    check_lot(hall, lot)
+    check_rows(hall, len([house for house in circuit.houses if house not in lot]))
+    choices = [[number] if house in lot else list(range(hall.field)) for number, house in zip(inputs, circuit.houses)]
+    rows = [()]
+    for choice in choices:
+        rows = [row + (number,) for row in rows for number in choice]
+    right = lot_outputs(circuit, lot, meaning_of(hall.field, circuit.gates, inputs))
+    return tuple([row for row in rows
+                  if lot_outputs(circuit, lot, meaning_of(hall.field, circuit.gates, row)) == right])
+
+
+def both_counts(hall, circuit, one, other, lot, coins, lies, without):
+    """The counts for both inputs, if all parts are right."""
+    check_talk(hall, circuit)
+    check_inputs(hall, circuit, one)
+    check_inputs(hall, circuit, other)
+    check_foe_parts(hall, circuit, lot, coins, lies, without)
+    talk = Talk(hall, circuit, without, False)
+    counts = counted_views(talk, one, lot, coins, lies)
+    return counts, counts if one == other else counted_views(talk, other, lot, coins, lies)
+
+
+def even_or_parted(hall, circuit, one, other, lot, coins, lies, *, without=None):
+    """Either the number of the views, which have equal counts, or a view that has unlike ones."""
+    counts, others = both_counts(hall, circuit, one, other, lot, coins, lies, without)
+    unlike = [view for view in list(counts) + list(others) if counts.get(view, 0) != others.get(view, 0)]
+    if not unlike:
+        return "even", len(counts)
+    return "parted", unlike[0], counts.get(unlike[0], 0), others.get(unlike[0], 0)
+
+
+def is_strict(value):
+    """Whether the value is made of integers, None and tuples alone, as views are."""
+    if isinstance(value, tuple):
+        return all([is_strict(part) for part in value])
+    return value is None or isinstance(value, int) and not isinstance(value, bool)
+
+
+def is_even_paper(hall, circuit, one, other, lot, coins, lies, value, *, without=None):
+    """Whether the value shows that the counts are equal, or that they are not."""
+    counts, others = both_counts(hall, circuit, one, other, lot, coins, lies, without)
+    if not isinstance(value, tuple) or not 2 <= len(value) <= 4 or not is_strict(value[1:]):
+        return False
+    if value[0] == "even" and len(value) == 2:
+        return counts == others and value[1] == len(counts)
+    if value[0] != "parted" or len(value) != 4:
+        return False
+    view, many, more = value[1:]
+    return many != more and many == counts.get(view, 0) and more == others.get(view, 0)
+
+
+def count_power(hall, circuit, inputs, lot, coins):
+    """The exponent k of the count p ** k that each view has if nobody lies."""
+    check_talk(hall, circuit)
+    check_inputs(hall, circuit, inputs)
+    check_foe_parts(hall, circuit, lot, coins, {}, None)
+    if hall.kind != "look":
+        raise InvalidOperation("a hall in which houses lie")
+    counts = list(counted_views(Talk(hall, circuit, None, False), inputs, lot, coins, {}).values())
+    found = 0
+    while rows_count(hall.field, found) < counts[0]:
+        found += 1
+    return found
