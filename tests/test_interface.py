@@ -3,6 +3,8 @@
 import importlib
 import inspect
 
+from evencoins.plan.circuits import Circuit
+from evencoins.talk.halls import Hall
 from tests.helper import PRODUCT, SMALL, Case
 
 CONSTANTS = {
@@ -23,6 +25,15 @@ CONSTANTS = {
         "WALL_WORDS": ("complaints", "answers", "votes"),
     },
     "evencoins.talk.letters": {"MOST_LIES": 300},
+    "evencoins.judge.counts": {"MOST_ROWS": 700},
+    "evencoins.judge.schemes": {"MAX_SECRETS": 8, "MAX_COINS": 24, "MAX_ROWS": 60},
+    "evencoins.watch.watches": {"MOST_KEPT": 4, "MOST_ACTS": 12},
+    "evencoins.judge.guards": {
+        "RULES": ("coins", "degree", "complaints", "answers", "votes", "errors", "nearest", "king", "bound"),
+        "MAX_ROWS": 700,
+    },
+    "evencoins.text.texts": {"MOST_TEXT": 200000},
+    "evencoins.judge.locked": {"MAX_LINES": 12, "MAX_ENTRY": 60, "MAX_LOTS": 12},
 }
 FUNCTIONS = {
     "evencoins.base.field": {
@@ -68,12 +79,39 @@ FUNCTIONS = {
         "most_heard": 1, "kept": 3, "phases": 4, "agreed": 4, "walled": 5, "settling": 4, "latest": 2, "late_paper": 2,
         "is_late_paper": 3,
     },
+    "evencoins.judge.views": {"are_alike": 2, "exchanged": 2, "is_exchange": 3, "made_view": 6},
+    "evencoins.judge.sound": {
+        "common_poly": 3, "is_common_paper": 4, "truths": 1, "product_word": 2, "errors_in": 2, "fault": 1, "is_sound": 1,
+    },
+    "evencoins.judge.counts": {
+        "row_count": 3, "coin_rows": 3, "view_counts": 6, "alike_rows": 4, "even_or_parted": 7, "is_even_paper": 8,
+        "count_power": 5,
+    },
+    "evencoins.judge.schemes": {
+        "view": 4, "due": 3, "parting": 2, "is_parting": 3, "least_parted": 2, "rows_behind": 2, "recipe": 2,
+        "is_recipe": 3, "scheme_of": 2,
+    },
+    "evencoins.watch.watches": {"seen": 2, "widths": 2, "numbers_told": 2, "exchanged": 3, "is_exchange": 4},
+    "evencoins.judge.guards": {"is_explained": 1, "is_parted": 2, "broken_run": 1, "is_broken_run": 2},
+    "evencoins.text.texts": {
+        "plain_text": 1, "read_plain": 1, "circuit_text": 1, "read_circuit": 1, "run_text": 1, "read_run": 1,
+        "is_run_text": 1, "tight": 2, "is_tight": 2, "told_lies": 1,
+    },
+    "evencoins.judge.locked": {
+        "tree_or_locked": 1, "is_tree_paper": 2, "talk_along": 4, "sum_or_square": 1, "is_sum_paper": 2,
+        "two_that_cover": 2, "holders": 2, "split": 5,
+    },
 }
 # The functions and classes with keywords, and these with what counts if they are not passed.
 KEYWORDS = {
     ("evencoins.talk.halls", "round_kinds"): {"lines": False}, ("evencoins.talk.halls", "rounds"): {"lines": False},
     ("evencoins.talk.letters", "is_lies"): {"lines": False},
     ("evencoins.talk.houses", "House"): {"without": None, "lines": False},
+    ("evencoins.talk.runs", "Run"): {"without": None, "lot": (), "lines": False, "lies": None},
+    ("evencoins.judge.views", "made_view"): {"lines": False, "lies": None},
+    ("evencoins.judge.counts", "view_counts"): {"without": None},
+    ("evencoins.judge.counts", "even_or_parted"): {"without": None},
+    ("evencoins.judge.counts", "is_even_paper"): {"without": None},
 }
 CIRCUIT = (("input", 1),), ((0, (1,)),)
 # For each class what makes an object, its methods and its properties with their kinds.
@@ -87,6 +125,17 @@ CLASSES = {
         (SMALL, PRODUCT, 1, (3,), (2, 5)), {"secrets": 0, "says": 0, "hearing": 2},
         {"number": int, "round": int, "is_done": bool, "shares": dict, "dealt": dict, "taken": tuple, "outputs": dict,
          "view": tuple}),
+    ("evencoins.talk.runs", "Run"): (
+        (SMALL, PRODUCT, (3, 4), {1: (1, 2), 2: (3, 4), 3: (5,)}), {},
+        {"hall": Hall, "circuit": Circuit, "inputs": tuple, "coins": dict, "lot": tuple, "lies": dict, "lines": bool,
+         "without": type(None), "rounds": int, "houses": dict, "letters": dict, "shares": dict, "committed": tuple,
+         "outputs": dict, "view": tuple}),
+    ("evencoins.judge.schemes", "Scheme"): (
+        (5, 2, (1, 2), (1,), ((2, (0, 1, 0, 1)),), ()), {},
+        {"field": int, "houses": int, "owners": tuple, "coins": tuple, "letters": tuple, "outputs": tuple}),
+    ("evencoins.watch.watches", "Watch"): (
+        (SMALL, (3,), ((1,),)), {"refreshed": 1, "mended": 2},
+        {"hall": Hall, "numbers": tuple, "coins": tuple, "epoch": int, "shares": tuple, "acts": tuple}),
 }
 
 

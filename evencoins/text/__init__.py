@@ -1,0 +1,1 @@
+"""Texts of plain values, circuits and runs."""

@@ -1,0 +1,1 @@
+"""Numbers that are kept for long, among foes that move."""
