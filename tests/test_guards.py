@@ -254,6 +254,11 @@ class BrokenTest(Case):
         self.is_false(is_broken_run("bound", value[:7] + ((1,),)))
         self.is_false(is_broken_run("bound", value[:7] + ((True,),)))
         self.is_false(is_broken_run("bound", value[:5] + ((3,),) + value[6:]))
+        # With lies on the wall; a parted run has a wall.
+        coins = {1: (1, 2), 2: (), 3: (), 4: (), 5: ()}
+        for lies, right in (({}, True), ({(5, 2, 0): ()}, True), ({(5, 2, 1): ()}, False), ({(7, 2, 1): ()}, False)):
+            value = ("parted", LARGE, own, (1,), coins, (2, 3), lies, (0,))
+            self.assertIs(is_broken_run("bound", value), right)
         value = ("parted", FIVE3, SECRET, (1, 1), {1: (1, 1), 2: (2, 2), 3: (3,)}, (3,), {}, (0, 0))
         self.is_true(is_broken_run("coins", value))
         self.is_false(is_broken_run("coins", value[:7] + ((1, 1),)))

@@ -25,6 +25,10 @@ WALL = ("complaints", "answers", "votes")
 MIXED = Circuit((
     ("input", 2), ("input", 1), ("constant", 3), ("input", 2), ("product", 0, 1), ("product", 3, 2), ("times", 4, 5),
     ("sum", 6, 5), ("product", 7, 0), ("sum", 8, 2)), ((9, (1, 3)), (0, (1,)), (2, (2, 3)), (4, (3,))))
+# Three inputs of one house, and three products in one level.
+TRIPLE = Circuit((
+    ("input", 3), ("input", 1), ("input", 3), ("input", 3), ("product", 0, 1), ("product", 2, 3), ("product", 1, 1),
+    ("sum", 4, 5), ("sum", 7, 6)), ((8, (1, 3)), (4, (2,)), (5, (3,)), (6, (1, 2))))
 
 
 class Model:
@@ -338,7 +342,7 @@ class TalksTest(Case):
     def test_all_follow_the_rules(self):
         told = random.Random(1)
         for hall in (SMALL, LARGE, Hall(5, 4, 1, "look"), Hall(7, 6, 1, "lie"), Hall(997, 5, 2, "look")):
-            for circuit in (PLAIN, BARE, PRODUCT, DEEP, MIXED) if hall.field > 5 else (PLAIN, BARE, PRODUCT):
+            for circuit in (PLAIN, BARE, PRODUCT, DEEP, MIXED, TRIPLE) if hall.field > 5 else (PLAIN, BARE, PRODUCT, TRIPLE):
                 for lines in (False, True):
                     inputs, houses = self.play(told, hall, circuit, lines=lines)
                     self.is_right(hall, circuit, (), inputs, houses)
@@ -363,7 +367,7 @@ class TalksTest(Case):
 
     def test_lies(self):
         told = random.Random(3)
-        for circuit in (PLAIN, BARE, PRODUCT, DEEP, MIXED):
+        for circuit in (PLAIN, BARE, PRODUCT, DEEP, MIXED, TRIPLE):
             for index in range(4 if circuit is DEEP else 8):
                 for hall in (LARGE, Hall(11, 6, 1, "lie")):
                     lot = (told.choice(hall.places),)

@@ -155,10 +155,57 @@ class TreeTest(Case):
                 (("locked", (0, 1), (0,), links, ()), False), (("locked", (0,), (0, 1), (), links), False),
                 (("locked", (0,), (0,), (), ()), False), (("locked", (), (), (), ()), False),
                 (("locked", (0, 1), (0, 1), ((0, 2, 0),), links), False), (("locked", (0, 1), (0, 1), ((0, 1, 2),), links), False),
-                (("locked", (1, 0), (0, 1), links, links), False), (("locked", (0, 1), (0, 3), links, links), False),
+                (("locked", (0, 1), (0, 1), ((2, 0, 0), (0, 1, 0)), links), False),
+                (("locked", (0, 1), (0, 1), ((0, 1, 0, 0),), links), False), (("locked", (0, 1), (0, 1), ((0, 1),), links), False),
+                (("locked", (0, 2), (0, 1), ((0, 2, 0),), links), False), (("locked", (0, 1), (), links, links), False),
+                (("locked", (), (0, 1), links, links), False), (("locked", (1, 0), (0, 1), links, links), False), (("locked", (0, 1), (0, 3), links, links), False),
                 (("locked", (False, True), (0, 1), links, links), False), (("locked", (0, 1), (0, 1), [(0, 1, 0)], links), False),
                 (("locked", (0, 1), (0, 1), ((0, True, 0),), links), False), (("locked", (0, 1), (0, 1), links), False)):
             self.assertIs(is_tree_paper(part, paper), right, paper)
+
+    def splits(self, lines):
+        """All ways to split lines into two classes, or to leave them together."""
+        for size in range(1, len(lines) + 1):
+            for held in combinations(lines, size):
+                others = tuple(line for line in lines if line not in held)
+                yield (held, others) if others else (held,)
+
+    def any_trees(self, square, rows, columns):
+        """What looks like trees, with classes that may hang together."""
+        yield "flat", square[rows[0]][columns[0]]
+        for word, lines in (("rows", rows), ("columns", columns)):
+            for classes in self.splits(lines):
+                if len(classes) == 2:
+                    parts = [list(self.any_trees(square, held, columns) if word == "rows" else
+                                  self.any_trees(square, rows, held)) for held in classes]
+                    for trees in product(*parts):
+                        yield word, classes, trees
+
+    def test_all_trees_of_small_squares(self):
+        found = {True: 0, False: 0}
+        for height, width, most in ((2, 2, 3), (1, 3, 3), (3, 1, 3), (2, 3, 2)):
+            for entries in product(range(most), repeat=height * width):
+                square = tuple(entries[row * width:(row + 1) * width] for row in range(height))
+                rows, columns = tuple(range(height)), tuple(range(width))
+                for tree in list(self.any_trees(square, rows, columns))[:150]:
+                    right = is_tree_by(square, rows, columns, tree)
+                    found[right] += 1
+                    self.assertIs(is_tree_paper(square, ("tree", tree)), right)
+        self.assertGreater(min(found.values()), 300)
+
+    def test_links_out_of_the_part(self):
+        # The rows are linked by the last column alone.
+        square = ((0, 0, 7), (1, 1, 7))
+        for links in (((0, 1, 2),), ((0, 0, 0), (0, 1, 2)), ((1, 0, 2), (0, 0, 1))):
+            self.is_false(is_tree_paper(square, ("locked", (0, 1), (0, 1), links, ((0, 1, 0),))))
+            self.is_false(is_tree_paper(transposed(square), ("locked", (0, 1), (0, 1), ((0, 1, 0),), links)))
+            self.is_false(is_tree_paper(square, ("locked", (0, 1), (0, 1, 2), links, ((0, 1, 0),))))
+
+    def test_one_class_is_none(self):
+        inner = ("rows", ((0,), (1,)), (("flat", 1), ("flat", 2)))
+        self.is_true(is_tree_paper(((1,), (2,)), ("tree", inner)))
+        self.is_false(is_tree_paper(((1,), (2,)), ("tree", ("rows", ((0, 1),), (inner,)))))
+        self.is_false(is_tree_paper(((1,), (2,)), ("tree", ("columns", ((0,),), (inner,)))))
 
     def test_values_near_it(self):
         for square in (((1, 1), (2, 3)), ((0, 0), (0, 1)), ((4,),), ((0, 1, 2), (1, 2, 0))):
@@ -166,6 +213,8 @@ class TreeTest(Case):
             self.judges(is_tree_paper, (square,), [("tree", odd) for odd in ODD])
             self.judges(is_tree_paper, (square,), [("locked",) + (odd,) * 4 for odd in ODD])
         self.accepts(is_tree_paper, (((1, 1), (2, 3)),), ("tree", TREE))
+        self.accepts(is_tree_paper, (((0, 0), (0, 1)),), tree_or_locked(((0, 0), (0, 1))))
+        self.judges(is_tree_paper, (((0, 0), (0, 1)),), [(), ("tree",), ("locked",), ("Locked", (0, 1), (0, 1), ((0, 1, 0),), ((0, 1, 0),))])
 
     def test_no_talk(self):
         """[24.3] Never both: each class of a tree that has one row of a locked part has all."""
@@ -281,6 +330,12 @@ class SumTest(Case):
                 for other in sums:
                     self.assertIs(is_sum_paper(bits, sums[other]), other == bits)
 
+    def test_rows_are_bits(self):
+        bits = (0, 0, 0, 0, 0, 0, 0, 1)
+        self.is_true(is_sum_paper(bits, ("square", 1, 2, (0, 0, 1))))
+        for row in ((0, 0, 2), (0, 0, -1), (0, 0), (0, 0, 1, 0), (0, 0, True), [0, 0, 1], (False, 0, 1)):
+            self.is_false(is_sum_paper(bits, ("square", 1, 2, row)))
+
     def test_more_bits(self):
         told = random.Random(5)
         for many in (4, 5, 6):
@@ -297,6 +352,7 @@ class SumTest(Case):
             self.accepts(is_sum_paper, (bits,), sum_or_square(bits))
             self.judges(is_sum_paper, (bits,))
             self.judges(is_sum_paper, (bits,), [("sum", odd, ()) for odd in ODD] + [("sum", 0, odd) for odd in ODD if odd != ()])
+            self.judges(is_sum_paper, (bits,), [(), ("sum",), ("sum", 2, (1, 2)), ("sum", 3, (1, 2)), ("sum", -1, (1, 2)), ("sum", 2, ())])
             self.judges(is_sum_paper, (bits,), [("square", odd, 2, (0, 0)) for odd in ODD])
             self.judges(is_sum_paper, (bits,), [("square", 1, 2, odd) for odd in ODD])
 

@@ -17,7 +17,7 @@ from tests.talks import (
     random_lot, random_parts, value_through,
 )
 from tests.test_halls import BARE, DEEP, LINES, PLAIN
-from tests.test_houses import MIXED
+from tests.test_houses import MIXED, TRIPLE
 
 THREE = Hall(7, 3, 1, "look")
 RUN_PARTS = (THREE, SUM, (3, 5), {1: (2,), 2: (4,), 3: ()})
@@ -99,7 +99,7 @@ class DrivenTest(Case):
     def test_all_follow_the_rules(self):
         told = random.Random(1)
         for hall in HALLS:
-            for circuit in (PLAIN, BARE, PRODUCT, MIXED, CHAIN) if hall is not WIDE else (PRODUCT,):
+            for circuit in (PLAIN, BARE, PRODUCT, MIXED, CHAIN, TRIPLE) if hall is not WIDE else (PRODUCT,):
                 inputs, coins = random_parts(told, hall, circuit)
                 run = self.is_driven(hall, circuit, inputs, coins, random_lot(told, hall))
                 self.is_right(run)
@@ -109,7 +109,7 @@ class DrivenTest(Case):
         told = random.Random(2)
         for hall, many in ((LARGE, 24), (LIE6, 10), (WIDE, 3)):
             for index in range(many):
-                circuit = (PLAIN, PRODUCT, MIXED, DEEP, CHAIN, BOTH)[index % 6] if hall is not WIDE else PRODUCT
+                circuit = (PLAIN, PRODUCT, MIXED, DEEP, CHAIN, BOTH, TRIPLE)[index % 7] if hall is not WIDE else PRODUCT
                 lot = random_lot(told, hall)
                 inputs, coins = random_parts(told, hall, circuit)
                 lies = random_lies(told, hall, circuit, lot, many=told.choice((1, 5, 10)))

@@ -230,6 +230,8 @@ class PartingTest(Case):
             self.judges(is_parting, (scheme, lot), [("even", odd) for odd in ODD if odd != ()])
             self.judges(is_parting, (scheme, lot), [("parted", odd, (1,)) for odd in ODD])
             self.judges(is_parting, (scheme, lot), [("parted", (1, 0), odd) for odd in ODD])
+            self.judges(is_parting, (scheme, lot), [(), ("even",), ("parted",), ("parted", (1, 0)), ("parted", (1, 0), ()),
+                                                    ("parted", (1, 0), (1,), ()), ("even", (), ())])
         told = Scheme(5, 2, (1,), (), ((2, (0, 1)),), ())
         self.accepts(is_parting, (told, (2,)), ("parted", (1,), (1,)))
         self.is_true(is_parting(told, (2,), ("parted", (2,), (3,))))
@@ -295,7 +297,7 @@ class RecipeTest(Case):
         self.assertEqual(recipe(hidden, 0)[0], "hidden")
         for scheme in (OPEN, hidden):
             self.judges(is_recipe, (scheme, 0))
-            self.judges(is_recipe, (scheme, 0), [("told", odd, (0, 1)) for odd in ODD])
+            self.judges(is_recipe, (scheme, 0), [("told", odd, (0, 1)) for odd in ODD] + [(), ("told", 5, (0, 1)), ("told", -5, (0, 1))])
             self.judges(is_recipe, (scheme, 0), [("told", 0, odd) for odd in ODD])
             self.judges(is_recipe, (scheme, 0), [("hidden", odd, (4,)) for odd in ODD])
             self.judges(is_recipe, (scheme, 0), [("hidden", (1, 0), odd) for odd in ODD])
@@ -343,6 +345,12 @@ class HallTest(Case):
                 (2, share(6, 3))]
         self.assertEqual(scheme.letters[6:], tuple(last))
         self.assertEqual(scheme.outputs, ((1, (3, 4, 4, 0)), (3, (3, 4, 4, 0)), (2, (0, 0, 0, 1)), (3, (0, 1, 1, 0))))
+
+    def test_outputs_that_are_constants(self):
+        circuit = Circuit((("input", 1), ("constant", 4), ("sum", 1, 1)), ((1, (2,)), (2, (3,)), (0, (3,))))
+        scheme = scheme_of(SMALL, circuit)
+        self.assertEqual(scheme.outputs, ((2, (4, 0)), (3, (1, 0)), (3, (0, 1))))
+        self.assertEqual([row for house, row in scheme.letters if house == 2], [(0, 1, 2), (4, 0, 0), (4, 0, 0)])
 
     def test_even_for_all_lots(self):
         for hall, circuit in ((SMALL, SUM), (SMALL, LINEAR), (LOOK5, SUM), (LOOK5, PLAIN), (SMALL, PLAIN)):

@@ -159,6 +159,10 @@ class CommonTest(Case):
                 self.judges(is_common_paper, (7, shares, 1), [
                     (word, odd) for odd in ((1, True), (0, 0), [1], None, 1, (7,), (1, 2, 4, 4), (1, 2, True), (2, 1, 4))])
         self.is_false(is_common_paper(7, {1: 1, 2: 1, 3: 1}, 1, ("poly", (True,))))
+        # Just d + 2 places, not more of them.
+        self.is_true(is_common_paper(7, {1: 0, 2: 0, 3: 1, 4: 3}, 1, ("places", (1, 2, 3))))
+        self.is_false(is_common_paper(7, {1: 0, 2: 0, 3: 1, 4: 3}, 1, ("places", (1, 2, 3, 4))))
+        self.judges(is_common_paper, (7, {1: 0, 2: 0, 3: 1, 4: 3}, 1), [(), ("poly",), ("places",), ("places", (1, 2))])
         self.is_true(is_common_paper(7, {1: 1, 2: 1}, 2, ("poly", (1,))))
         # Any poly of the degree will do if the places are few.
         self.is_true(is_common_paper(7, {1: 1}, 1, ("poly", (0, 1))))
@@ -251,6 +255,29 @@ class SoundTest(Case):
         # More led houses than the bound tells: their dealings agree on a product that is off.
         lies = {(6, house, goal): None for house in (1, 2) for goal in range(1, 6) if goal != house}
         self.assertEqual(self.broken("bound", PRODUCT, (4, 4), (1, 2), lies), ("meaning", 2))
+
+    def test_who_has_taken_what(self):
+        """All shares are 0, whether a dealing is taken or not, but some free houses have taken it, and others have not."""
+        circuit = Circuit((("input", 1),), ((0, (2, 3)),))
+        lies = {(1, 1, 2): ((1, 1),)}
+        for goal, vote in ((2, 1), (3, 1), (4, 0), (5, 0)):
+            lies[13, 1, goal] = (vote,)
+            lies[15, 1, goal] = ((vote,), (0,), (1,), (1,), (1,))
+        coins = {1: (0, 2), 2: (), 3: (), 4: (), 5: ()}
+        run = Run(LARGE, circuit, (0,), coins, lot=(1,), lies=lies, lines=True, without="king")
+        self.assertEqual([set(run.shares[0][1:]), [(0, 0) in house.taken for house in run.houses.values()][1:]],
+                         [{0}, [True, True, False, False]])
+        self.assertEqual([fault(run), fault_by(run)], [("dealt", 0, 0)] * 2)
+        run = Run(LARGE, circuit, (0,), coins, lot=(1,), lies=lies, lines=True)
+        self.assertEqual([fault(run), fault_by(run)], [None] * 2)
+
+    def test_what_led_houses_have_does_not_matter(self):
+        # House 1 deals another number than its own; by the first shares, its own one among them, it opens a wrong one.
+        circuit = Circuit((("input", 1),), ((0, (1, 3)),))
+        lies = {(3, 1, 0): (), (4, 1, 0): (), (6, 1, 3): (5,), **{(1, 1, goal): ((5, 0),) for goal in (2, 3, 4, 5)}}
+        run = Run(LARGE, circuit, (3,), {1: (1, 1), 2: (), 3: (), 4: (), 5: ()}, lot=(1,), lies=lies, without="nearest")
+        self.assertEqual([run.outputs[0, 3], run.outputs[0, 1] == 5], [5, False])
+        self.assertEqual([fault(run), fault_by(run)], [None] * 2)
 
     def test_errors(self):
         coins = {house: (2,) * (4 if house < 3 else 2) for house in LARGE.places}

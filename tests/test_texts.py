@@ -304,10 +304,12 @@ class RunTest(Texts):
                      "hall 7 5 1", "hall 7 5 lie", "hall 7 5 1 lie line", "hall 7 5 1 lie lines lines", "hall 7 5 1 lie without",
                      "hall 7 5 1 lie without rows", "hall 7 5 1 lie without king lines", "hall 7 5 1 lie lines without king 1",
                      "hall 7 5 1 lie coins", "Hall 7 5 1 lie", "hall 7 5 3 look", "hall 997 10 1 look", "hall 1009 5 1 lie",
-                     "hall 7 4 1 lie", "hall 7 3 1 lie", "lie 7 5 1 lie", "input 1", ""):
+                     "hall 7 4 1 lie", "hall 7 3 1 lie", "lie 7 5 1 lie", "input 1", "", "hall 7 x 1 lie", "hall x 5 1 lie",
+                     "hall 07 5 1 lie", "hall 7 5 1 lie with king", "hall 7 5 1 lie lines with king", "hall 7 -5 1 lie"):
             self.wrong_at(0, read_run, line + self.HEAD[14:] + self.COINS + "lot 1\n")
         for line in ("hall 7 5 1 lie", "hall 7 5 1 lie lines", "hall 7 5 1 lie without king", "hall 7 5 1 lie lines without bound"):
             self.assertEqual(run_text(read_run(line + self.HEAD[14:] + self.COINS + "lot 1\n")).split("\n")[0], line)
+        self.assertEqual(read_run("hall 7 6 1 lie" + self.HEAD[14:] + self.COINS + "coins 6 1 2\nlot 6\n").lot, (6,))
 
     def test_parts_for_the_hall(self):
         for text, spot in (
@@ -316,7 +318,8 @@ class RunTest(Texts):
                 (self.HEAD.replace("3 5", "3 7"), 5), (self.HEAD.replace("3 5", "3"), 5), (self.HEAD.replace("3 5", "3 5 1"), 5),
                 (self.HEAD.replace("inputs", "input"), 5), (self.HEAD + self.COINS.replace("coins 3 1 2", "coins 3 1"), 8),
                 (self.HEAD + self.COINS.replace("coins 3 1 2", "coins 4 1 2"), 8), (self.HEAD + self.COINS[:16] + self.COINS, 7),
-                (self.HEAD + self.COINS.replace("coins 3 1 2", "coins 3 1 7"), 8), (self.HEAD + self.COINS, 11),
+                (self.HEAD + self.COINS.replace("coins 3 1 2", "coins 3 1 7"), 8), (self.HEAD + self.COINS.replace("coins 3 1 2", "coins 3 7 1"), 8),
+                (self.HEAD + self.COINS, 11),
                 (self.HEAD + self.COINS.replace("coins 5 1 2", "coin 5 1 2"), 10), (self.HEAD + self.COINS + "lot 6\n", 11),
                 (self.HEAD + self.COINS + "lot 1 2\n", 11), (self.HEAD + self.COINS + "lot 0\n", 11),
                 (self.HEAD + self.COINS + "lot 1", 11), (self.HEAD + self.COINS + "lot \n", 11), (self.HEAD, 6),
@@ -477,6 +480,15 @@ class ToldTest(Case):
             self.raises(Refused, ("look",), told_lies, Run(hall, SUM, inputs, coins, lot=(2,)))
         self.refuses(told_lies, (run,), (WRONG_RUNS,))
         self.assertIs(WRONG_RUNS[0], InvalidRun)
-        # Three hundred at most: without a wall one led house of five tells 36 rounds.
+        # Just three hundred, of two led houses among five, and one level more.
+        for levels in (9, 10):
+            chain = Circuit((("input", 1),) + tuple(("product", k, k) for k in range(levels)), ((levels, (1, 2)),))
+            inputs, coins = random_parts(told, LARGE, chain)
+            run = Run(LARGE, chain, inputs, coins, lot=(1, 2), without="bound")
+            if levels == 9:
+                self.assertEqual(len(told_lies(run).lies), 300)
+            else:
+                self.raises(TooMany, 300, told_lies, run)
+        # Without a wall one led house of five tells 36 rounds.
         inputs, coins = random_parts(told, LARGE, PRODUCT)
         self.assertEqual(len(told_lies(Run(LARGE, PRODUCT, inputs, coins, lot=(2,), lines=True)).lies), 36 * 4)

@@ -18,7 +18,7 @@ from tests.talks import (
     BOTH, CHAIN, LIE6, LOOK5, LOOK7, RULES, SUM, WIDE, own_of, random_lies, random_lot, random_parts, value_through,
 )
 from tests.test_halls import BARE, LINES, PLAIN
-from tests.test_houses import MIXED
+from tests.test_houses import MIXED, TRIPLE
 from tests.test_runs import LOTS, RUN_PARTS, THREE, wrong_coins
 
 RUN = Run(*RUN_PARTS, lot=(3,))
@@ -177,7 +177,7 @@ class ExchangeTest(Case):
         told = random.Random(2)
         found = {True: 0, False: 0}
         for hall in (SMALL, LOOK5, LOOK7):
-            for circuit in (SUM, HIDDEN, BOTH, MIXED, CHAIN):
+            for circuit in (SUM, HIDDEN, BOTH, MIXED, CHAIN, TRIPLE):
                 for index in range(6):
                     inputs, coins = random_parts(told, hall, circuit)
                     run = Run(hall, circuit, inputs, coins, lot=random_lot(told, hall), lines=index == 5)
@@ -190,7 +190,7 @@ class ExchangeTest(Case):
         words = (None, ("rows",), ("points",), ("complaints",), ("answers",), ("votes",), ("syndromes",), ("outputs",))
         for hall, many in ((LARGE, 96), (LIE6, 40)):
             for index in range(many):
-                circuit = (HIDDEN, BOTH, PLAIN, CHAIN, PRODUCT)[index % 5]
+                circuit = (HIDDEN, BOTH, PLAIN, CHAIN, PRODUCT, TRIPLE)[index % 6]
                 lot = random_lot(told, hall)
                 inputs, coins = random_parts(told, hall, circuit)
                 lies = random_lies(told, hall, circuit, lot, many=told.choice((2, 6, 10)), words=words[index % 8])
@@ -291,6 +291,9 @@ class MadeTest(Case):
         inputs, coins = random_parts(told, WIDE, BOTH)
         lies = random_lies(told, WIDE, BOTH, (2, 3), many=3)
         self.is_made(Run(WIDE, BOTH, inputs, coins, lot=(2, 3), lies=lies))
+        # What led houses tell one another in the last round is as they tell it.
+        for lie in (None, (), 5, ((),), (1, 2)):
+            self.is_made(Run(WIDE, BOTH, inputs, coins, lot=(2, 3), lies={(12, 2, 3): lie, (12, 3, 2): lie}))
 
     def test_told_outputs_of_all_kinds(self):
         """What is told need not be what the circuit tells: the shares of the free houses move by the hiding poly."""

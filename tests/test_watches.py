@@ -358,6 +358,10 @@ class ExchangeTest(Case):
         self.is_true(is_exchange(mended, foe, (5,), other.mended(1, zeros[1:])))
         self.is_false(is_exchange(mended, foe, (5,), other.mended(2, zeros[1:])))
         self.is_false(is_exchange(one, foe, (5,), Watch(Hall(7, 6, 2, "look"), (5,), other.coins)))
+        # Nothing is seen, but another house is mended.
+        nobody = (((), ()),)
+        self.is_true(is_exchange(mended, nobody, (5,), other.mended(1, zeros[1:])))
+        self.is_false(is_exchange(mended, nobody, (5,), other.mended(2, zeros[1:])))
 
     def test_wide(self):
         told = random.Random(9)

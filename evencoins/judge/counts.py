@@ -2,6 +2,7 @@
 
 from evencoins.base.field import rows_count
 from evencoins.errors import InvalidOperation, TooMany
+from evencoins.judge.views import lot_outputs
 from evencoins.plan.circuits import meaning_of
 from evencoins.talk.courses import Course, check_all_coins, check_foe, check_inputs, free_of, view_of
 from evencoins.talk.halls import check_talk, needed_coins
@@ -9,7 +10,6 @@ from evencoins.talk.letters import check_lot
 from evencoins.talk.runs import check_lies
 from evencoins.talk.seats import check_without
 from evencoins.talk.talks import Talk
-from evencoins.judge.views import lot_outputs
 
 MOST_ROWS = 700
 
@@ -63,11 +63,16 @@ def coin_rows(hall, circuit, lot):
         yield row
 
 
+def all_views(talk, inputs, lot, coins, lies):
+    """The list of the views that the rows make, row by row."""
+    rows = all_coin_rows(talk.hall, talk.circuit, lot)
+    return [view_of(Course(talk, inputs, {**row, **coins}, lot, lies)) for row in rows]
+
+
 def counted_views(talk, inputs, lot, coins, lies):
     """The dict from the views to their counts, ascending."""
     counts = {}
-    for row in all_coin_rows(talk.hall, talk.circuit, lot):
-        view = view_of(Course(talk, inputs, {**row, **coins}, lot, lies))
+    for view in all_views(talk, inputs, lot, coins, lies):
         counts[view] = counts.get(view, 0) + 1
     return {view: counts[view] for view in sorted(counts)}
 
@@ -104,20 +109,20 @@ def alike_rows(hall, circuit, inputs, lot):
                   if lot_outputs(circuit, lot, meaning_of(hall.field, circuit.gates, row)) == right])
 
 
-def both_counts(hall, circuit, one, other, lot, coins, lies, without):
-    """The counts for both inputs, if all parts are right."""
+def check_both(hall, circuit, one, other, lot, coins, lies, without):
+    """Refuse what are not the parts of counts for two inputs; the talk of these parts."""
     check_talk(hall, circuit)
     check_inputs(hall, circuit, one)
     check_inputs(hall, circuit, other)
     check_foe_parts(hall, circuit, lot, coins, lies, without)
-    talk = Talk(hall, circuit, without, False)
-    counts = counted_views(talk, one, lot, coins, lies)
-    return counts, counts if one == other else counted_views(talk, other, lot, coins, lies)
+    return Talk(hall, circuit, without, False)
 
 
 def even_or_parted(hall, circuit, one, other, lot, coins, lies, *, without=None):
     """Either the number of the views, which have equal counts, or a view that has unlike ones."""
-    counts, others = both_counts(hall, circuit, one, other, lot, coins, lies, without)
+    talk = check_both(hall, circuit, one, other, lot, coins, lies, without)
+    counts = counted_views(talk, one, lot, coins, lies)
+    others = counts if one == other else counted_views(talk, other, lot, coins, lies)
     unlike = [view for view in list(counts) + list(others) if counts.get(view, 0) != others.get(view, 0)]
     if not unlike:
         return "even", len(counts)
@@ -131,17 +136,27 @@ def is_strict(value):
     return value is None or isinstance(value, int) and not isinstance(value, bool)
 
 
+def is_paper_form(value):
+    """Whether the value is a number behind "even", or a view and two unlike counts behind "parted"."""
+    if not isinstance(value, tuple) or not value or not is_strict(value[1:]):
+        return False
+    if value[0] == "even":
+        return len(value) == 2
+    return value[0] == "parted" and len(value) == 4 and value[2] != value[3]
+
+
 def is_even_paper(hall, circuit, one, other, lot, coins, lies, value, *, without=None):
     """Whether the value shows that the counts are equal, or that they are not."""
-    counts, others = both_counts(hall, circuit, one, other, lot, coins, lies, without)
-    if not isinstance(value, tuple) or not 2 <= len(value) <= 4 or not is_strict(value[1:]):
+    talk = check_both(hall, circuit, one, other, lot, coins, lies, without)
+    if not is_paper_form(value):
         return False
-    if value[0] == "even" and len(value) == 2:
-        return counts == others and value[1] == len(counts)
-    if value[0] != "parted" or len(value) != 4:
+    if value[0] == "even":
+        counts = counted_views(talk, one, lot, coins, lies)
+        return value[1] == len(counts) and counts == counted_views(talk, other, lot, coins, lies)
+    word, view, many, more = value
+    if all_views(talk, one, lot, coins, lies).count(view) != many:
         return False
-    view, many, more = value[1:]
-    return many != more and many == counts.get(view, 0) and more == others.get(view, 0)
+    return all_views(talk, other, lot, coins, lies).count(view) == more
 
 
 def count_power(hall, circuit, inputs, lot, coins):

@@ -7,7 +7,7 @@ def coin_starts(hall, circuit):
     """For each input the place of its first coin, the coins standing by houses; and the owners of all coins."""
     starts = {}
     owners = []
-    for house, place in sorted([(house, place) for place, house in enumerate(circuit.houses)]):
+    for house, place in sorted([(owner, index) for index, owner in enumerate(circuit.houses)]):
         starts[place] = len(owners)
         owners.extend([house] * hall.most)
     return starts, tuple(owners)

@@ -63,7 +63,7 @@ def by_rounds(lies):
 
 def behind_letters(seats, memories, lies):
     """The memories behind a round over lines."""
-    heard = {goal: {sender: memories[sender]["letters"][goal] for sender in memories} for goal in memories}
+    heard = {house: {other: memories[other]["letters"][house] for other in memories} for house in memories}
     for sender, goal, value in lies:
         heard[goal][sender] = seats[goal].counted_from(memories[goal], sender, value)
     return {house: seats[house].behind(memories[house], heard[house]) for house in memories}
@@ -95,6 +95,11 @@ class Course:
         self.said = []
         self.memories = {house: seat.first_memory() for house, seat in self.seats.items()}
         self.go()
+
+    def __eq__(self, other):
+        if not isinstance(other, Course) or self.talk != other.talk or self.given != other.given:
+            return False
+        return self.drawn == other.drawn and self.foe == other.foe and self.table == other.table
 
     def go(self):
         """Go through all rounds."""

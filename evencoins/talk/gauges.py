@@ -80,12 +80,12 @@ def block_fits(field, places, most):
 def located(field, places, told, many):
     """The dict from at most so many places to numbers v, told[m] being the sum of v times place ** m; None if none.
 
-    There is at most one if at least twice as many sums are told. What is told, less the place times what is told
-    ahead of it, has no part of this place: so places are taken off, one by one.
+    `many` is at least 1. There is at most one such dict if at least twice as many sums are told. What is told, less
+    the place times what is told ahead of it, has no part of this place: so places are taken off, one by one.
     """
     if not any([x != 0 for x in told]):
         return {}
-    if many == 0 or many == 1 and told[0] == 0:
+    if many == 1 and told[0] == 0:
         return None
     if many == 1:
         place = told[1] * inverse(field, told[0]) % field

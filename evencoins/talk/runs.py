@@ -163,10 +163,9 @@ class Run:
         return view_of(self._course)
 
     def __eq__(self, other):
-        if not isinstance(other, Run) or self._course.talk != other._course.talk or self._on_lines != other._on_lines:
+        if not isinstance(other, Run) or self._on_lines != other._on_lines:
             return False
-        one, two = self._course, other._course
-        return one.given == two.given and one.drawn == two.drawn and one.foe == two.foe and one.table == two.table
+        return self._course == other._course
 
     def __str__(self):
         return f"run of {self.hall.houses} houses, {self.rounds} rounds, lot {self.lot}"

@@ -118,7 +118,7 @@ def without_lie(run, key):
 
 def is_no_question(value):
     """Whether the value is one of those that can't be asked."""
-    if value is None or isinstance(value, (int, str, bytes, tuple, list, dict)):
+    if value is None or isinstance(value, (int, str, tuple, list, dict)):
         return True
     return isinstance(value, (Hall, Circuit, House, Run, Scheme, Watch))
 

@@ -47,11 +47,13 @@ def mending_poly(field, house, row):
 
 
 def refreshed_shares(hall, shares, coins):
-    """The shares behind a refresh."""
+    """The shares behind a refresh: all that is dealt for a number is one poly, by the sums of the coins."""
     found = []
-    for index, row in enumerate(shares):
-        pieces = [evaluated_at_all(hall.field, refreshing_poly(rows[index]), hall.places) for rows in coins]
-        found.append(tuple([(share + sum(column)) % hall.field for share, column in zip(row, zip(*pieces))]))
+    for index, word in enumerate(shares):
+        rows = [each[index] for each in coins]
+        total = tuple([sum(column) % hall.field for column in zip(*rows)])
+        pieces = evaluated_at_all(hall.field, refreshing_poly(total), hall.places)
+        found.append(tuple([(share + piece) % hall.field for share, piece in zip(word, pieces)]))
     return tuple(found)
 
 
@@ -229,8 +231,8 @@ def seen_parts(watch, foe):
     """The dict of all that is seen, in no sequence."""
     hall = watch.hall
     shares = epoch_shares(watch)
-    found = {("share", epoch, house, k): word[house - 1] for epoch, houses in enumerate(seen_houses(foe))
-             for house in houses for k, word in enumerate(shares[epoch])}
+    found = {("share", at, house, k): word[house - 1] for at, houses in enumerate(seen_houses(foe))
+             for house in houses for k, word in enumerate(shares[at])}
     epoch = 0
     for index, act in enumerate(watch.acts):
         now, behind = foe[epoch]
@@ -306,12 +308,11 @@ def exchanged(watch, foe, numbers):
     check_foe_of(watch, foe)
     check_other_numbers(watch, numbers)
     hall = watch.hall
-    houses = seen_houses(foe)
-    for epoch, row in enumerate(houses):
-        if len(row) > hall.most:
-            raise Refused(("wide", epoch))
-    hidings = [hiding_poly(hall.field, row) for row in houses]
-    changes = [(other - one) % hall.field for one, other in zip(watch.numbers, numbers)]
+    wide = [epoch for epoch, houses in enumerate(seen_houses(foe)) if len(houses) > hall.most]
+    if wide:
+        raise Refused(("wide", wide[0]))
+    hidings = [hiding_poly(hall.field, houses) for houses in seen_houses(foe)]
+    changes = [(number - kept) % hall.field for kept, number in zip(watch.numbers, numbers)]
     coins = tuple([with_more(hall.field, row, change, hidings[0][1:]) for row, change in zip(watch.coins, changes)])
     later = Watch(hall, numbers, coins)
     for act in watch.acts:
