@@ -106,6 +106,17 @@ def with_place(field, place, total, found):
     return {**numbers, place: own} if own != 0 else numbers
 
 
+def is_smooth(field, word, degree):
+    """Whether a word at the places from 1 on is that of a poly of at most this degree.
+
+    It is if differences of differences, one time more than the degree tells, are all 0: each time the degree falls.
+    """
+    rest = word
+    for _ in range(degree + 1):
+        rest = [y - x for x, y in zip(rest, rest[1:])]
+    return not any([x % field != 0 for x in rest])
+
+
 class Gauge:
     """The numbers of one hall."""
 
@@ -124,7 +135,9 @@ class Gauge:
         return self.openings[0].number_in(word)
 
     def main_number(self, word, most):
-        """The number at 0 of the only poly that has all entries but so many, or 0."""
+        """The number at 0 of the only poly of the degree `most` that has all entries but so many, or 0."""
+        if is_smooth(self._order, word, most):
+            return self.first_number(word)
         for fit in self.openings:
             number = fit.number_among(word, most)
             if number is not None:

@@ -34,7 +34,7 @@ def are_plain(told):
 
 def ascending(told):
     """The dict with ascending keys."""
-    return {key: told[key] for key in sorted(told)}
+    return {key: told[key] for key in sorted(told)} if told else {}
 
 
 class Standing:

@@ -137,15 +137,16 @@ class Seat:
         name = text if word == "say" else word
         in_form = word not in ("tell", "king")
         pairs = () if batch is None else self._talk.batches[batch]
-        counts = self._talk.members_of_all(name, batch, self.own)
+        hall = self._hall
+        own = self.own
         found = {}
-        for sender, many in zip(self._hall.places, counts):
+        for sender, many in zip(hall.places, self._talk.members_of_all(name, batch, own)):
             value = told.get(sender)
-            if in_form and sender != self.own and has_form(self._hall, name, pairs, many, sender, value):
+            if in_form and sender != own and has_form(hall, name, pairs, many, sender, value):
                 found[sender] = value
             elif not is_plain(value):
                 return None
-            elif sender != self.own:
+            elif sender != own:
                 found[sender] = self.counted_from(memory, sender, value)
         found[self.own] = memory["letters"][self.own] if memory["text"] is None else memory["text"]
         return found
