@@ -1,17 +1,27 @@
-"""What the tests share: odd values, spoiled papers, and tables of wrong arguments."""
+"""What the tests share: odd values, spoiled papers, tables of wrong arguments, and how many steps a call takes."""
 
+import os
+import sys
 import unittest
 from itertools import product
 
+import evencoins
 from evencoins.errors import InvalidNumber, Refused, TooMany, UnknownName
 from evencoins.plan.circuits import Circuit
+from evencoins.talk.courses import Course
+from evencoins.talk.frames import Frame
 from evencoins.talk.halls import Hall
+from evencoins.talk.talks import Talk
 
 LONG = 10 ** 60
 LONGEST = 10 ** 100 - 1
 CIRCUIT = Circuit((("input", 1),), ((0, (1,)),))
 SMALL, LARGE = Hall(7, 3, 1, "look"), Hall(7, 5, 1, "lie")
 PRODUCT = Circuit((("input", 1), ("input", 2), ("product", 0, 1)), ((2, (1, 3)),))
+# Objects of the program's own inside, which the document does not list.
+TALK = Talk(LARGE, PRODUCT, None, False)
+FRAME = Frame(TALK, (2,), {})
+COURSE = Course(FRAME, (3, 4), {house: (1, 2) * (2 if house < 3 else 1) for house in LARGE.places})
 
 
 def nested(kind, depth):
@@ -29,6 +39,7 @@ ODD = (
     ((), ()), ([],), ({},), ((1,), [1]), (LONG,), (-1,), nested(tuple, 5), nested(list, 5), nested(dict, 5), (1,) * 70,
     ("solved",), ("barred", None), ("shift", {}), ("row", CIRCUIT), ("near", 1, 2), ("far", 1), ("coins", 1),
     ("apart", None), ("told", "1"), ("open", [1]), ([], []), ({}, {}, {}), (("near",), (1,), ()),
+    TALK, FRAME, (COURSE,),
 )
 
 WRONG_FIELDS = (
@@ -39,12 +50,12 @@ WRONG_FIELDS = (
 
 WRONG_HALLS = (
     None, True, False, 7, "look", "lie", (), (7, 3, 1, "look"), [7, 3, 1, "look"], {"field": 7}, CIRCUIT, LONGEST,
-    (SMALL,), [LARGE], nested(dict, 5),
+    (SMALL,), [LARGE], nested(dict, 5), TALK, COURSE,
 )
 WRONG_LIE_HALLS = WRONG_HALLS + (SMALL, Hall(11, 9, 4, "look"))
 # No circuits for a hall with the field 7 and less than nine houses.
 WRONG_CIRCUITS = (
-    None, True, 7, "circuit", (), PRODUCT.gates, (PRODUCT.gates, PRODUCT.outputs), [PRODUCT], {}, SMALL, (PRODUCT,),
+    None, True, 7, "circuit", (), PRODUCT.gates, (PRODUCT.gates, PRODUCT.outputs), [PRODUCT], {}, SMALL, (PRODUCT,), TALK,
     Circuit((("input", 9),), ((0, (1,)),)), Circuit((("input", 1),), ((0, (1, 9)),)),
     Circuit((("constant", 7),), ((0, (1,)),)), Circuit((("input", 1), ("times", 0, 7)), ((0, (1,)),)),
     Circuit((("input", 1), ("input", 9)), ((0, (1,)),)), Circuit((("constant", 996), ("constant", 1)), ((1, (1,)),)),
@@ -215,6 +226,32 @@ class Case(unittest.TestCase):
         self.is_true(function(*arguments, paper), (function.__name__, arguments, paper))
         for other in swapped(paper):
             self.is_false(function(*arguments, other), (function.__name__, arguments, other))
+
+
+def steps(call):
+    """How many steps, lines and parts of lines, a call takes in the files of the package."""
+    count, root = 0, os.path.dirname(evencoins.__file__) + os.sep
+
+    def step(frame, event, _):
+        nonlocal count
+        count += event in ("opcode", "line")
+        return step
+
+    def enter(frame, event, _):
+        if not frame.f_code.co_filename.startswith(root):
+            return None
+        frame.f_trace_opcodes = True
+        return step
+
+    before = sys.gettrace()
+    # Some Pythons tell of parts of lines only if a frame has asked for it ahead.
+    sys._getframe().f_trace_opcodes = True
+    sys.settrace(enter)
+    try:
+        call()
+    finally:
+        sys.settrace(before)
+    return count
 
 
 def keyed(function, many, *names):

@@ -8,7 +8,7 @@ from evencoins.talk.halls import Hall
 from evencoins.talk.kings import (
     agreed, is_late_paper, kept, late_paper, latest, most_heard, phases, settling, walled,
 )
-from tests.helper import LARGE, LONG, ODD, PRODUCT, WRONG_LIE_HALLS, Case, nested, wrong_numbers
+from tests.helper import LARGE, LONG, ODD, PRODUCT, WRONG_LIE_HALLS, Case, nested, steps, wrong_numbers
 from tests.test_halls import WIDE
 
 HALL = (InvalidHall, WRONG_LIE_HALLS)
@@ -247,6 +247,31 @@ class LateTest(Case):
             self.judges(is_late_paper, (LARGE, lot), [((0, 1, 1, 0, odd), {}) for odd in NOT_PLAIN])
 
 
+class CostTest(Case):
+
+    def test_settled_at_once(self):
+        lies = {(number, house, goal): 0 for number in range(1, 7) for house in (1, 2) for goal in WIDE.places
+                if goal != house}
+        for values in ((5,) * 9, (1, 2) + ((3,),) * 7):
+            self.assertEqual(settling(WIDE, values, (1, 2), lies), 0)
+            for told in ({}, lies):
+                self.assertLess(steps(lambda: settling(WIDE, values, (1, 2), told)),
+                                steps(lambda: phases(WIDE, values, (1, 2), told)))
+
+    def test_what_all_hear_is_counted_once(self):
+        values, lies = late_paper(WIDE, (1, 2))
+        told = {**lies, **{(number, 1, goal): 1 for number in (1, 3, 5) for goal in WIDE.places if goal != 1}}
+        self.assertLess(2 * steps(lambda: phases(WIDE, values, (1, 2), lies)),
+                        steps(lambda: phases(WIDE, values, (1, 2), told)))
+
+    def test_papers_are_judged_as_talks_are(self):
+        for hall in HALLS:
+            for lot in lots_of(hall):
+                values, lies = late_paper(hall, lot)
+                judging = steps(lambda: is_late_paper(hall, lot, (values, lies)))
+                self.assertLess(2 * judging, 3 * steps(lambda: settling(hall, values, lot, lies)))
+
+
 class RefusalsTest(Case):
 
     def values_of(self, many):
@@ -258,7 +283,8 @@ class RefusalsTest(Case):
     def lies_of(self, last):
         """What are no lies of house 2 for so many rounds."""
         keys = ((0, 2, 1), (last + 1, 2, 1), (1, 1, 2), (1, 2, 2), (1, 2, 0), (1, 2, 6), (1, 0, 1), (1, 6, 1),
-                (True, 2, 1), (1, True, 2), (1, 2, True), (1, 2), (1, 2, 1, 1), None, 1, "121", (), (None, 2, 1),
+                (True, 2, 1), (1, True, 2), (1, 2, True), (False, 2, 1), (1, False, 1), (1, 2, False), (1, 2), (1, 2, 1, 1),
+                None, 1, "121", (), (None, 2, 1),
                 (1, None, 1), (1, 2, None), ("1", 2, 1), (LONG, 2, 1), (-1, 2, 1), (1, (2,), 1))
         return (InvalidLies, tuple({key: 0} for key in keys) + tuple({(1, 2, 1): odd} for odd in NOT_PLAIN) + (
             None, (), [], 1, "", [(1, 2, 1)], PRODUCT, {(1, 2, 1): 0, (1, 2, 2): 0}))

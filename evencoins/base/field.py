@@ -12,15 +12,20 @@ SMALL_PRIMES = (2, 3, 5, 7, 11, 13, 17, 19, 23, 29, 31)
 
 
 def is_integer(value, least, most):
-    """Whether the value is an integer from the least to the most one."""
-    return isinstance(value, int) and not isinstance(value, bool) and least <= value <= most
+    """Whether the value is an integer from the least to the most one; True and False are none."""
+    return isinstance(value, int) and value is not True and value is not False and least <= value <= most
 
 
 def is_ascending(value, least, most):
     """Whether the value is an ascending tuple of such integers."""
-    if not isinstance(value, tuple) or not all([is_integer(x, least, most) for x in value]):
+    if not isinstance(value, tuple):
         return False
-    return all([one < other for one, other in zip(value, value[1:])])
+    ahead = least - 1
+    for x in value:
+        if not isinstance(x, int) or x is True or x is False or not ahead < x <= most:
+            return False
+        ahead = x
+    return True
 
 
 def is_field(value):
@@ -44,7 +49,7 @@ def are_numbers(field, value):
     if not isinstance(value, tuple):
         return False
     for x in value:
-        if not isinstance(x, int) or isinstance(x, bool) or not 0 <= x < field:
+        if not isinstance(x, int) or x is True or x is False or not 0 <= x < field:
             return False
     return True
 

@@ -2,11 +2,15 @@
 
 from evencoins.base.field import rows_count
 from evencoins.errors import InvalidOperation, TooMany
-from evencoins.judge.views import lot_outputs
+from evencoins.judge.views import told_indices
+from evencoins.plan.cases import meaning_rows
 from evencoins.plan.circuits import meaning_of
-from evencoins.talk.courses import Course, check_all_coins, check_foe, check_inputs, free_of, view_of
+from evencoins.talk.courses import Course
+from evencoins.talk.frames import Frame
+from evencoins.talk.given import check_all_coins, check_foe, check_inputs, free_of
 from evencoins.talk.halls import check_talk, needed_coins
 from evencoins.talk.letters import check_lot
+from evencoins.talk.records import heard_by_lot, view_of, view_with
 from evencoins.talk.runs import check_lies
 from evencoins.talk.seats import check_without
 from evencoins.talk.talks import Talk
@@ -42,16 +46,13 @@ def number_rows(field, many):
 
 def all_coin_rows(hall, circuit, lot):
     """The list of the rows of coins, as dicts, by ascending coins."""
-    found = []
-    for numbers in number_rows(hall.field, free_coins(hall, circuit, lot)):
-        row = {}
-        first = 0
-        for house in free_of(hall, lot):
-            many = needed_coins(hall, circuit, house)
-            row[house] = numbers[first:first + many]
-            first += many
-        found.append(row)
-    return found
+    slots = []
+    last = 0
+    for house in free_of(hall, lot):
+        slots.append((house, last, last + needed_coins(hall, circuit, house)))
+        last = slots[-1][2]
+    return [{house: numbers[first:behind] for house, first, behind in slots}
+            for numbers in number_rows(hall.field, last)]
 
 
 def coin_rows(hall, circuit, lot):
@@ -63,18 +64,28 @@ def coin_rows(hall, circuit, lot):
         yield row
 
 
+def all_courses(talk, inputs, lot, coins, lies):
+    """The courses of all rows, row by row."""
+    frame = Frame(talk, lot, lies)
+    for row in all_coin_rows(talk.room, talk.net, lot):
+        yield Course(frame, inputs, {**row, **coins})
+
+
 def all_views(talk, inputs, lot, coins, lies):
     """The list of the views that the rows make, row by row."""
-    rows = all_coin_rows(talk.hall, talk.circuit, lot)
-    return [view_of(Course(talk, inputs, {**row, **coins}, lot, lies)) for row in rows]
+    return [view_of(course) for course in all_courses(talk, inputs, lot, coins, lies)]
 
 
 def counted_views(talk, inputs, lot, coins, lies):
     """The dict from the views to their counts, ascending."""
     counts = {}
-    for view in all_views(talk, inputs, lot, coins, lies):
-        counts[view] = counts.get(view, 0) + 1
-    return {view: counts[view] for view in sorted(counts)}
+    first = None
+    for course in all_courses(talk, inputs, lot, coins, lies):
+        first = course if first is None else first
+        heard = heard_by_lot(course)
+        counts[heard] = counts.get(heard, 0) + 1
+    # All views have the same keys, inputs and coins of the lot: what it heard tells their sequence.
+    return {view_with(first, heard): counts[heard] for heard in sorted(counts)}
 
 
 def check_foe_parts(hall, circuit, lot, coins, lies, without):
@@ -104,9 +115,10 @@ def alike_rows(hall, circuit, inputs, lot):
     rows = [()]
     for choice in choices:
         rows = [row + (number,) for row in rows for number in choice]
-    right = lot_outputs(circuit, lot, meaning_of(hall.field, circuit.gates, inputs))
-    return tuple([row for row in rows
-                  if lot_outputs(circuit, lot, meaning_of(hall.field, circuit.gates, row)) == right])
+    gates = [circuit.outputs[index][0] for index in told_indices(circuit, lot)]
+    numbers = meaning_of(hall.field, circuit.gates, inputs)
+    told = meaning_rows(hall.field, circuit.gates, list(zip(*rows)), len(rows))
+    return tuple([row for at, row in enumerate(rows) if all([told[gate][at] == numbers[gate] for gate in gates])])
 
 
 def check_both(hall, circuit, one, other, lot, coins, lies, without):

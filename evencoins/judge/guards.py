@@ -4,12 +4,17 @@ from evencoins.base.field import rows_count
 from evencoins.errors import TooMany, UnknownName
 from evencoins.judge.broken import parts_for
 from evencoins.judge.counts import all_coin_rows, check_rows, free_coins, number_rows
-from evencoins.judge.views import are_alike_inputs, exchanged_coins, view_with
+from evencoins.judge.views import are_alike_inputs, exchanged_coins, heard_with
+from evencoins.plan.cases import meaning_rows
 from evencoins.plan.circuits import Circuit, are_inputs, meaning_of
-from evencoins.talk.courses import are_coins, check_inputs, is_foe
+from evencoins.talk.courses import Course
+from evencoins.talk.frames import Frame
+from evencoins.talk.given import are_coins, check_inputs, is_foe
 from evencoins.talk.halls import Hall, fits_hall, plan_of
 from evencoins.talk.letters import are_lies_of
-from evencoins.talk.runs import Run, check_run
+from evencoins.talk.records import heard_by_lot
+from evencoins.talk.runs import check_run, committed_in, course_in
+from evencoins.talk.talks import Talk
 
 RULES = ("coins", "degree", "complaints", "answers", "votes", "errors", "nearest", "king", "bound")
 MAX_ROWS = 700
@@ -22,26 +27,35 @@ def led_inputs(circuit, lot):
     return [place for place, house in enumerate(circuit.houses) if house in lot]
 
 
-def explains(run, outputs, inputs):
-    """Whether the circuit tells each free house just the outputs that it has."""
-    numbers = meaning_of(run.hall.field, run.circuit.gates, inputs)
-    return all([numbers[gate] == number for gate, number in outputs])
+def is_told_by_some(course, outputs):
+    """Whether some inputs of the lot, in the place of its own ones, make the circuit tell these outputs.
 
-
-def is_explained_run(run):
-    """Whether a run, whose lot has few inputs, is explained."""
-    gates = [gate for gate, houses in run.circuit.outputs]
-    outputs = [(gates[index], number) for (index, house), number in run.outputs.items() if house not in run.lot]
-    if explains(run, outputs, run.committed):
-        return True
-    places = led_inputs(run.circuit, run.lot)
-    for numbers in number_rows(run.hall.field, len(places)):
-        inputs = list(run.inputs)
+    All numbers of the last one of them are tried at once.
+    """
+    field, places = course.room.field, led_inputs(course.net, course.frame.foe)
+    if not places:
+        return False
+    for numbers in number_rows(field, len(places) - 1):
+        given = [[number] * field for number in course.given]
         for place, number in zip(places, numbers):
-            inputs[place] = number
-        if explains(run, outputs, tuple(inputs)):
+            given[place] = [number] * field
+        given[places[-1]] = list(range(field))
+        rows = meaning_rows(field, course.net.gates, given, field)
+        left = list(range(field))
+        for gate, number in outputs:
+            left = [at for at in left if rows[gate][at] == number]
+        if left:
             return True
     return False
+
+
+def is_explained_course(course):
+    """Whether a course, whose lot has few inputs, is explained."""
+    outputs = [(gate, course.opened[house][index]) for index, (gate, houses) in enumerate(course.net.outputs)
+               for house in houses if house not in course.frame.foe]
+    numbers = meaning_of(course.room.field, course.net.gates, committed_in(course))
+    # If the lot has no inputs, these are all that there are.
+    return all([numbers[gate] == number for gate, number in outputs]) or is_told_by_some(course, outputs)
 
 
 def is_explained(run):
@@ -51,20 +65,20 @@ def is_explained(run):
         raise TooMany(MOST_INPUTS)
     if run.hall.field > MOST_FIELD:
         raise TooMany(MOST_FIELD)
-    return is_explained_run(run)
+    return is_explained_course(course_in(run))
 
 
-def is_parted_run(run, inputs):
-    """Whether a run, whose free houses have few coins, is parted from inputs."""
-    if not are_alike_inputs(run, inputs):
+def is_parted_course(course, inputs):
+    """Whether a course, whose free houses have few coins, is parted from inputs."""
+    if not are_alike_inputs(course, inputs):
         return False
-    view = run.view
+    right = heard_by_lot(course)
     # With all rules the exchange always makes the view; without one it often does.
-    if view_with(run, inputs, exchanged_coins(run, inputs)) == view:
+    if heard_with(course, inputs, exchanged_coins(course, inputs)) == right:
         return False
-    coins = run.coins
-    for row in all_coin_rows(run.hall, run.circuit, run.lot):
-        if view_with(run, inputs, {**coins, **row}) == view:
+    coins = course.drawn
+    for row in all_coin_rows(course.room, course.net, course.frame.foe):
+        if heard_with(course, inputs, {**coins, **row}) == right:
             return False
     return True
 
@@ -74,7 +88,7 @@ def is_parted(run, inputs):
     check_run(run)
     check_inputs(run.hall, run.circuit, inputs)
     check_rows(run.hall, free_coins(run.hall, run.circuit, run.lot))
-    return is_parted_run(run, inputs)
+    return is_parted_course(course_in(run), inputs)
 
 
 def check_rule(word):
@@ -100,13 +114,18 @@ def are_run_parts(word, hall, circuit, inputs, coins, lot, lies, lines):
     return are_lies_of(hall, plan_of(hall, circuit, lines), lot, lies)
 
 
+def course_without(word, hall, circuit, inputs, coins, lot, lies, lines):
+    """The course of a run without a rule, of parts that are known to be right."""
+    return Course(Frame(Talk(hall, circuit, word, lines), lot, lies), inputs, coins)
+
+
 def is_wrong_run(word, hall, circuit, inputs, coins, lot, lies, lines):
     """Whether these are the parts of a run that is not explained without the rule."""
     if not are_run_parts(word, hall, circuit, inputs, coins, lot, lies, lines):
         return False
     if len(led_inputs(circuit, lot)) > MOST_INPUTS or hall.field > MOST_FIELD:
         return False
-    return not is_explained_run(Run(hall, circuit, inputs, coins, without=word, lot=lot, lines=lines, lies=lies))
+    return not is_explained_course(course_without(word, hall, circuit, inputs, coins, lot, lies, lines))
 
 
 def is_parting_run(word, hall, circuit, inputs, coins, lot, lies, others):
@@ -117,7 +136,7 @@ def is_parting_run(word, hall, circuit, inputs, coins, lot, lies, others):
         return False
     if rows_count(hall.field, free_coins(hall, circuit, lot)) > MAX_ROWS:
         return False
-    return is_parted_run(Run(hall, circuit, inputs, coins, without=word, lot=lot, lies=lies), others)
+    return is_parted_course(course_without(word, hall, circuit, inputs, coins, lot, lies, False), others)
 
 
 def is_broken_run(word, value):

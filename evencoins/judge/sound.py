@@ -4,10 +4,9 @@ from evencoins.base.field import are_numbers, check_field, check_integer, is_asc
 from evencoins.base.polys import evaluated, interpolated, is_poly
 from evencoins.errors import InvalidInputs, InvalidNumber, Refused
 from evencoins.plan.circuits import meaning_of
-from evencoins.talk.courses import free_of
+from evencoins.talk.given import free_of
 from evencoins.talk.gauges import Fit, fit_at
-from evencoins.talk.halls import batches_of
-from evencoins.talk.runs import check_run
+from evencoins.talk.runs import check_run, committed_in, course_in
 
 MOST_DEGREE = 20
 
@@ -55,15 +54,13 @@ def is_common_paper(field, shares, most, value):
 
 
 class Facts:
-    """What all houses of a run have at its end, and the polys of the free ones."""
+    """What all houses of a course have at its end, and the polys of the free ones."""
 
-    def __init__(self, run):
-        hall = run.hall
-        self.free = free_of(hall, run.lot)
-        self.words = run.shares
-        self.entries = {house: each.dealt for house, each in run.houses.items()}
-        self.marks = {house: {pair: True for pair in each.taken} for house, each in run.houses.items()}
-        self.fit = fit_at(hall.field, self.free, hall.most)
+    def __init__(self, course):
+        hall = course.room
+        self.course = course
+        self.free = free_of(hall, course.frame.foe)
+        self.fit = fit_at(hall.field, hall.gauge.units, self.free, hall.most)
         # At how many places a word of dealt numbers must lie on a poly: at the others houses can lie.
         self.bound = hall.places if hall.kind == "look" else self.free
 
@@ -71,37 +68,47 @@ class Facts:
         """The number at 0 of the poly on which the free houses' entries of a word lie, or None."""
         return self.fit.number_among(word, 0)
 
-    def dealt_number(self, pair):
-        """The number of a dealing, or None."""
-        return self.number_of([self.entries[house][pair] for house in self.entries])
+    def dealt_numbers(self, batch):
+        """The numbers of all dealings of a batch, None for those without one."""
+        return [self.number_of(column) for column in self.course.dealings[batch][0]]
 
     def gate_number(self, gate):
         """The number of a gate, or None."""
-        return self.number_of(self.words[gate])
+        return self.number_of(self.course.words[gate])
+
+    def taken_by_free(self, batch, index):
+        """Whether each free house has taken a dealing."""
+        taken = self.course.dealings[batch][1]
+        return [taken is None or taken[house - 1][index] == 1 for house in self.free]
 
 
-def batch_pairs(run):
+def facts_of(run):
+    """The facts of what is refused unless it is a run."""
+    check_run(run)
+    return Facts(course_in(run))
+
+
+def batch_pairs(course):
     """The list of the tuples (batch, index, gate, dealer) of all dealings, ascending."""
-    return [(batch, index, gate, dealer) for batch, pairs in enumerate(batches_of(run.hall, run.circuit))
+    return [(batch, index, gate, dealer) for batch, pairs in enumerate(course.talk.batches)
             for index, (gate, dealer) in enumerate(pairs)]
 
 
-def dealt_by(run, facts, batch, index, gate, dealer):
+def dealt_by(course, batch, index, gate, dealer):
     """What a house that follows the rules deals."""
     if batch == 0:
-        return run.inputs[index]
-    one, other = run.circuit.gates[gate][1:]
-    return facts.words[one][dealer - 1] * facts.words[other][dealer - 1] % run.hall.field
+        return course.given[index]
+    one, other = course.net.gates[gate][1:]
+    return course.words[one][dealer - 1] * course.words[other][dealer - 1] % course.room.field
 
 
-def is_dealt(run, facts, batch, index, gate, dealer):
-    """Whether the sentence of dealings is true of one of them."""
-    taken = [(batch, index) in facts.marks[house] for house in facts.free]
-    number = facts.dealt_number((batch, index))
+def is_dealt(facts, number, batch, index, gate, dealer):
+    """Whether the sentence of dealings is true of one of them, which has this number."""
+    taken = facts.taken_by_free(batch, index)
     if number is None or any([mark != taken[0] for mark in taken]):
         return False
     if dealer in facts.free:
-        return taken[0] and number == dealt_by(run, facts, batch, index, gate, dealer)
+        return taken[0] and number == dealt_by(facts.course, batch, index, gate, dealer)
     return taken[0] or number == 0
 
 
@@ -110,20 +117,27 @@ def first_of(word, broken):
     return (word,) + broken[0] if broken else None
 
 
-def dealt_fault(run, facts):
+def dealt_fault(facts):
     """The least dealing for which the sentence of dealings is broken."""
-    return first_of("dealt", [row[:2] for row in batch_pairs(run) if not is_dealt(run, facts, *row)])
+    numbers = [number for batch in range(len(facts.course.dealings)) for number in facts.dealt_numbers(batch)]
+    return first_of("dealt", [row[:2] for row, number in zip(batch_pairs(facts.course), numbers)
+                              if not is_dealt(facts, number, *row)])
 
 
-def poly_fault(run, facts):
+def poly_fault(facts):
     """The least gate whose shares do not lie on a poly."""
-    return first_of("poly", [(gate,) for gate in facts.words if facts.gate_number(gate) is None])
+    gates = range(len(facts.course.words))
+    return first_of("poly", [(gate,) for gate in gates if facts.gate_number(gate) is None])
 
 
-def word_of_product(run, facts, gate):
-    """The numbers of the dealings for a product, by all houses."""
-    return tuple([facts.dealt_number((batch, index)) for batch, index, each, dealer in batch_pairs(run)
-                  if batch > 0 and each == gate])
+def word_of_product(facts, gate):
+    """The numbers of the dealings for a product, by all houses, which deal one behind the other."""
+    many = facts.course.room.houses
+    for level, gates in enumerate(facts.course.net.levels):
+        if gate in gates:
+            first = gates.index(gate) * many
+            return tuple(facts.dealt_numbers(level + 1)[first:first + many])
+    return ()
 
 
 def products_of(circuit):
@@ -131,32 +145,33 @@ def products_of(circuit):
     return sorted([gate for level in circuit.levels for gate in level])
 
 
-def errors_fault(run, facts):
+def errors_fault(facts):
     """The least product whose word is not that of a poly where nobody can lie."""
-    fit = fit_at(run.hall.field, facts.bound, 2 * run.hall.most)
-    return first_of("errors", [(gate,) for gate in products_of(run.circuit)
-                               if fit.number_among(word_of_product(run, facts, gate), 0) is None])
+    hall = facts.course.room
+    fit = fit_at(hall.field, hall.gauge.units, facts.bound, 2 * hall.most)
+    return first_of("errors", [(gate,) for gate in products_of(facts.course.net)
+                               if fit.number_among(word_of_product(facts, gate), 0) is None])
 
 
-def meaning_fault(run, facts):
+def meaning_fault(facts):
     """The least gate whose number is not what the circuit makes of the committed inputs."""
-    numbers = meaning_of(run.hall.field, run.circuit.gates, run.committed)
+    course = facts.course
+    numbers = meaning_of(course.room.field, course.net.gates, committed_in(course))
     return first_of("meaning", [(gate,) for gate, number in enumerate(numbers) if facts.gate_number(gate) != number])
 
 
-def told_fault(run, facts):
+def told_fault(facts):
     """The least output of a free house that is not the number of its gate."""
-    outputs = run.circuit.outputs
-    return first_of("told", [(index, house) for (index, house), number in run.outputs.items()
-                             if house in facts.free and number != facts.gate_number(outputs[index][0])])
+    return first_of("told", [(index, house) for index, (gate, houses) in enumerate(facts.course.net.outputs)
+                             for house in houses if house in facts.free
+                             and facts.course.opened[house][index] != facts.gate_number(gate)])
 
 
 def fault(run):
     """The first broken sentence, or None."""
-    check_run(run)
-    facts = Facts(run)
-    found = dealt_fault(run, facts) or poly_fault(run, facts) or errors_fault(run, facts)
-    return found or meaning_fault(run, facts) or told_fault(run, facts)
+    facts = facts_of(run)
+    found = dealt_fault(facts) or poly_fault(facts) or errors_fault(facts)
+    return found or meaning_fault(facts) or told_fault(facts)
 
 
 def is_sound(run):
@@ -180,30 +195,29 @@ def check_gate(run, gate):
 
 def truths(run):
     """The tuple of the numbers of all gates."""
-    check_run(run)
-    facts = Facts(run)
-    check_found(dealt_fault(run, facts) or poly_fault(run, facts))
-    return tuple([facts.gate_number(gate) for gate in facts.words])
+    facts = facts_of(run)
+    check_found(dealt_fault(facts) or poly_fault(facts))
+    return tuple([facts.gate_number(gate) for gate in range(len(facts.course.words))])
 
 
 def product_word(run, gate):
     """The numbers of the dealings for a product, by all houses."""
     check_gate(run, gate)
-    facts = Facts(run)
-    check_found(dealt_fault(run, facts) or poly_fault(run, facts))
-    return word_of_product(run, facts, gate)
+    facts = facts_of(run)
+    check_found(dealt_fault(facts) or poly_fault(facts))
+    return word_of_product(facts, gate)
 
 
 def errors_in(run, gate):
     """The dict from the places at which the word of a product is off to by how much."""
     check_gate(run, gate)
-    facts = Facts(run)
-    check_found(dealt_fault(run, facts) or poly_fault(run, facts) or errors_fault(run, facts))
-    word = word_of_product(run, facts, gate)
+    facts = facts_of(run)
+    check_found(dealt_fault(facts) or poly_fault(facts) or errors_fault(facts))
+    word = word_of_product(facts, gate)
     hall = run.hall
     base = facts.bound[:2 * hall.most + 1]
     others = tuple([house for house in hall.places if house not in base])
-    fit = Fit(hall.field, base, others)
+    fit = Fit(hall.field, hall.gauge.units, base, others)
     values = {house: fit.value_in(word, house) for house in others}
     return {house: (word[house - 1] - values[house]) % hall.field for house in others
             if word[house - 1] != values[house]}

@@ -6,10 +6,13 @@ from evencoins.codes.sharing import coins_behind
 from evencoins.codes.square import square_coins_behind
 from evencoins.errors import InvalidInputs, InvalidOperation
 from evencoins.plan.circuits import meaning_of
-from evencoins.talk.courses import Course, are_coins, check_all_coins, check_inputs, free_of, view_of
-from evencoins.talk.halls import check_lines, check_talk, coins_each
+from evencoins.talk.courses import Course
+from evencoins.talk.frames import Frame
+from evencoins.talk.given import are_coins, check_all_coins, check_inputs, free_of
+from evencoins.talk.halls import check_lines, check_talk
 from evencoins.talk.letters import check_lot
-from evencoins.talk.runs import check_lies, check_run, committed_in, gate_words
+from evencoins.talk.records import heard_by_lot, view_of
+from evencoins.talk.runs import check_lies, check_run, committed_in, course_in
 from evencoins.talk.talks import Talk
 
 
@@ -23,49 +26,41 @@ def lot_outputs(circuit, lot, numbers):
     return [numbers[circuit.outputs[index][0]] for index in told_indices(circuit, lot)]
 
 
-def has_own_inputs(run, inputs):
-    """Whether the inputs of the lot are those of the run."""
-    pairs = zip(run.circuit.houses, run.inputs, inputs)
-    return all([house not in run.lot or one == other for house, one, other in pairs])
+def has_own_inputs(course, inputs):
+    """Whether the inputs of the lot are those of the course."""
+    pairs = zip(course.net.houses, course.given, inputs)
+    return all([house not in course.frame.foe or one == other for house, one, other in pairs])
 
 
-def with_committed(run, inputs):
-    """The inputs, with the committed ones of the lot in the place of its own ones."""
-    pairs = zip(run.circuit.houses, inputs, run.committed)
-    return tuple([committed if house in run.lot else number for house, number, committed in pairs])
+def numbers_for(course, inputs):
+    """What the circuit makes of inputs, with the committed ones of the lot in the place of its own ones."""
+    pairs = zip(course.net.houses, inputs, committed_in(course))
+    told = [committed if house in course.frame.foe else number for house, number, committed in pairs]
+    return meaning_of(course.room.field, course.net.gates, told)
 
 
-def numbers_for(run, inputs):
-    """What the circuit makes of inputs, with the committed ones of the lot."""
-    return meaning_of(run.hall.field, run.circuit.gates, with_committed(run, inputs))
-
-
-def are_alike_inputs(run, inputs):
-    """Whether inputs that are known to be right are alike to the lot of a run."""
-    if not has_own_inputs(run, inputs):
+def are_alike_inputs(course, inputs):
+    """Whether inputs that are known to be right are alike to the lot of a course."""
+    if not has_own_inputs(course, inputs):
         return False
-    one = lot_outputs(run.circuit, run.lot, numbers_for(run, run.inputs))
-    return one == lot_outputs(run.circuit, run.lot, numbers_for(run, inputs))
+    circuit, lot = course.net, course.frame.foe
+    one = lot_outputs(circuit, lot, numbers_for(course, course.given))
+    return one == lot_outputs(circuit, lot, numbers_for(course, inputs))
 
 
 def are_alike(run, inputs):
     """Whether inputs are alike to the lot of a run."""
     check_run(run)
     check_inputs(run.hall, run.circuit, inputs)
-    return are_alike_inputs(run, inputs)
+    return are_alike_inputs(course_in(run), inputs)
 
 
 def check_own_inputs(run, inputs):
     """Refuse what is no run with inputs for it that are the lot's own ones."""
     check_run(run)
     check_inputs(run.hall, run.circuit, inputs)
-    if not has_own_inputs(run, inputs):
+    if not has_own_inputs(course_in(run), inputs):
         raise InvalidInputs("not the inputs of the lot")
-
-
-def shares_by(words, house):
-    """The list of the shares of one house of all gates."""
-    return [words[gate][house - 1] for gate in sorted(words)]
 
 
 def dealt_in_turn(circuit, house, inputs, shares):
@@ -77,7 +72,7 @@ def dealt_in_turn(circuit, house, inputs, shares):
 
 def changed_by(hall, lot, coins, changes):
     """The coins of a house that deals numbers which are so much more."""
-    each = coins_each(hall)
+    each = hall.coins_each
     found = ()
     for place, change in enumerate(changes):
         part = coins[place * each:(place + 1) * each]
@@ -88,18 +83,17 @@ def changed_by(hall, lot, coins, changes):
     return found
 
 
-def exchanged_coins(run, inputs):
+def exchanged_coins(course, inputs):
     """The dict of coins of the exchange: each sharing has the hiding poly of the lot more, as often as its number."""
-    hall, circuit, lot = run.hall, run.circuit, run.lot
+    hall, circuit, lot = course.room, course.net, course.frame.foe
     poly = hiding_poly(hall.field, lot)
-    more = [other - one for one, other in zip(numbers_for(run, run.inputs), numbers_for(run, inputs))]
-    words = run.shares
-    coins = run.coins
+    more = [other - one for one, other in zip(numbers_for(course, course.given), numbers_for(course, inputs))]
+    coins = {house: row for house, row in course.drawn.items()}
     for house in free_of(hall, lot):
         weight = evaluated(hall.field, poly, house)
-        shares = shares_by(words, house)
+        shares = [course.words[gate][house - 1] for gate in range(len(more))]
         others = [(share + weight * x) % hall.field for share, x in zip(shares, more)]
-        before = dealt_in_turn(circuit, house, run.inputs, shares)
+        before = dealt_in_turn(circuit, house, course.given, shares)
         behind = dealt_in_turn(circuit, house, inputs, others)
         changes = [(y - x) % hall.field for x, y in zip(before, behind)]
         coins[house] = changed_by(hall, lot, coins[house], changes)
@@ -111,13 +105,12 @@ def exchanged(run, inputs):
     check_own_inputs(run, inputs)
     if run.without is not None:
         raise InvalidOperation("a rule is left out")
-    return exchanged_coins(run, inputs)
+    return exchanged_coins(course_in(run), inputs)
 
 
-def view_with(run, inputs, coins):
-    """The view of the lot if the run had these inputs and coins."""
-    talk = Talk(run.hall, run.circuit, run.without, run.lines)
-    return view_of(Course(talk, inputs, coins, run.lot, run.lies))
+def heard_with(course, inputs, coins):
+    """What the lot would hear if the course had these inputs and coins."""
+    return heard_by_lot(Course(course.frame, inputs, coins))
 
 
 def is_exchange(run, inputs, value):
@@ -125,10 +118,11 @@ def is_exchange(run, inputs, value):
     check_own_inputs(run, inputs)
     if not are_coins(run.hall, run.circuit, run.hall.places, value):
         return False
-    coins = run.coins
-    if any([value[house] != coins[house] for house in run.lot]):
+    course = course_in(run)
+    if any([value[house] != course.drawn[house] for house in run.lot]):
         return False
-    return view_with(run, inputs, value) == run.view
+    # Its own inputs and coins are the same: so is its view, if it hears the same.
+    return heard_with(course, inputs, value) == heard_by_lot(course)
 
 
 def are_numbers_of(field, keys, value):
@@ -147,9 +141,10 @@ def check_numbers_of(field, keys, value):
 def shifted_letter(course, key, letter, changes):
     """A letter of the last round, its shares of outputs being so much more."""
     number, sender, goal = key
-    weight = evaluated(course.talk.hall.field, hiding_poly(course.talk.hall.field, course.foe), sender)
+    field = course.room.field
+    weight = evaluated(field, hiding_poly(field, course.frame.foe), sender)
     pairs = zip(letter, course.talk.goals[goal])
-    return tuple([(share + changes[index] * weight) % course.talk.hall.field for share, index in pairs])
+    return tuple([(share + changes[index] * weight) % field for share, index in pairs])
 
 
 def made_view(hall, circuit, lot, own, told, coins, *, lines=False, lies=None):
@@ -165,16 +160,16 @@ def made_view(hall, circuit, lot, own, told, coins, *, lines=False, lies=None):
     table = {} if lies is None else lies
     check_lies(talk, lot, table)
     inputs = tuple([own.get(gate, 0) for gate in circuit.inputs])
-    return made_of(Course(talk, inputs, coins, lot, table), told)
+    return made_of(Course(Frame(talk, lot, table), inputs, coins), told)
 
 
 def made_of(course, told):
     """The view of a course whose free inputs are 0, with what it takes that the lot is told these outputs."""
-    circuit, field = course.talk.circuit, course.talk.hall.field
-    numbers = meaning_of(field, circuit.gates, committed_in(course, gate_words(course)))
+    circuit = course.net
+    numbers = meaning_of(course.room.field, circuit.gates, committed_in(course))
     changes = {index: told[index] - numbers[circuit.outputs[index][0]] for index in told}
     given, drawn, letters = view_of(course)
     last = len(course.said)
     found = [(key, shifted_letter(course, key, letter, changes))
-             if key[0] == last and key[1] not in course.foe else (key, letter) for key, letter in letters]
+             if key[0] == last and key[1] not in course.frame.foe else (key, letter) for key, letter in letters]
     return given, drawn, tuple(found)

@@ -63,14 +63,27 @@ def looked_at(gate):
     return gate[1:2] if gate[0] == "times" else ()
 
 
-def levels_of(gates):
-    """For each level from 1 on the ascending tuple of its products."""
+def depths_of(gates):
+    """The list of the levels of all gates."""
     depths = []
     for gate in gates:
-        depth = max([0] + [depths[k] for k in looked_at(gate)])
-        depths.append(depth + 1 if gate[0] == "product" else depth)
-    products = indices_of(gates, "product")
-    return tuple([tuple([k for k in products if depths[k] == level]) for level in range(1, max(depths) + 1)])
+        if gate[0] == "times":
+            depths.append(depths[gate[1]])
+        elif gate[0] in ("sum", "product"):
+            depth = max(depths[gate[1]], depths[gate[2]])
+            depths.append(depth + 1 if gate[0] == "product" else depth)
+        else:
+            depths.append(0)
+    return depths
+
+
+def levels_of(gates, depths):
+    """For each level from 1 on the ascending tuple of its products."""
+    found = [[] for _ in range(max(depths))]
+    for index, gate in enumerate(gates):
+        if gate[0] == "product":
+            found[depths[index] - 1].append(index)
+    return tuple([tuple(level) for level in found])
 
 
 def gate_number(field, gate, numbers):
@@ -107,7 +120,13 @@ class Circuit:
         self._outputs = outputs
         self._inputs = indices_of(gates, "input")
         self._houses = tuple([gates[index][1] for index in self._inputs])
-        self._levels = levels_of(gates)
+        # What halls ask of a circuit: the level of each gate, the number of the products, the greatest house, and the
+        # greatest constant or factor.
+        self.depths = depths_of(gates)
+        self._levels = levels_of(gates, self.depths)
+        self.products = sum([len(level) for level in self._levels])
+        self.last_house = max([houses[-1] for index, houses in outputs] + list(self._houses))
+        self.top_number = max([gate[-1] for gate in gates if gate[0] in ("constant", "times")] + [0])
 
     @property
     def gates(self):
@@ -138,7 +157,7 @@ class Circuit:
         return isinstance(other, Circuit) and self._gates == other._gates and self._outputs == other._outputs
 
     def __str__(self):
-        return f"circuit of {len(self._gates)} gates, {len(indices_of(self._gates, 'product'))} products"
+        return f"circuit of {len(self._gates)} gates, {self.products} products"
 
     def inputs_of(self, house):
         """The indices of the inputs of a house."""

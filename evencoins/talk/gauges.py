@@ -1,6 +1,7 @@
 """Numbers that hang on a hall alone, with which its houses reckon again and again."""
 
 from evencoins.base.field import inverse, sum_of_products
+from evencoins.base.polys import evaluated_at_all
 
 
 def unit_table(field, last):
@@ -29,11 +30,10 @@ def factors_at(field, units, places, goal):
 class Fit:
     """A poly told by the entries of a word at some places, the base: what it is at 0, and at other places.
 
-    It has as low a degree as the base tells.
+    It has as low a degree as the base tells. `units` has what makes 1 with the differences of all these places.
     """
 
-    def __init__(self, field, base, others):
-        units = unit_table(field, base[-1] - base[0])
+    def __init__(self, field, units, base, others):
         self._order = field
         self._base = tuple([place - 1 for place in base])
         self._zero = factors_at(field, units, base, 0)
@@ -59,12 +59,12 @@ class Fit:
         return sum_of_products(self._order, self._zero, values)
 
 
-def fit_at(field, places, degree):
+def fit_at(field, units, places, degree):
     """The fit of polys of at most this degree at the places: the first ones are the base."""
-    return Fit(field, places[:degree + 1], places[degree + 1:])
+    return Fit(field, units, places[:degree + 1], places[degree + 1:])
 
 
-def block_fits(field, places, most):
+def block_fits(field, units, places, most):
     """Fits of polys of the degree `most` with bases that have no place in common, one more than may be wrong.
 
     So one of them has no wrong entry.
@@ -73,7 +73,7 @@ def block_fits(field, places, most):
     found = []
     for first in range(0, width * width, width):
         base = places[first:first + width]
-        found.append(Fit(field, base, [place for place in places if place not in base]))
+        found.append(Fit(field, units, base, [place for place in places if place not in base]))
     return tuple(found)
 
 
@@ -125,10 +125,72 @@ class Gauge:
         units = unit_table(field, houses)
         self._order = field
         self._all = places
+        self._width = most + 1
+        self._powers = [(place, place * place) for place in places]
+        self.units = units
         self.factors = factors_at(field, units, places, 0)
-        self.openings = block_fits(field, places, most) if kind == "lie" else (Fit(field, places[:most + 1], ()),)
+        if kind == "lie":
+            self.openings = block_fits(field, units, places, most)
+            self.checks = check_table(field, units, places, houses - 2 * most - 1)
+        else:
+            self.openings = (Fit(field, units, places[:most + 1], ()),)
+            self.checks = ()
         self.spreads = tuple([spread_of(field, place, places) for place in places])
-        self.checks = check_table(field, units, places, houses - 2 * most - 1) if kind == "lie" else ()
+
+    def rows_of(self, number, coins):
+        """The list of the rows of all houses of a square.
+
+        Its degree is 1 or 2: in a hall that lies 4 t is below n.
+        """
+        field = self._order
+        if len(coins) == 2:
+            one, two = coins
+            return [((number + one * x) % field, (one + two * x) % field) for x in self._all]
+        one, two, three, four, five = coins
+        return [((number + one * x + two * y) % field, (one + three * x + four * y) % field,
+                 (two + four * x + five * y) % field) for x, y in self._powers]
+
+    def point_of(self, row, place):
+        """The value at the place of a row, in a hall that lies."""
+        if self._width == 2:
+            return (row[0] + row[1] * place) % self._order
+        return (row[0] + row[1] * place + row[2] * place * place) % self._order
+
+    def points_of(self, rows, place):
+        """The tuple of the values at the place of all rows of a house, in a hall that lies."""
+        field = self._order
+        if self._width == 2:
+            return tuple([(one + two * place) % field for one, two in rows])
+        square = place * place
+        return tuple([(one + two * place + three * square) % field for one, two, three in rows])
+
+    def points_among(self, heard):
+        """For each house the list of its points for the houses ahead of it, by the rows of all."""
+        field = self._order
+        if self._width == 2:
+            return [[tuple([(one + two * place) % field for one, two in rows]) for place in range(1, house)]
+                    for house, rows in enumerate(heard, start=1)]
+        return [[self.points_of(rows, place) for place in range(1, house)] for house, rows in enumerate(heard, start=1)]
+
+    def syndromes_of(self, dealt):
+        """The tuple of the syndromes of a dealt word."""
+        field = self._order
+        return tuple([sum([x * y for x, y in zip(row, dealt)]) % field for row in self.checks])
+
+    def product_of(self, dealt, errors):
+        """The number that the weights make of a dealt word, with the errors taken off."""
+        total = sum([x * y for x, y in zip(self.factors, dealt)])
+        for place, error in errors.items():
+            total -= self.factors[place - 1] * error
+        return total % self._order
+
+    def shares_of(self, number, coins):
+        """The list of the shares of all houses of a poly with this number and these coins."""
+        field = self._order
+        if len(coins) == 1:
+            one = coins[0]
+            return [(number + one * x) % field for x in self._all]
+        return evaluated_at_all(field, (number,) + coins, self._all)
 
     def first_number(self, word):
         """The number at 0 of the poly through the first entries, as many as tell it."""

@@ -3,7 +3,7 @@
 from evencoins.base.field import check_field, check_integer, is_ascending, is_integer
 from evencoins.codes.square import coins_count
 from evencoins.errors import InvalidCircuit, InvalidHall, InvalidOperation, UnknownName
-from evencoins.plan.circuits import Circuit, indices_of
+from evencoins.plan.circuits import Circuit
 from evencoins.talk.gauges import Gauge
 
 LEAST_HOUSES = 3
@@ -27,7 +27,9 @@ class Hall:
         self._most = most
         self._kind = kind
         self._places = tuple(range(1, houses + 1))
-        self._gauge = Gauge(field, houses, most, kind)
+        # The numbers with which its houses reckon, and how many coins each number that is dealt needs.
+        self.gauge = Gauge(field, houses, most, kind)
+        self.coins_each = most if kind == "look" else coins_count(most)
 
     @property
     def field(self):
@@ -53,11 +55,6 @@ class Hall:
     def places(self):
         """The tuple of all houses."""
         return self._places
-
-    @property
-    def gauge(self):
-        """The numbers with which its houses reckon."""
-        return self._gauge
 
     def __eq__(self, other):
         if not isinstance(other, Hall) or self._kind != other._kind:
@@ -102,21 +99,15 @@ def check_lines(lines):
 
 def fits_hall(hall, circuit):
     """Whether all houses of a circuit are of the hall, and its constants and factors are numbers of the field."""
-    told = [house for index, houses in circuit.outputs for house in houses]
-    used = [gate[-1] for gate in circuit.gates if gate[0] in ("constant", "times")]
-    return max(told + list(circuit.houses)) <= hall.houses and max(used + [0]) < hall.field
-
-
-def check_fitting(hall, circuit):
-    """Refuse what is no circuit for the hall."""
-    if not isinstance(circuit, Circuit) or not fits_hall(hall, circuit):
-        raise InvalidCircuit("not a circuit for the hall")
+    return circuit.last_house <= hall.houses and circuit.top_number < hall.field
 
 
 def check_talk(hall, circuit):
     """Refuse what is no hall with a circuit for it."""
-    check_hall(hall)
-    check_fitting(hall, circuit)
+    if not isinstance(hall, Hall):
+        raise InvalidHall("not a hall")
+    if not isinstance(circuit, Circuit) or not fits_hall(hall, circuit):
+        raise InvalidCircuit("not a circuit for the hall")
 
 
 def is_for(hall, value):
@@ -185,15 +176,9 @@ def rounds(hall, circuit, *, lines=False):
     return len(plan_of(hall, circuit, lines))
 
 
-def coins_each(hall):
-    """How many coins each number that is dealt needs."""
-    return hall.most if hall.kind == "look" else coins_count(hall.most)
-
-
 def needed_coins(hall, circuit, house):
     """How many coins a house of the hall needs."""
-    many = len(circuit.inputs_of(house)) + len(indices_of(circuit.gates, "product"))
-    return many * coins_each(hall)
+    return (circuit.houses.count(house) + circuit.products) * hall.coins_each
 
 
 def coins_of(hall, circuit, house):
@@ -207,7 +192,7 @@ def numbers_told(hall, circuit):
     """How many numbers are told over lines if all follow the rules."""
     check_talk(hall, circuit)
     others = hall.houses - 1
-    products = len(indices_of(circuit.gates, "product"))
+    products = circuit.products
     dealings = len(circuit.inputs) + products * hall.houses
     told = sum([len(houses) for index, houses in circuit.outputs]) * others
     if hall.kind == "look":

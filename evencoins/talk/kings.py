@@ -1,18 +1,15 @@
 """Kings: a wall from lines. In phases of two rounds all free houses come to hold one value."""
 
-from evencoins.base.field import are_numbers
 from evencoins.errors import InvalidLies, InvalidWord
 from evencoins.talk.halls import check_house, check_lie_hall
-from evencoins.talk.letters import check_lot, is_plain, spoken
+from evencoins.talk.letters import DEEPEST, check_lot, is_plain, is_plain_within
 
 MOST_VALUES = 9
 
 
 def are_plain(value, least, most):
-    """Whether the value is a tuple of so many plain values."""
-    if not isinstance(value, tuple) or not least <= len(value) <= most:
-        return False
-    return all([is_plain(part) for part in value])
+    """Whether the value is a tuple of so many plain values: so it is itself plain, but for one level more."""
+    return isinstance(value, tuple) and least <= len(value) <= most and is_plain_within(value, DEEPEST + 1)
 
 
 def check_values(value, least, most):
@@ -21,34 +18,48 @@ def check_values(value, least, most):
         raise InvalidWord("not so many plain values")
 
 
-def are_lies(hall, lot, last, value):
-    """Whether the value is a dict of lies for so many rounds over lines."""
-    if not isinstance(value, dict):
+def is_lie_key(last, houses, lot, value):
+    """Whether the value is a round up to the last one, a house of the lot, and another house."""
+    if not isinstance(value, tuple) or len(value) != 3:
         return False
-    bound = max(last, hall.houses) + 1
+    number, sender, goal = value
+    # True is no round and no house, and equals 1.
+    if number is True or sender is True or goal is True or sender not in lot or goal == sender:
+        return False
+    return isinstance(number, int) and isinstance(goal, int) and 1 <= number <= last and 1 <= goal <= houses
+
+
+def lies_by_rounds(hall, lot, last, value):
+    """The dict from rounds to the lists of their lies, of a dict of lies for so many rounds over lines; else None."""
+    if not isinstance(value, dict):
+        return None
+    houses = hall.houses
+    found = {}
     for key, told in value.items():
-        if not are_numbers(bound, key) or len(key) != 3:
-            return False
+        if not is_lie_key(last, houses, lot, key) or not is_plain_within(told, DEEPEST):
+            return None
         number, sender, goal = key
-        if not 1 <= number <= last or sender not in lot or goal == sender or not 1 <= goal <= hall.houses:
-            return False
-        if not is_plain(told):
-            return False
-    return True
+        if number in found:
+            found[number].append((sender, goal, told))
+        else:
+            found[number] = [(sender, goal, told)]
+    return found
 
 
-def check_foe(hall, lot, last, lies):
-    """Refuse what is no lot with lies for so many rounds."""
+def checked_lies(hall, lot, last, lies):
+    """The lies by rounds; what is no lot with lies for so many rounds is refused."""
     check_lot(hall, lot)
-    if not are_lies(hall, lot, last, lies):
+    found = lies_by_rounds(hall, lot, last, lies)
+    if found is None:
         raise InvalidLies("not lies for these rounds")
+    return found
 
 
-def check_start(hall, values, lot, lies):
-    """Refuse what houses can't begin with."""
+def checked_start(hall, values, lot, lies):
+    """The lies by rounds; what houses can't begin with is refused."""
     check_lie_hall(hall)
     check_values(values, hall.houses, hall.houses)
-    check_foe(hall, lot, 2 * hall.most + 2, lies)
+    return checked_lies(hall, lot, 2 * hall.most + 2, lies)
 
 
 def most_of(values):
@@ -69,7 +80,7 @@ def most_of(values):
 def most_in_columns(rows):
     """For each place the most heard one of what all rows have there, with how many have it."""
     first = rows[0]
-    if all([row == first for row in rows]):
+    if rows.count(first) == len(rows):
         return tuple([(value, len(rows)) for value in first])
     return tuple([most_of(column) for column in zip(*rows)])
 
@@ -81,9 +92,9 @@ def most_heard(values):
 
 
 def held_behind(hall, heard, told):
-    """What a house holds that has a pair of its most heard value and their number, and heard this from the king."""
-    value, many = heard
-    return value if 2 * many > hall.houses + 2 * hall.most else told
+    """What is held of each of some pairs of a most heard value and of how many told it, and of what the king told."""
+    sure = hall.houses + 2 * hall.most
+    return tuple([value if 2 * many > sure else part for (value, many), part in zip(heard, told)])
 
 
 def kept(hall, heard, told):
@@ -92,38 +103,47 @@ def kept(hall, heard, told):
     check_values(heard, hall.houses, hall.houses)
     if not is_plain(told):
         raise InvalidWord("not a plain value")
-    return held_behind(hall, most_of(heard), told)
+    return held_behind(hall, [most_of(heard)], [told])[0]
 
 
-def told_to(values, lot, number, goal, lies):
-    """What all houses, which hold these values, tell a house in a round: those of the lot what the lies tell."""
-    told = list(values)
-    for sender in lot:
-        if (number, sender, goal) in lies:
-            told[sender - 1] = lies[(number, sender, goal)]
-    return told
+def told_otherwise(values, lies):
+    """The dict from the houses that hear a lie to the lists of what all houses, which hold these values, tell them."""
+    found = {}
+    for sender, goal, value in lies:
+        if goal not in found:
+            found[goal] = list(values)
+        found[goal][sender - 1] = value
+    return found
 
 
-def next_values(hall, values, number, king, lot, lies):
-    """What all houses hold behind a phase that begins with the round of this number."""
-    heard = [most_of(told_to(values, lot, number, goal, lies)) for goal in hall.places]
-    word = heard[king - 1][0]
-    told = [spoken(lies, number + 1, king, goal, word) for goal in hall.places]
-    return tuple([held_behind(hall, pair, value) for pair, value in zip(heard, told)])
+def next_values(hall, values, number, king, lied):
+    """What all houses hold behind a phase that begins with the round of this number; `lied` has the lies by rounds."""
+    many = len(values)
+    heard = [most_of(values)] * many
+    if number in lied:
+        for goal, row in told_otherwise(values, lied[number]).items():
+            heard[goal - 1] = most_of(row)
+    told = [heard[king - 1][0]] * many
+    if number + 1 in lied:
+        for sender, goal, value in lied[number + 1]:
+            # What others say for the king does nothing.
+            if sender == king:
+                told[goal - 1] = value
+    return held_behind(hall, heard, told)
 
 
-def all_phases(hall, values, first, lot, lies):
+def all_phases(hall, values, first, lied):
     """What all houses hold at the beginning and behind each phase, the rounds being counted from the first one."""
     rows = [values]
     for king in range(1, hall.most + 2):
-        rows.append(next_values(hall, rows[-1], first + 2 * king - 2, king, lot, lies))
+        rows.append(next_values(hall, rows[-1], first + 2 * king - 2, king, lied))
     return tuple(rows)
 
 
 def phases(hall, values, lot, lies):
     """The tuple of what all houses hold at the beginning and behind each phase."""
-    check_start(hall, values, lot, lies)
-    return all_phases(hall, values, 1, lot, lies)
+    lied = checked_start(hall, values, lot, lies)
+    return all_phases(hall, values, 1, lied)
 
 
 def free_houses(hall, lot):
@@ -133,8 +153,8 @@ def free_houses(hall, lot):
 
 def agreed(hall, values, lot, lies):
     """What the free houses hold at the end."""
-    check_start(hall, values, lot, lies)
-    return all_phases(hall, values, 1, lot, lies)[-1][free_houses(hall, lot)[0] - 1]
+    lied = checked_start(hall, values, lot, lies)
+    return all_phases(hall, values, 1, lied)[-1][free_houses(hall, lot)[0] - 1]
 
 
 def walled(hall, house, text, lot, lies):
@@ -142,32 +162,35 @@ def walled(hall, house, text, lot, lies):
     check_lie_hall(hall)
     check_house(hall, house)
     check_values((text,), 1, 1)
-    check_foe(hall, lot, 2 * hall.most + 3, lies)
-    values = tuple([spoken(lies, 1, house, goal, text) for goal in hall.places])
-    return all_phases(hall, values, 2, lot, lies)[-1][free_houses(hall, lot)[0] - 1]
+    lied = checked_lies(hall, lot, 2 * hall.most + 3, lies)
+    values = [text] * hall.houses
+    for sender, goal, value in lied.get(1, ()):
+        if sender == house:
+            values[goal - 1] = value
+    return all_phases(hall, tuple(values), 2, lied)[-1][free_houses(hall, lot)[0] - 1]
 
 
 def are_settled(free, values):
     """Whether all free houses hold one value."""
-    first = values[free[0] - 1]
-    return all([values[house - 1] == first for house in free])
+    held = [values[house - 1] for house in free]
+    return held.count(held[0]) == len(held)
 
 
-def phases_to_settle(hall, values, lot, lies):
+def phases_to_settle(hall, values, lot, lied):
     """The number of phases behind which the free houses are settled, the first time; there always is one."""
     free = free_houses(hall, lot)
     row = values
     many = 0
     while not are_settled(free, row):
         many += 1
-        row = next_values(hall, row, 2 * many - 1, many, lot, lies)
+        row = next_values(hall, row, 2 * many - 1, many, lied)
     return many
 
 
 def settling(hall, values, lot, lies):
     """The least number of phases behind which the free houses are settled."""
-    check_start(hall, values, lot, lies)
-    return phases_to_settle(hall, values, lot, lies)
+    lied = checked_start(hall, values, lot, lies)
+    return phases_to_settle(hall, values, lot, lied)
 
 
 def latest(hall, lot):
@@ -194,6 +217,7 @@ def is_late_paper(hall, lot, value):
     if not isinstance(value, tuple) or len(value) != 2:
         return False
     values, lies = value
-    if not are_plain(values, hall.houses, hall.houses) or not are_lies(hall, lot, 2 * hall.most + 2, lies):
+    if not are_plain(values, hall.houses, hall.houses):
         return False
-    return phases_to_settle(hall, values, lot, lies) == last
+    lied = lies_by_rounds(hall, lot, 2 * hall.most + 2, lies)
+    return lied is not None and phases_to_settle(hall, values, lot, lied) == last

@@ -16,17 +16,18 @@ LIE_WORDS = ("rows", "points", "complaints", "answers", "votes", "syndromes", "o
 def is_plain_within(value, deep):
     """Whether the value is plain, with tuples nested at most so deep."""
     if isinstance(value, int):
-        return not isinstance(value, bool) and LEAST_PLAIN <= value <= MOST_PLAIN
+        return value is not True and value is not False and LEAST_PLAIN <= value <= MOST_PLAIN
     if not isinstance(value, tuple):
         return value is None
     if deep == 0 or len(value) > MOST_MEMBERS:
         return False
     for part in value:
         if isinstance(part, int):
-            if isinstance(part, bool) or not LEAST_PLAIN <= part <= MOST_PLAIN:
+            if part is True or part is False or not LEAST_PLAIN <= part <= MOST_PLAIN:
                 return False
         elif isinstance(part, tuple):
-            if not is_plain_within(part, deep - 1):
+            # Most texts are empty.
+            if (part or deep == 1) and not is_plain_within(part, deep - 1):
                 return False
         elif part is not None:
             return False
@@ -198,22 +199,35 @@ def right_letter(hall, circuit, word, batch, sender, goal, value):
     return counted(hall, word, pairs, members_of(circuit, word, batch, pairs, sender, goal), sender, value)
 
 
-def is_lie_key(hall, plan, lot, value):
-    """Whether the value is a round of the plan, a house of the lot, and whom it tells something there."""
-    if not are_numbers(max(len(plan), hall.houses) + 1, value) or len(value) != 3:
+def is_lie_key(walls, houses, lot, value):
+    """Whether the value is a round, a house of the lot, and whom it tells something there.
+
+    `walls` tells of all rounds whether they are on the wall.
+    """
+    if not is_triple(value):
         return False
     number, sender, goal = value
-    if not 1 <= number <= len(plan) or sender not in lot or goal > hall.houses or goal == sender:
+    # True and False are no rounds and no houses, and equal 1 and 0.
+    if number is True or sender is True or goal is True or goal is False or sender not in lot or goal == sender:
         return False
-    return (goal == 0) == (plan[number - 1][0] in WALL_WORDS)
+    if not isinstance(number, int) or not isinstance(goal, int):
+        return False
+    return 1 <= number <= len(walls) and 0 <= goal <= houses and (goal == 0) == walls[number - 1]
+
+
+def walls_of(plan):
+    """The list that tells of all rounds of a plan whether they are on the wall."""
+    return [entry[0] in WALL_WORDS for entry in plan]
 
 
 def are_lies_of(hall, plan, lot, value):
     """Whether the value is a table of lies of a lot for the talk of this plan."""
     if not isinstance(value, dict) or len(value) > (0 if hall.kind == "look" else MOST_LIES):
         return False
+    houses = hall.houses
+    walls = walls_of(plan) if value else []
     for key, told in value.items():
-        if not is_lie_key(hall, plan, lot, key) or not is_plain(told):
+        if not is_lie_key(walls, houses, lot, key) or not is_plain_within(told, DEEPEST):
             return False
     return True
 

@@ -1,6 +1,6 @@
 """Products of shares: own ones, the new shares, syndromes and the errors that they tell."""
 
-from evencoins.base.field import are_numbers, check_integer, is_integer, sum_of_products
+from evencoins.base.field import are_numbers, check_integer, is_integer
 from evencoins.errors import InvalidOperation, InvalidWord
 from evencoins.talk.halls import check_hall, check_talk, is_house
 
@@ -45,17 +45,12 @@ def local_products(hall, circuit, level, shares):
     return own_products(hall, circuit, level, shares)
 
 
-def syndromes_in(hall, dealt):
-    """The shares of the syndromes of a dealt word that is known to be one."""
-    return tuple([sum_of_products(hall.field, row, dealt) for row in hall.gauge.checks])
-
-
 def syndromes_of(hall, dealt):
     """The shares of the syndromes of a dealt word."""
     check_hall(hall)
     check_numbers(hall, dealt, hall.houses)
     check_lying(hall)
-    return syndromes_in(hall, dealt)
+    return hall.gauge.syndromes_of(dealt)
 
 
 def errors_told(hall, told):
@@ -64,13 +59,6 @@ def errors_told(hall, told):
     check_numbers(hall, told, hall.houses - 2 * hall.most - 1)
     check_lying(hall)
     return hall.gauge.errors_with(told, hall.most)
-
-
-def share_without(hall, dealt, errors):
-    """The new share, by the weights, of a dealt word without its errors."""
-    factors = hall.gauge.factors
-    lacking = sum([factors[place - 1] * errors[place] for place in errors])
-    return (sum_of_products(hall.field, factors, dealt) - lacking) % hall.field
 
 
 def are_errors(hall, value):
@@ -86,7 +74,7 @@ def product_share(hall, dealt, errors):
     check_numbers(hall, dealt, hall.houses)
     if not are_errors(hall, errors):
         raise InvalidOperation("not a dict of errors")
-    return share_without(hall, dealt, errors)
+    return hall.gauge.product_of(dealt, errors)
 
 
 def opened_number(hall, word):

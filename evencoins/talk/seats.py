@@ -2,12 +2,12 @@
 
 from evencoins.errors import UnknownName
 from evencoins.plan.circuits import gate_number, looked_at
-from evencoins.talk.dealing import answer_text, complaint_text, dealt_letters, held_shares, own_squares, point_letters
-from evencoins.talk.dealing import taken_by, vote_text
+from evencoins.talk.dealing import answer_text, answered_rows, are_blank, complaint_text, dealt_letters, held_shares
+from evencoins.talk.dealing import open_disputes, own_rows, point_letters, taken_by, texts_of, vote_text
 from evencoins.talk.halls import WALL_WORDS
 from evencoins.talk.kings import held_behind, most_in_columns
-from evencoins.talk.letters import has_form, is_plain
-from evencoins.talk.products import own_products, share_without, syndromes_in
+from evencoins.talk.letters import DEEPEST, has_form, is_plain_within
+from evencoins.talk.products import own_products
 
 # The rules that a house can leave out.
 RULE_WORDS = ("coins", "degree", "complaints", "answers", "votes", "errors", "nearest", "king", "bound")
@@ -30,51 +30,59 @@ def gate_shares(field, gates, known):
     return found
 
 
+def first_spots(houses):
+    """For each input of the houses the pair of its house and of its place among the own ones of this house."""
+    many = {}
+    found = []
+    for house in houses:
+        place = many.get(house, 0)
+        found.append((house, place))
+        many[house] = place + 1
+    return found
+
+
+def all_spots(hall, circuit):
+    """For each batch and each of its dealings the pair of the dealer, and of its place among the dealer's own ones."""
+    others = [[(house, place) for place in range(len(level)) for house in hall.places] for level in circuit.levels]
+    return [first_spots(circuit.houses)] + others
+
+
 class Seat:
     """A house of a talk with its inputs and coins: all that what it says hangs on, but for what it hears.
 
-    What it knows ahead of a round is its memory, a dict. None ever changes.
+    What it knows ahead of a round is its memory, a dict that never changes: the round, whether there is none, shares,
+    dealings and outputs so far, the entry of the round in the plan, what it says there, and what it keeps from the
+    rounds ahead.
     """
 
     def __init__(self, talk, number, inputs, coins):
         self._talk = talk
-        self._hall = talk.hall
+        self._hall = talk.room
         self.own = number
         self._given = inputs
         self._drawn = coins
-
-    @property
-    def hall(self):
-        """The hall."""
-        return self._hall
-
-    def __eq__(self, other):
-        if not isinstance(other, Seat) or self._talk != other._talk or self.own != other.own:
-            return False
-        return self._given == other._given and self._drawn == other._drawn
-
-    def first_memory(self):
-        """The memory ahead of the first round."""
-        return self.prepared({"round": 1, "over": False, "shares": {}, "dealings": (), "outputs": {}})
+        self._spots = all_spots(talk.room, talk.net)
 
     def secrets_at(self, memory):
         """The numbers that it deals in the batch of the round that comes next."""
-        batch = None if memory["over"] else self._talk.plan[memory["round"] - 1][1]
+        batch = None if memory["over"] else memory["entry"][1]
         return () if batch is None else self.secrets_in(batch, memory["shares"])
 
     def secrets_in(self, batch, shares):
         """The numbers that it deals in a batch."""
         if batch == 0:
             return self._given
-        return own_products(self._hall, self._talk.circuit, batch - 1, shares)
+        return own_products(self._hall, self._talk.net, batch - 1, shares)
 
     def prepared(self, memory):
-        """A new memory, with what the house says in the round that comes next put to it."""
+        """A new memory: the entry of the round that comes next, and what the house says there, are put to it."""
         if memory["round"] > len(self._talk.plan):
             memory["over"] = True
             return memory
-        word, batch, text, phase = self._talk.plan[memory["round"] - 1]
+        entry = self._talk.plan[memory["round"] - 1]
+        word, batch, text, phase = entry
         is_text = word in WALL_WORDS
+        memory["entry"] = entry
         memory["letters"] = {} if is_text else self.letters_in(memory, word, batch, text, phase)
         memory["text"] = self.text_in(memory, text, batch) if is_text else None
         return memory
@@ -82,17 +90,21 @@ class Seat:
     def text_in(self, memory, word, batch):
         """Its text that all see."""
         if word == "complaints":
-            if self._talk.without == "complaints":
+            if self._talk.lacks == "complaints":
                 return ()
             return complaint_text(self._hall, memory["made"], memory["points"], self.own)
         if word == "votes":
-            return vote_text(self._hall, memory["rows"], memory["complaints"], memory["answers"], self.own)
-        if not any([complaints != () for complaints in list(memory["complaints"].values())]):
+            if are_blank(memory["complaints"]) and are_blank(memory["answers"]):
+                return (1,) * len(memory["rows"])
+            answered = answered_rows(memory["answers"])
+            quarrels = open_disputes(memory["complaints"], answered)
+            return vote_text(self._hall, memory["rows"], answered, quarrels, self.own)
+        if are_blank(memory["complaints"]):
             return ()
         secrets = self.secrets_in(batch, memory["shares"])
         coins = self._talk.coins_at(batch, self.own, self._drawn)
-        squares = own_squares(self._hall, self._talk.batches[batch], secrets, coins, self.own)
-        return answer_text(self._hall, squares, memory["complaints"])
+        dealt = own_rows(self._hall, self._talk.batches[batch], secrets, coins, self.own)
+        return answer_text(self._hall, dealt, memory["complaints"])
 
     def letters_in(self, memory, word, batch, text, phase):
         """Its letters to all houses, to itself too."""
@@ -105,7 +117,7 @@ class Seat:
         if word == "outputs":
             return {goal: self.output_shares(memory, goal) for goal in self._hall.places}
         if word == "syndromes":
-            letter = tuple([syndromes_in(self._hall, dealt) for dealt in memory["fresh"]])
+            letter = tuple([self._hall.gauge.syndromes_of(dealt) for dealt in memory["fresh"]])
         elif word == "say":
             letter = self.text_in(memory, text, batch)
         elif word == "tell":
@@ -116,24 +128,25 @@ class Seat:
 
     def output_shares(self, memory, goal):
         """Its shares of the outputs that a house is told."""
-        outputs = self._talk.circuit.outputs
+        outputs = self._talk.net.outputs
         return tuple([memory["shares"][outputs[index][0]] for index in self._talk.goals[goal]])
 
     def counted_from(self, memory, sender, value):
         """What counts of a plain value that a house told in the round that comes next."""
-        word, batch, text, phase = self._talk.plan[memory["round"] - 1]
-        if word in ("tell", "king"):
-            # What equals the texts that the house holds has their forms. Nobody asks what others say for the king.
-            is_known = value == memory["held"] or word == "king" and sender != phase
-            return value if is_known else self._talk.texts_counted(text, batch, value)
-        return self._talk.counted(text if word == "say" else word, batch, sender, self.own, value)
+        texts = ()
+        if memory["entry"][0] in ("tell", "king"):
+            # What equals the texts that the house holds has their forms.
+            texts = memory["held"]
+            if value == texts:
+                return value
+        return self._talk.counted_at(memory["round"], sender, self.own, value, texts)
 
     def counted_of_all(self, memory, told):
         """The dict from all houses to what counts of what they told, its own part being as it made it.
 
         It is None if something told is not plain; what has the right form always is.
         """
-        word, batch, text, phase = self._talk.plan[memory["round"] - 1]
+        word, batch, text, phase = memory["entry"]
         name = text if word == "say" else word
         in_form = word not in ("tell", "king")
         pairs = () if batch is None else self._talk.batches[batch]
@@ -144,22 +157,22 @@ class Seat:
             value = told.get(sender)
             if in_form and sender != own and has_form(hall, name, pairs, many, sender, value):
                 found[sender] = value
-            elif not is_plain(value):
+            elif not is_plain_within(value, DEEPEST):
                 return None
             elif sender != own:
                 found[sender] = self.counted_from(memory, sender, value)
-        found[self.own] = memory["letters"][self.own] if memory["text"] is None else memory["text"]
+        found[own] = memory["letters"][own] if memory["text"] is None else memory["text"]
         return found
 
     def behind(self, memory, heard):
         """The memory behind the round that comes next; `heard` has what counts for it of what each house told."""
-        word, batch, text, phase = self._talk.plan[memory["round"] - 1]
+        word, batch, text, phase = memory["entry"]
         if word == "tell":
             news = {"heard": most_in_columns([heard[sender] for sender in self._hall.places])}
         elif word == "king":
             news = self.behind_king(memory, batch, text, phase, heard[phase])
         elif word in WALL_WORDS:
-            news = self.read(memory, word, batch, heard)
+            news = self.read(memory, word, batch, texts_of(self._hall, heard))
         else:
             news = self.listened(memory, word, batch, heard)
         return self.prepared({**memory, **news, "round": memory["round"] + 1})
@@ -180,32 +193,32 @@ class Seat:
 
     def in_sequence(self, batch, heard):
         """What was told of each dealing of a batch, by its dealer."""
-        return tuple([heard[dealer][place] for dealer, place in self._talk.spots[batch]])
+        return tuple([heard[dealer][place] for dealer, place in self._spots[batch]])
 
     def behind_king(self, memory, batch, text, phase, told):
         """What it knows more behind a phase of kings, in which the king told these texts."""
         held = memory["held"]
         is_last = phase == self._hall.most + 1
-        if not is_last or self._talk.without != "king":
-            held = tuple([held_behind(self._hall, pair, part) for pair, part in zip(memory["heard"], told)])
+        if not is_last or self._talk.lacks != "king":
+            held = held_behind(self._hall, memory["heard"], told)
         if not is_last:
             return {"held": held}
-        return self.read(memory, text, batch, {sender: part for sender, part in zip(self._hall.places, held)})
+        return self.read(memory, text, batch, held)
 
     def read(self, memory, word, batch, texts):
-        """What it knows more when it has read the texts of all houses."""
+        """What it knows more when it holds these texts of all houses."""
         if word != "votes":
             return {word: texts}
         many = len(self._talk.batches[batch])
-        taken = (1,) * many if self._talk.without == "votes" else taken_by(self._hall, texts)
-        answers = {} if self._talk.without == "answers" else memory["answers"]
-        return self.closed(memory, batch, held_shares(memory["rows"], answers, taken, self.own), taken)
+        taken = (1,) * many if self._talk.lacks == "votes" else taken_by(self._hall, texts)
+        answered = {} if self._talk.lacks == "answers" else answered_rows(memory["answers"])
+        return self.closed(memory, batch, held_shares(memory["rows"], answered, taken, self.own), taken)
 
     def closed(self, memory, batch, shares, taken):
         """What it knows more when it has a share of each dealing of a batch; `taken` is None if all are."""
         news = {"dealings": memory["dealings"] + ((shares, taken),)}
         if batch == 0:
-            return {**news, "shares": self.with_known(memory, dict(zip(self._talk.circuit.inputs, shares)))}
+            return {**news, "shares": self.with_known(memory, dict(zip(self._talk.net.inputs, shares)))}
         # All houses deal for one product, and then for the next one.
         many = self._hall.houses
         words = [shares[first:first + many] for first in range(0, len(shares), many)]
@@ -215,21 +228,21 @@ class Seat:
 
     def with_known(self, memory, known):
         """The shares of all gates, with some more of inputs or products."""
-        circuit = self._talk.circuit
+        circuit = self._talk.net
         return gate_shares(self._hall.field, circuit.gates, {**memory["shares"], **known})
 
     def with_products(self, memory, batch, words, errors):
         """The shares of all gates, with those of the products of a batch, by the words of dealt numbers."""
-        level = self._talk.circuit.levels[batch - 1]
-        if self._talk.without == "degree" and self._hall.kind == "look":
+        level = self._talk.net.levels[batch - 1]
+        if self._talk.lacks == "degree" and self._hall.kind == "look":
             return self.with_known(memory, dict(zip(level, self.secrets_in(batch, memory["shares"]))))
-        shares = [share_without(self._hall, word, off) for word, off in zip(words, errors)]
+        shares = [self._hall.gauge.product_of(word, off) for word, off in zip(words, errors)]
         return self.with_known(memory, dict(zip(level, shares)))
 
     def worked_out(self, memory, batch, heard):
         """What it knows more when it has heard all shares of the syndromes of a batch."""
         words = memory["fresh"]
-        if self._talk.without == "errors":
+        if self._talk.lacks == "errors":
             return {"shares": self.with_products(memory, batch, words, [{}] * len(words))}
         errors = [self.errors_at(at, heard) for at in range(len(words))]
         return {"shares": self.with_products(memory, batch, words, errors)}
@@ -242,7 +255,7 @@ class Seat:
 
     def opened(self, word):
         """The number that the shares of all houses open."""
-        if self._hall.kind == "look" or self._talk.without == "nearest":
+        if self._hall.kind == "look" or self._talk.lacks == "nearest":
             return self._hall.gauge.first_number(word)
         return self._hall.gauge.main_number(word, self._hall.most)
 

@@ -4,9 +4,9 @@ from evencoins.base.field import is_field, is_integer
 from evencoins.errors import ParseError
 from evencoins.plan.circuits import MAX_GATES, MAX_INPUTS, MAX_OUTPUTS, MAX_PRODUCTS, Circuit, are_inputs, indices_of
 from evencoins.plan.circuits import is_gate, is_output
-from evencoins.talk.courses import is_foe
+from evencoins.talk.given import is_foe
 from evencoins.talk.halls import KINDS, LEAST_HOUSES, MOST_HOUSES, Hall, needed_coins, plan_of
-from evencoins.talk.letters import MOST_LIES, is_lie_key
+from evencoins.talk.letters import MOST_LIES, is_lie_key, walls_of
 from evencoins.talk.seats import RULE_WORDS
 from evencoins.text.reading import numbers_in, plain_in
 
@@ -146,13 +146,15 @@ def plain_part(word):
 
 def lies_in(lines, hall, plan, lot):
     """The dict of all lies, up to the end of the text."""
+    walls = walls_of(plan)
     lies = {}
     ahead = (0, 0, 0)
     while lines.has_more():
         words = lines.next_words()
         key = numbers_in(words[1:4])
         lines.check(words[0] == "lie" and len(words) == 5 and key is not None)
-        lines.check(hall.kind == "lie" and len(lies) < MOST_LIES and is_lie_key(hall, plan, lot, key) and key > ahead)
+        lines.check(hall.kind == "lie" and len(lies) < MOST_LIES)
+        lines.check(is_lie_key(walls, hall.houses, lot, key) and key > ahead)
         told = plain_part(words[4])
         lines.step(told != ())
         lies[key] = told[0]

@@ -2,12 +2,18 @@
 
 from evencoins.errors import InvalidOperation, ParseError, Refused, TooMany
 from evencoins.judge.schemes import Scheme
+from evencoins.judge.sound import Facts
 from evencoins.plan.circuits import Circuit, check_circuit
+from evencoins.talk.courses import Course
+from evencoins.talk.frames import Frame
+from evencoins.talk.gauges import Fit, Gauge
 from evencoins.talk.halls import Hall
 from evencoins.talk.houses import House
 from evencoins.talk.letters import MOST_LIES, is_plain
 from evencoins.talk.runs import Run, check_run
-from evencoins.text.lines import circuit_of_text, parts_in
+from evencoins.talk.seats import Seat
+from evencoins.talk.talks import Talk
+from evencoins.text.lines import Lines, circuit_of_text, parts_in
 from evencoins.text.reading import plain_in
 from evencoins.watch.watches import Watch
 
@@ -117,8 +123,10 @@ def without_lie(run, key):
 
 
 def is_no_question(value):
-    """Whether the value is one of those that can't be asked."""
-    if value is None or isinstance(value, (int, str, tuple, list, dict)):
+    """Whether the value is one of those that can't be asked: objects of this package, too, can't be called."""
+    if value is None or isinstance(value, (int, str, tuple, list, dict, Exception)):
+        return True
+    if isinstance(value, (Gauge, Fit, Talk, Frame, Course, Seat, Facts, Lines)):
         return True
     return isinstance(value, (Hall, Circuit, House, Run, Scheme, Watch))
 
@@ -162,7 +170,8 @@ def told_lies(run):
     check_run(run)
     if run.hall.kind == "look":
         raise Refused(("look",))
-    lies = {key: letter for key, letter in run.letters.items() if key[1] in run.lot}
+    lot = run.lot
+    lies = {key: letter for key, letter in run.letters.items() if key[1] in lot}
     if len(lies) > MOST_LIES:
         raise TooMany(MOST_LIES)
     return with_lies(run, lies)

@@ -266,7 +266,7 @@ def numbers_told(watch, foe):
     hall = watch.hall
     for houses, shares in zip(seen_houses(foe), epoch_shares(watch)):
         if len(houses) > hall.most:
-            fit = Fit(hall.field, houses[:hall.most + 1], ())
+            fit = Fit(hall.field, hall.gauge.units, houses[:hall.most + 1], ())
             return tuple([fit.number_in(word) for word in shares])
     raise Refused(("even",))
 
